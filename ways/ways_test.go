@@ -6,7 +6,7 @@ import (
 )
 
 // landed is the last stage that was built.
-const landed = 1
+const landed = 2
 
 // The stages, in order: what they build, and the ways of the language that the document says it leans on.
 var stages = []struct{ faces, words string }{
@@ -46,7 +46,7 @@ var stages = []struct{ faces, words string }{
 
 // own tells which ways each package leans on by itself.
 var own = map[string]string{
-	"order": "variadic constant-table", "format": "closure", "code": "array", "pack": "variadic", "tell": "struct-compared", "stream": "label range-function",
+	"order": "variadic constant-table", "format": "closure", "code": "array struct-compared", "pack": "variadic", "tell": "struct-compared", "stream": "label range-function",
 	"ident": "variadic map", "stub": "map closure", "atom": "map constant-table", "prop": "closure copy", "held": "range-map map", "rect": "variadic struct-compared",
 	"band": "label range-function closure", "region": "closure function-field", "shape": "range-function", "gravity": "iota constant-table", "grid": "label copy", "rop": "closure",
 	"pen": "variadic function-field", "line": "range-function variadic closure", "arc": "range-function", "poly": "range-function variadic closure", "paint": "variadic closure", "blit": "label closure",
