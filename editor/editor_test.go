@@ -123,7 +123,7 @@ func TestEvents(t *testing.T) {
 	for _, x := range []struct {
 		y, h int64
 		rows []int
-	}{{0, 6, []int{0}}, {5, 2, []int{0, 1}}, {6, 12, []int{1, 2}}, {18, 9, nil}, {0, 99, []int{0, 1, 2}}, {0, 0, nil}} {
+	}{{0, 6, []int{0}}, {5, 2, []int{0, 1}}, {6, 12, []int{1, 2}}, {18, 9, nil}, {0, 99, []int{0, 1, 2}}, {0, 0, nil}, {3, 0, nil}} {
 		_, l := steps(t, e, event(api.EvExpose, window, 0, x.y, 5, x.h, 0))
 		var rows []string
 		for _, y := range x.rows {
