@@ -6,6 +6,7 @@ import (
 	"slices"
 
 	"glazier/api"
+	"glazier/copies"
 	"glazier/ident"
 	"glazier/pack"
 	"glazier/world"
@@ -30,23 +31,9 @@ type Deed func(a Ask) (world.World, []api.Send)
 
 // Copy tells the world with maps of its own, none nil.
 func Copy(w world.World) world.World {
-	w.Props = copyMap(w.Props)
-	w.Fonts = copyMap(w.Fonts)
-	w.Over = copyMap(w.Over)
-	w.Clients = copyMap(w.Clients)
-	w.Pens = copyMap(w.Pens)
-	for _, id := range slices.Collect(maps.Keys(w.Pens)) {
-		p := w.Pens[id]
-		p.Clip = slices.Clone(p.Clip)
-		w.Pens[id] = p
-	}
+	w.Props, w.Pens, w.Fonts = copies.Map(w.Props), copies.Pens(w.Pens), copies.Map(w.Fonts)
+	w.Over, w.Clients = copies.Map(w.Over), copies.Map(w.Clients)
 	return w
-}
-
-func copyMap[K comparable, V any](m map[K]V) map[K]V {
-	n := map[K]V{}
-	maps.Copy(n, m)
-	return n
 }
 
 // Do does a request by its code; false of a code that none of the deeds has.

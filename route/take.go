@@ -39,6 +39,8 @@ func kindOf(n int) (kind, bool) {
 // bit tells the bit of a button, or of a key that is a mod; 0 of others.
 func (k kind) bit(code int) int {
 	switch {
+	case code < k.least || code > k.most:
+		return 0
 	case k.button:
 		return 1 << (code - 1)
 	case !k.pointer && code >= firstMod:

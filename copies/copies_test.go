@@ -1,0 +1,22 @@
+package copies
+
+import (
+	"testing"
+
+	"glazier/api"
+	"glazier/pen"
+)
+
+func TestCopies(t *testing.T) {
+	m := map[int]string{1: "a"}
+	n := Map(m)
+	n[1], n[2] = "b", "c"
+	if len(m) != 1 || m[1] != "a" || Map[int, int](nil) == nil || Pens(nil) == nil {
+		t.Error("Map")
+	}
+	p := map[api.ID]pen.Pen{5: {Clipped: true, Clip: []api.Rect{{W: 1}}}}
+	Pens(p)[5].Clip[0].W = 9
+	if p[5].Clip[0].W != 1 || !pen.Same(Pens(p)[5], p[5]) {
+		t.Error("Pens")
+	}
+}
