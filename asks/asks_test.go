@@ -1,23 +1,24 @@
-package asks
+package asks_test
 
 import (
 	"slices"
 	"testing"
 
 	"glazier/api"
+	"glazier/asks"
 	"glazier/world"
 )
 
 func TestLooks(t *testing.T) {
 	w, _ := world.New(4, 4, 1)
 	w.Clients[1] = true
-	a := Ask{w, 1, api.Request{Code: api.ReqMapWindow, N: []int64{1, 7, 0, 200}}}
+	a := asks.Ask{w, 1, api.Request{Code: api.ReqMapWindow, N: []int64{1, 7, 0, 200}}}
 	for i, x := range []struct {
-		looks []Look
+		looks []asks.Look
 		bad   int
 		value int64
 	}{
-		{[]Look{a.Window(0)}, 0, 0}, {[]Look{a.Window(0), a.Window(1), a.NotRoot(0)}, api.BadWindow, 7}, {[]Look{a.NotRoot(0)}, api.BadMatch, 1}, {[]Look{a.Granted(0)}, api.BadAccess, 1}, {[]Look{a.GrantedAs(0, api.ReqCreateWindow)}, 0, 0}, {[]Look{a.YesNo(2), a.YesNo(1)}, api.BadValue, 7}, {[]Look{a.Side(2)}, api.BadValue, 0}, {[]Look{a.Side(3)}, api.BadValue, 200}, {[]Look{a.From(1, 7, 7), If(false, a.Side(3))}, 0, 0}, {[]Look{If(true, a.Side(3))}, api.BadValue, 200}, {nil, 0, 0},
+		{[]asks.Look{a.Window(0)}, 0, 0}, {[]asks.Look{a.Window(0), a.Window(1), a.NotRoot(0)}, api.BadWindow, 7}, {[]asks.Look{a.NotRoot(0)}, api.BadMatch, 1}, {[]asks.Look{a.Granted(0)}, api.BadAccess, 1}, {[]asks.Look{a.GrantedAs(0, api.ReqCreateWindow)}, 0, 0}, {[]asks.Look{a.YesNo(2), a.YesNo(1)}, api.BadValue, 7}, {[]asks.Look{a.Side(2)}, api.BadValue, 0}, {[]asks.Look{a.Side(3)}, api.BadValue, 200}, {[]asks.Look{a.From(1, 7, 7), asks.If(false, a.Side(3))}, 0, 0}, {[]asks.Look{asks.If(true, a.Side(3))}, api.BadValue, 200}, {nil, 0, 0},
 	} {
 		said, bad := a.First(x.looks...)
 		if bad != (x.bad != 0) || bad && !(said[0].Out.Code == x.bad && slices.Equal(said[0].Out.N, []int64{x.value, api.ReqMapWindow})) {
@@ -27,27 +28,27 @@ func TestLooks(t *testing.T) {
 	if a.ID(1) != 7 || a.Atom(1) != 7 || a.N(3) != 200 || !a.Is(0) || a.Is(1) || !a.Has(1, 4) || a.Has(1, 8) {
 		t.Error("numbers")
 	}
-	if l := Rects([]int64{1, 2, 3, 4, 5, 6, 7}); len(l) != 1 || l[0] != (api.Rect{X: 1, Y: 2, W: 3, H: 4}) {
+	if l := asks.Rects([]int64{1, 2, 3, 4, 5, 6, 7}); len(l) != 1 || l[0] != (api.Rect{X: 1, Y: 2, W: 3, H: 4}) {
 		t.Error("Rects", l)
 	}
 }
 
 func TestDo(t *testing.T) {
 	w, _ := world.New(4, 4, 1)
-	deeds := map[int]Deed{58: func(a Ask) (world.World, []api.Send) {
+	deeds := map[int]asks.Deed{58: func(a asks.Ask) (world.World, []api.Send) {
 		a.World.Over[1] = true
 		return a.World, nil
 	}, 2: nil}
-	u, said, ok := Do(deeds, w, 1, api.Request{Code: 58})
+	u, said, ok := asks.Do(deeds, w, 1, api.Request{Code: 58})
 	if !ok || len(said) != 0 || !u.Over[1] || w.Over[1] {
 		t.Error("Do")
 	}
-	u, said, ok = Do(deeds, w, 1, api.Request{Code: 58, B: "a"})
+	u, said, ok = asks.Do(deeds, w, 1, api.Request{Code: 58, B: "a"})
 	if !ok || len(said) != 1 || said[0].Out.Code != api.BadLength || u.Over[1] {
 		t.Error("BadLength")
 	}
-	_, said, ok = Do(deeds, world.World{}, 1, api.Request{Code: 9})
-	if ok || len(said) != 0 || !slices.Equal(Codes(deeds), []int{2, 58}) {
+	_, said, ok = asks.Do(deeds, world.World{}, 1, api.Request{Code: 9})
+	if ok || len(said) != 0 || !slices.Equal(asks.Codes(deeds), []int{2, 58}) {
 		t.Error("other code")
 	}
 }

@@ -1,4 +1,4 @@
-package atom
+package atom_test
 
 import (
 	"slices"
@@ -7,6 +7,7 @@ import (
 	"testing"
 
 	"glazier/api"
+	"glazier/atom"
 )
 
 func want[T comparable](t *testing.T, what string, got, wanted T) {
@@ -18,7 +19,7 @@ func want[T comparable](t *testing.T, what string, got, wanted T) {
 
 // P9.1, P9.3
 func TestIntern(t *testing.T) {
-	var z Table
+	var z atom.Table
 	_, a, e := z.Intern("incr", false)
 	want(t, "incr", a == 7 && e == api.OK, true)
 	_, a, e = z.Intern("x", true)
@@ -48,7 +49,7 @@ func TestIntern(t *testing.T) {
 
 // P9.1, P9.3
 func TestFull(t *testing.T) {
-	var u Table
+	var u atom.Table
 	for i := 11; i <= 1024; i++ {
 		var a api.Atom
 		var e api.Errno
@@ -71,14 +72,14 @@ func TestFull(t *testing.T) {
 // P9.2
 func TestNames(t *testing.T) {
 	l := strings.Fields("primary secondary clipboard string integer atoms incr title transfer close")
-	want(t, "Known", slices.Equal(Known(), l), true)
-	var z Table
+	want(t, "Known", slices.Equal(atom.Known(), l), true)
+	var z atom.Table
 	want(t, "All", slices.Equal(z.All(), l), true)
 	for _, a := range []api.Atom{0, 11, 1 << 31} {
 		n, ok := z.Name(a)
 		want(t, "Name", n == "" && !ok, true)
 	}
-	Known()[0], z.All()[0] = "a", "b"
+	atom.Known()[0], z.All()[0] = "a", "b"
 	n, _ := z.Name(api.Primary)
-	want(t, "shared", n+Known()[0], "primaryprimary")
+	want(t, "shared", n+atom.Known()[0], "primaryprimary")
 }

@@ -1,4 +1,4 @@
-package band
+package band_test
 
 import (
 	"math"
@@ -7,6 +7,7 @@ import (
 	"testing"
 
 	"glazier/api"
+	"glazier/band"
 )
 
 type r = api.Rect
@@ -24,25 +25,25 @@ func want[T comparable](t *testing.T, what string, got, wanted T) {
 
 // P13.1
 func TestOf(t *testing.T) {
-	a := Of(rc(0, 0, 4, 2), rc(2, 1, 4, 2))
+	a := band.Of(rc(0, 0, 4, 2), rc(2, 1, 4, 2))
 	want(t, "Rects", slices.Equal(a.Rects(), []r{rc(0, 0, 4, 1), rc(0, 1, 6, 1), rc(2, 2, 4, 1)}), true)
 	want(t, "Area", a.Area(), 14)
 	want(t, "Box", a.Box(), rc(0, 0, 6, 3))
 	want(t, "Empty", a.Empty(), false)
 	want(t, "Has", a.Has(0, 1) && a.Has(5, 2) && !a.Has(0, 2) && !a.Has(5, 0) && !a.Has(6, 1) && !a.Has(3, 3) && !a.Has(3, -1), true)
 	for _, x := range []r{rc(0, 0, 0, 1), rc(0, 0, 1, 0), rc(0, 0, -1, 1), rc(-m-1, 0, 2, 1), rc(m, 0, 1, 1), rc(0, m-1, 1, 2), rc(math.MaxInt, 0, math.MaxInt, 1), rc(0, math.MinInt, 1, math.MaxInt)} {
-		b := Of(x)
+		b := band.Of(x)
 		want(t, "no places", b.Empty() && b.Area() == 0 && b.Box() == r{} && len(b.Rects()) == 0 && !b.Has(x.X, x.Y), true)
-		want(t, "Canon", Canon(x), false)
-		want(t, "Of", Same(Of(x, rc(0, 0, 1, 1)), Of(rc(0, 0, 1, 1))), true)
+		want(t, "Canon", band.Canon(x), false)
+		want(t, "Of", band.Same(band.Of(x, rc(0, 0, 1, 1)), band.Of(rc(0, 0, 1, 1))), true)
 	}
-	want(t, "all", Of(rc(-m, -m, 2*m, 2*m)).Area(), 4*m*m)
-	want(t, "a gap", slices.Equal(Of(rc(0, 0, 1, 1), rc(0, 2, 1, 1)).Rects(), []r{rc(0, 0, 1, 1), rc(0, 2, 1, 1)}), true)
-	want(t, "touching bands", len(Of(rc(0, 0, 1, 1), rc(0, 1, 1, 5)).Rects()), 1)
+	want(t, "all", band.Of(rc(-m, -m, 2*m, 2*m)).Area(), 4*m*m)
+	want(t, "a gap", slices.Equal(band.Of(rc(0, 0, 1, 1), rc(0, 2, 1, 1)).Rects(), []r{rc(0, 0, 1, 1), rc(0, 2, 1, 1)}), true)
+	want(t, "touching bands", len(band.Of(rc(0, 0, 1, 1), rc(0, 1, 1, 5)).Rects()), 1)
 	a.Rects()[0].X = 99
 	want(t, "shared", a.Rects()[0].X, 0)
-	want(t, "Canon", Canon() && Canon(rc(0, 0, 4, 1), rc(0, 1, 6, 1)), true)
-	want(t, "Canon", Canon(rc(0, 1, 6, 1), rc(0, 0, 4, 1)) || Canon(rc(0, 0, 4, 1), rc(0, 1, 4, 1)) || Canon(rc(0, 0, 1, 1), rc(1, 0, 1, 1)) || Canon(r{}), false)
+	want(t, "Canon", band.Canon() && band.Canon(rc(0, 0, 4, 1), rc(0, 1, 6, 1)), true)
+	want(t, "Canon", band.Canon(rc(0, 1, 6, 1), rc(0, 0, 4, 1)) || band.Canon(rc(0, 0, 4, 1), rc(0, 1, 4, 1)) || band.Canon(rc(0, 0, 1, 1), rc(1, 0, 1, 1)) || band.Canon(r{}), false)
 }
 
 // P13.1, P13.2: by each place.
@@ -53,7 +54,7 @@ func TestPlaces(t *testing.T) {
 		for range rnd.Intn(9) {
 			l = append(l, rc(rnd.Intn(10), rnd.Intn(10), rnd.Intn(6), rnd.Intn(6)))
 		}
-		a := Of(l...)
+		a := band.Of(l...)
 		has := func(l []r, x, y int) int {
 			n := 0
 			for _, q := range l {
@@ -74,7 +75,7 @@ func TestPlaces(t *testing.T) {
 			}
 		}
 		want(t, "Area", a.Area(), area)
-		want(t, "Canon", Canon(a.Rects()...), true)
+		want(t, "Canon", band.Canon(a.Rects()...), true)
 		turned := slices.Clone(l)
 		slices.Reverse(turned)
 		for _, q := range l {
@@ -82,8 +83,8 @@ func TestPlaces(t *testing.T) {
 				turned = append(turned, rc(q.X, q.Y, 1, q.H), rc(q.X+1, q.Y, q.W-1, q.H))
 			}
 		}
-		want(t, "Same", Same(a, Of(turned...)) && slices.Equal(a.Rects(), Of(turned...).Rects()), true)
-		want(t, "one more", Same(a, Of(append(l, rc(20, 20, 1, 1))...)), false)
+		want(t, "Same", band.Same(a, band.Of(turned...)) && slices.Equal(a.Rects(), band.Of(turned...).Rects()), true)
+		want(t, "one more", band.Same(a, band.Of(append(l, rc(20, 20, 1, 1))...)), false)
 		rs := a.Rects()
 		for i := 1; i < len(rs); i++ {
 			p, q := rs[i-1], rs[i]
@@ -97,5 +98,5 @@ func TestMany(t *testing.T) {
 	for i := range 65536 {
 		l = append(l, rc(i%1000*2, i/1000*2, 1, 1))
 	}
-	want(t, "Area", Of(l...).Area(), 65536)
+	want(t, "Area", band.Of(l...).Area(), 65536)
 }

@@ -1,4 +1,4 @@
-package blit
+package blit_test
 
 import (
 	"math"
@@ -7,6 +7,7 @@ import (
 
 	"glazier/api"
 	"glazier/band"
+	"glazier/blit"
 	"glazier/grid"
 	"glazier/pen"
 	"glazier/region"
@@ -41,13 +42,13 @@ func some(rnd *rand.Rand) band.Region {
 // P24.1, P24.2: the chapter's examples.
 func TestExamples(t *testing.T) {
 	g, _ := sheet.Make(4, 1, func(x, _ int) api.Pixel { return api.Pixel(x + 1) })
-	h, miss := Within(g, all, all, rc(0, 0, 3, 1), 1, 0, pen.New())
+	h, miss := blit.Within(g, all, all, rc(0, 0, 3, 1), 1, 0, pen.New())
 	want(t, "Within", h.Row(0), "\x01\x01\x02\x03")
 	want(t, "missing", miss.Empty(), true)
-	h, miss = Scroll(g, all, 1, 0, pen.New())
+	h, miss = blit.Scroll(g, all, 1, 0, pen.New())
 	want(t, "Scroll", h.Row(0), "\x01\x01\x02\x03")
 	want(t, "missing", band.Same(miss, band.Of(rc(0, 0, 1, 1))), true)
-	h, miss = Within(g, all, all, rc(-2, 0, 4, 1), 0, 0, pen.New())
+	h, miss = blit.Within(g, all, all, rc(-2, 0, 4, 1), 0, 0, pen.New())
 	want(t, "Within", h.Row(0), "\x01\x02\x01\x02")
 	want(t, "missing", band.Same(miss, band.Of(rc(0, 0, 2, 1))), true)
 }
@@ -62,12 +63,12 @@ func TestPlaces(t *testing.T) {
 		if i < 100 {
 			p = pen.New()
 		}
-		a, miss := Area(src, dst, from, clip, s, x, y, p)
-		w, miss2 := Within(src, from, clip, s, x, y, p)
-		w3, miss3 := Area(src, src, from, clip, s, x, y, p)
+		a, miss := blit.Area(src, dst, from, clip, s, x, y, p)
+		w, miss2 := blit.Within(src, from, clip, s, x, y, p)
+		w3, miss3 := blit.Area(src, src, from, clip, s, x, y, p)
 		want(t, "Within", grid.Same(w, w3) && band.Same(miss2, miss3), true)
-		sc, gone := Scroll(src, clip, x, y, p)
-		m := Missing(from, clip, s, x, y)
+		sc, gone := blit.Scroll(src, clip, x, y, p)
+		m := blit.Missing(from, clip, s, x, y)
 		for px := -4; px < 12; px++ {
 			for py := -4; py < 12; py++ {
 				fx, fy := px-x+s.X, py-y+s.Y
@@ -100,17 +101,17 @@ func TestNone(t *testing.T) {
 		s    api.Rect
 		x, y int
 	}{{rc(0, 0, 0, 1), 0, 0}, {rc(0, 0, 2, 2), math.MaxInt, 0}, {rc(0, 0, 2, 2), 0, math.MinInt}, {rc(0, 0, 2, 2), 1<<20 - 1, 0}, {rc(math.MaxInt, 0, 2, 2), 0, 0}} {
-		h, miss := Area(g, g, all, all, x.s, x.x, x.y, pen.New())
-		want(t, "none", grid.Same(h, g) && miss.Empty() && Missing(band.Region{}, all, x.s, x.x, x.y).Empty(), true)
+		h, miss := blit.Area(g, g, all, all, x.s, x.x, x.y, pen.New())
+		want(t, "none", grid.Same(h, g) && miss.Empty() && blit.Missing(band.Region{}, all, x.s, x.x, x.y).Empty(), true)
 	}
 	bad := pen.Pen{Func: 99}
-	h, miss := Area(g, g, band.Region{}, all, rc(0, 0, 2, 2), 0, 0, bad)
-	k, gone := Scroll(g, all, 1, 1, bad)
+	h, miss := blit.Area(g, g, band.Region{}, all, rc(0, 0, 2, 2), 0, 0, bad)
+	k, gone := blit.Scroll(g, all, 1, 1, bad)
 	want(t, "pen", grid.Same(h, g) && miss.Empty() && grid.Same(k, g) && gone.Empty(), true)
 	for _, d := range []int{math.MaxInt, math.MinInt, 1 << 21, 128} {
-		k, gone := Scroll(g, all, d, 0, pen.New())
+		k, gone := blit.Scroll(g, all, d, 0, pen.New())
 		want(t, "far", grid.Same(k, g) && gone.Area() == 12, true)
-		k, gone = Scroll(g, all, 0, d, pen.New())
+		k, gone = blit.Scroll(g, all, 0, d, pen.New())
 		want(t, "far", grid.Same(k, g) && gone.Area() == 12, true)
 	}
 	want(t, "zero", region.Inside(band.Region{}, all), true)

@@ -1,4 +1,4 @@
-package buffer
+package buffer_test
 
 import (
 	"math"
@@ -7,6 +7,7 @@ import (
 	"testing"
 
 	"glazier/api"
+	"glazier/buffer"
 )
 
 func want[T comparable](t *testing.T, what string, got, wanted T) {
@@ -16,9 +17,9 @@ func want[T comparable](t *testing.T, what string, got, wanted T) {
 	}
 }
 
-func of(t *testing.T, s string) Buffer {
+func of(t *testing.T, s string) buffer.Buffer {
 	t.Helper()
-	b, e := New(s)
+	b, e := buffer.New(s)
 	want(t, "New", e, api.OK)
 	return b
 }
@@ -26,7 +27,7 @@ func of(t *testing.T, s string) Buffer {
 // P54.1
 func TestChanges(t *testing.T) {
 	for s, e := range map[string]api.Errno{strings.Repeat("\x00", 65537): api.ErrLong, "a\x1f": api.ErrForm, "\x7f": api.ErrForm, "\r": api.ErrForm, "\x80": api.ErrForm, " ~\n": api.OK, strings.Repeat("a", 65536): api.OK} {
-		b, got := New(s)
+		b, got := buffer.New(s)
 		want(t, "New", got, e)
 		want(t, "New", b.Text() == s, e == api.OK)
 	}
@@ -50,8 +51,8 @@ func TestChanges(t *testing.T) {
 		c, e := b.Delete(x.from, x.to)
 		want(t, "Delete", e == x.e && c.Text() == x.text && b.Text() == "ab", true)
 	}
-	z, e := Buffer{}.Insert(0, "a")
-	want(t, "zero", Buffer{}.Text() == "" && e == api.OK && z.Text() == "a", true)
+	z, e := buffer.Buffer{}.Insert(0, "a")
+	want(t, "zero", buffer.Buffer{}.Text() == "" && e == api.OK && z.Text() == "a", true)
 }
 
 // P54.2, P54.4
@@ -123,7 +124,7 @@ func TestUndo(t *testing.T) {
 func TestLines(t *testing.T) {
 	b := of(t, "a\nbc\n")
 	want(t, "Lines", b.Lines() == 3 && b.Len() == 5 && b.Line(0) == "a" && b.Line(1) == "bc" && b.Line(2) == "" && b.Line(3) == "" && b.Line(-1) == "", true)
-	want(t, "empty", Buffer{}.Lines(), 1)
+	want(t, "empty", buffer.Buffer{}.Lines(), 1)
 	for at, x := range map[int][2]int{-5: {0, 0}, 0: {0, 0}, 1: {0, 1}, 2: {1, 0}, 3: {1, 1}, 4: {1, 2}, 5: {2, 0}, 99: {2, 0}, math.MinInt: {0, 0}, math.MaxInt: {2, 0}} {
 		l, c := b.Spot(at)
 		want(t, "Spot", l == x[0] && c == x[1], true)

@@ -1,4 +1,4 @@
-package cache
+package cache_test
 
 import (
 	"math/rand"
@@ -6,6 +6,7 @@ import (
 	"testing"
 
 	"glazier/api"
+	"glazier/cache"
 )
 
 func want[T comparable](t *testing.T, what string, got, wanted T) {
@@ -15,9 +16,9 @@ func want[T comparable](t *testing.T, what string, got, wanted T) {
 	}
 }
 
-func of(t *testing.T, kept int, l ...string) Cache {
+func of(t *testing.T, kept int, l ...string) cache.Cache {
 	t.Helper()
-	c, e := New(kept)
+	c, e := cache.New(kept)
 	want(t, "New", e, api.OK)
 	for _, b := range l {
 		c, _, e = c.Put(b)
@@ -60,7 +61,7 @@ func TestAlmost(t *testing.T) {
 // P59.1: what is refused, in order.
 func TestRefused(t *testing.T) {
 	for _, n := range []int{0, -1, 65} {
-		c, e := New(n)
+		c, e := cache.New(n)
 		_, _, f := c.Put("a")
 		_, _, g := c.Get("")
 		want(t, "New", e == api.ErrRange && f == api.ErrState && g == api.ErrState, true)

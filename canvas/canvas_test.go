@@ -1,4 +1,4 @@
-package canvas
+package canvas_test
 
 import (
 	"math/rand"
@@ -6,6 +6,7 @@ import (
 
 	"glazier/api"
 	"glazier/band"
+	"glazier/canvas"
 	"glazier/expose"
 	"glazier/grid"
 	"glazier/place"
@@ -36,7 +37,7 @@ func at(r, s api.Rect, covers bool) (view.View, place.Place) {
 	return view.Of(t, p), p
 }
 
-func rows(c Canvas, id api.ID) string {
+func rows(c canvas.Canvas, id api.ID) string {
 	g, _ := c.Grid(id)
 	_, h := g.Size()
 	s := ""
@@ -48,7 +49,7 @@ func rows(c Canvas, id api.ID) string {
 
 // P33.1
 func TestChanges(t *testing.T) {
-	var c Canvas
+	var c canvas.Canvas
 	c, e := c.Open(a, 2, 2, 9, true)
 	want(t, "Open", e, api.OK)
 	c, e = c.Pixmap(x, 3, 1, 4)
@@ -83,7 +84,7 @@ func TestChanges(t *testing.T) {
 	_, ok = c.Drop(a, 77).Grid(a)
 	_, ok2 := c.Grid(a)
 	want(t, "Drop", !ok && ok2, true)
-	var many Canvas
+	var many canvas.Canvas
 	for i := api.ID(1); i <= 1025; i++ {
 		many, e = many.Pixmap(2<<20+i, 1, 1, 0)
 		want(t, "many", e, api.OK)
@@ -94,7 +95,7 @@ func TestChanges(t *testing.T) {
 
 // P33.2
 func TestLooks(t *testing.T) {
-	c, _ := Canvas{}.Open(a, 4, 3, 9, false)
+	c, _ := canvas.Canvas{}.Open(a, 4, 3, 9, false)
 	c, _ = c.Pixmap(x, 3, 1, 4)
 	for _, id := range []api.ID{x, b, 1} {
 		p, backing, ok := c.Ground(id)
@@ -118,7 +119,7 @@ func TestExample(t *testing.T) {
 	hidden, _ := at(rc(1, 1, 2, 2), rc(2, 0, 9, 9), true)
 	five, _ := grid.New(2, 2, 5)
 	for _, backing := range []bool{false, true} {
-		c, _ := Canvas{}.Open(a, 2, 2, 9, backing)
+		c, _ := canvas.Canvas{}.Open(a, 2, 2, 9, backing)
 		c, _ = c.Lay(a, five)
 		d, l := c.Change(free, hidden, p, nil)
 		want(t, "nothing new", len(l), 0)
@@ -142,7 +143,7 @@ func TestPlaces(t *testing.T) {
 		was, _ := at(r, s, rnd.Intn(3) > 0)
 		now, p := at(u, s, rnd.Intn(3) > 0)
 		backing, d := i%2 == 0, expose.Shift{DX: rnd.Intn(5) - 2, DY: rnd.Intn(5) - 2, Forget: i%7 == 0}
-		c, _ := Canvas{}.Open(a, r.W, r.H, 200, backing)
+		c, _ := canvas.Canvas{}.Open(a, r.W, r.H, 200, backing)
 		c, _ = c.Pixmap(x, 1, 1, 3)
 		g, _ := sheet.Make(r.W, r.H, func(_, _ int) api.Pixel { return api.Pixel(rnd.Intn(100)) })
 		c, _ = c.Lay(a, g)

@@ -1,4 +1,4 @@
-package cells
+package cells_test
 
 import (
 	"math/rand"
@@ -6,6 +6,7 @@ import (
 	"testing"
 
 	"glazier/api"
+	"glazier/cells"
 )
 
 func want[T comparable](t *testing.T, what string, got, wanted T) {
@@ -15,14 +16,14 @@ func want[T comparable](t *testing.T, what string, got, wanted T) {
 	}
 }
 
-func of(t *testing.T, columns, rows, kept int, b string) Cells {
+func of(t *testing.T, columns, rows, kept int, b string) cells.Cells {
 	t.Helper()
-	c, e := New(columns, rows, kept)
+	c, e := cells.New(columns, rows, kept)
 	want(t, "New", e, api.OK)
 	return c.Write(b)
 }
 
-func state(c Cells) string {
+func state(c cells.Cells) string {
 	x, y := c.Cursor()
 	return c.Text() + "@" + string(rune('0'+x)) + string(rune('0'+y))
 }
@@ -44,7 +45,7 @@ func TestWrite(t *testing.T) {
 		want(t, strings.ReplaceAll(x[0], "\x1b", "^"), state(of(t, 4, 3, 5, x[0])), x[1])
 	}
 	for _, x := range [][3]int{{0, 1, 0}, {1, 0, 0}, {129, 1, 0}, {1, 65, 0}, {1, 1, -1}, {1, 1, 1001}} {
-		c, e := New(x[0], x[1], x[2])
+		c, e := cells.New(x[0], x[1], x[2])
 		w, h := c.Write("abc").Size()
 		want(t, "New", e == api.ErrSize && w+h == 0 && c.Text() == "", true)
 	}
@@ -76,7 +77,7 @@ func TestResize(t *testing.T) {
 		u, e := c.Resize(x[0], x[1])
 		want(t, "Resize", e == api.ErrSize && state(u) == state(c), true)
 	}
-	_, e := Cells{}.Resize(4, 4)
+	_, e := cells.Cells{}.Resize(4, 4)
 	want(t, "zero", e, api.ErrSize)
 	u, _ = c.Write("\x1b[2").Resize(9, 9)
 	want(t, "a command goes on", state(u.Write("Dx")), "abcd\nef\nx\n\n\n\n\n\n\n@12")

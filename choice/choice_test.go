@@ -1,10 +1,11 @@
-package choice
+package choice_test
 
 import (
 	"slices"
 	"testing"
 
 	"glazier/api"
+	"glazier/choice"
 )
 
 func want[T comparable](t *testing.T, what string, got, wanted T) {
@@ -14,7 +15,7 @@ func want[T comparable](t *testing.T, what string, got, wanted T) {
 	}
 }
 
-func set(t *testing.T, c Choice, client int, id api.ID, mask int) Choice {
+func set(t *testing.T, c choice.Choice, client int, id api.ID, mask int) choice.Choice {
 	t.Helper()
 	c, e := c.Set(client, id, mask)
 	want(t, "Set", e, api.OK)
@@ -25,7 +26,7 @@ const a, b, d = api.ID(5), api.ID(6), api.ID(7)
 
 // P35.1, P35.2, P35.4
 func TestSet(t *testing.T) {
-	c := set(t, Choice{}, 1, a, 5)
+	c := set(t, choice.Choice{}, 1, a, 5)
 	for _, x := range []struct {
 		client int
 		id     api.ID
@@ -55,7 +56,7 @@ func TestSet(t *testing.T) {
 
 // P35.1, P35.3, P35.4
 func TestFind(t *testing.T) {
-	c := set(t, set(t, Choice{}, 1, a, 5), 2, a, 1)
+	c := set(t, set(t, choice.Choice{}, 1, a, 5), 2, a, 1)
 	for _, x := range []struct {
 		path []api.ID
 		mask int

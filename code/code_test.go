@@ -1,7 +1,6 @@
-package code
+package code_test
 
 import (
-	"os"
 	"regexp"
 	"slices"
 	"strconv"
@@ -9,6 +8,7 @@ import (
 	"testing"
 
 	"glazier/api"
+	"glazier/code"
 	"glazier/format"
 )
 
@@ -24,15 +24,15 @@ func TestForms(t *testing.T) {
 		form format.Form
 		ok   bool
 	}{
-		{Request, 1, format.Form{Fixed: []int{4, 4, -2, -2, 2, 2, 1, 1, 1}}, true},
-		{Request, 9, format.Form{Fixed: []int{4}}, true},
-		{Request, 11, format.Form{Fixed: []int{1}, Bytes: true}, true},
-		{Request, 21, format.Form{Fixed: []int{4, -2, -2, 1}, List: -2}, true},
-		{Request, 56, format.Form{}, true}, {Request, 0, format.Form{}, false}, {Request, 59, format.Form{}, false}, {Request, -1, format.Form{}, false},
-		{Reply, 9, format.Form{Fixed: []int{4, -2, -2, 2, 2, 1, 1}}, true}, {Reply, 12, format.Form{Bytes: true}, true}, {Reply, 25, format.Form{Fixed: []int{1, 1}, List: 1}, true},
-		{Reply, 1, format.Form{}, false}, {Reply, 58, format.Form{}, false}, {Reply, 99, format.Form{}, false}, {Reply, 48, format.Form{Fixed: []int{4, -2, -2, -2, -2, 2}}, true},
-		{Event, 25, format.Form{Fixed: []int{4, 4}, List: 4}, true}, {Event, 5, format.Form{Fixed: []int{4, 4, 1, 2, -2, -2, -2, -2, 4}}, true},
-		{Event, 0, format.Form{}, false}, {Event, 26, format.Form{}, false},
+		{code.Request, 1, format.Form{Fixed: []int{4, 4, -2, -2, 2, 2, 1, 1, 1}}, true},
+		{code.Request, 9, format.Form{Fixed: []int{4}}, true},
+		{code.Request, 11, format.Form{Fixed: []int{1}, Bytes: true}, true},
+		{code.Request, 21, format.Form{Fixed: []int{4, -2, -2, 1}, List: -2}, true},
+		{code.Request, 56, format.Form{}, true}, {code.Request, 0, format.Form{}, false}, {code.Request, 59, format.Form{}, false}, {code.Request, -1, format.Form{}, false},
+		{code.Reply, 9, format.Form{Fixed: []int{4, -2, -2, 2, 2, 1, 1}}, true}, {code.Reply, 12, format.Form{Bytes: true}, true}, {code.Reply, 25, format.Form{Fixed: []int{1, 1}, List: 1}, true},
+		{code.Reply, 1, format.Form{}, false}, {code.Reply, 58, format.Form{}, false}, {code.Reply, 99, format.Form{}, false}, {code.Reply, 48, format.Form{Fixed: []int{4, -2, -2, -2, -2, 2}}, true},
+		{code.Event, 25, format.Form{Fixed: []int{4, 4}, List: 4}, true}, {code.Event, 5, format.Form{Fixed: []int{4, 4, 1, 2, -2, -2, -2, -2, 4}}, true},
+		{code.Event, 0, format.Form{}, false}, {code.Event, 26, format.Form{}, false},
 	} {
 		f, ok := x.f(x.code)
 		if !same(f, x.form) || ok != x.ok {
@@ -41,7 +41,7 @@ func TestForms(t *testing.T) {
 	}
 	replies := 0
 	for c := range 100 {
-		if _, ok := Reply(c); ok {
+		if _, ok := code.Reply(c); ok {
 			replies++
 		}
 	}
@@ -50,49 +50,68 @@ func TestForms(t *testing.T) {
 	}
 }
 
-// P3.1, P3.2: the chapter's own tables, if they lie beside the project.
-func TestChapter(t *testing.T) {
-	text, err := os.ReadFile("../../shared/doc/03-code.md")
-	if err != nil {
-		t.Skip("no chapter here")
+// fields reads a line's fields: their form, and the names of the fixed ones.
+func fields(text string) (format.Form, []string) {
+	var f format.Form
+	var names []string
+	for _, word := range strings.Fields(text) {
+		m := regexp.MustCompile(`^([a-zA-Z]+?)(-?[124])?$`).FindStringSubmatch(word)
+		size, _ := strconv.Atoi(m[2])
+		switch m[1] {
+		case "none":
+		case "B":
+			f.Bytes = true
+		case "L":
+			f.List = size
+		default:
+			f.Fixed, names = append(f.Fixed, size), append(names, m[1])
+		}
 	}
-	table := 0
-	for _, line := range strings.Split(string(text), "\n") {
-		if strings.HasPrefix(line, "| code") {
-			table++
+	return f, names
+}
+
+// P3.1, P3.2: line by line of the chapter's tables.
+func TestTables(t *testing.T) {
+	for i, line := range strings.Split(requestTable, "\n") {
+		cells := strings.Split(line, " | ")
+		f, names := fields(cells[2])
+		got, ok := code.Request(i + 1)
+		if !same(got, f) || !ok || cells[0] != strconv.Itoa(i+1) || code.Name(i+1) != cells[1] || !slices.Equal(code.Fields(i+1), names) {
+			t.Error(line)
 		}
-		m := regexp.MustCompile(`^\| (\d+) \| ([a-z-]+) \| ([^|]*?) (?:\| ([^|]*?) )?\|$`).FindStringSubmatch(line)
-		if m == nil {
-			continue
+		r, _ := fields(strings.Trim(cells[3], "-"))
+		got, ok = code.Reply(i + 1)
+		if ok != (cells[3] != "-") || !same(got, r) && ok {
+			t.Error(line)
 		}
-		c, _ := strconv.Atoi(m[1])
-		e := request(c)
-		if table == 2 {
-			e = event(c)
-		}
-		if e.name != m[2] || e.fields != strings.TrimPrefix(m[3], "none") || table == 1 && e.reply != m[4] {
-			t.Error(line, e)
+	}
+	for i, line := range strings.Split(eventTable, "\n") {
+		cells := strings.Split(line, " | ")
+		f, _ := fields(cells[2])
+		got, ok := code.Event(i + 1)
+		if !same(got, f) || !ok || cells[0] != strconv.Itoa(i+1) || code.EventName(i+1) != cells[1] {
+			t.Error(line)
 		}
 	}
 }
 
 // P3.2
 func TestNames(t *testing.T) {
-	if Name(58) != "no-op" || Name(1) != "create-window" || Name(37) != "set-focus" || Name(0) != "" || Name(59) != "" {
+	if code.Name(58) != "no-op" || code.Name(1) != "create-window" || code.Name(37) != "set-focus" || code.Name(0) != "" || code.Name(59) != "" {
 		t.Error("Name")
 	}
-	if EventName(25) != "message" || EventName(1) != "key-press" || EventName(0) != "" || EventName(26) != "" {
+	if code.EventName(25) != "message" || code.EventName(1) != "key-press" || code.EventName(0) != "" || code.EventName(26) != "" {
 		t.Error("EventName")
 	}
-	if c, ok := Of("no-op"); c != 58 || !ok {
+	if c, ok := code.Of("no-op"); c != 58 || !ok {
 		t.Error("Of", c, ok)
 	}
 	for _, name := range []string{"", "message", "No-op", "no-op "} {
-		if c, ok := Of(name); c != 0 || ok {
+		if c, ok := code.Of(name); c != 0 || ok {
 			t.Error("Of", name, c, ok)
 		}
 	}
-	if !slices.Equal(Fields(11), []string{"only"}) || !slices.Equal(Fields(6), []string{"id", "parent", "x", "y"}) || len(Fields(58)) != 0 || len(Fields(99)) != 0 {
+	if !slices.Equal(code.Fields(11), []string{"only"}) || !slices.Equal(code.Fields(6), []string{"id", "parent", "x", "y"}) || len(code.Fields(58)) != 0 || len(code.Fields(99)) != 0 {
 		t.Error("Fields")
 	}
 }
@@ -101,28 +120,28 @@ func TestNames(t *testing.T) {
 func TestOneName(t *testing.T) {
 	seen := map[string]bool{}
 	for c := 1; c <= 58; c++ {
-		f, _ := Request(c)
-		back, ok := Of(Name(c))
-		if seen[Name(c)] || back != c || !ok || len(Fields(c)) != len(f.Fixed) || f.Check() != api.OK {
-			t.Error(c, Name(c))
+		f, _ := code.Request(c)
+		back, ok := code.Of(code.Name(c))
+		if seen[code.Name(c)] || back != c || !ok || len(code.Fields(c)) != len(f.Fixed) || f.Check() != api.OK {
+			t.Error(c, code.Name(c))
 		}
-		seen[Name(c)] = true
+		seen[code.Name(c)] = true
 	}
 	seen = map[string]bool{}
 	for c := 1; c <= 25; c++ {
-		if seen[EventName(c)] || EventName(c) == "" {
+		if seen[code.EventName(c)] || code.EventName(c) == "" {
 			t.Error(c)
 		}
-		seen[EventName(c)] = true
+		seen[code.EventName(c)] = true
 	}
 }
 
 // An answer shares nothing with another one.
 func TestNewMemory(t *testing.T) {
-	f, _ := Request(1)
+	f, _ := code.Request(1)
 	f.Fixed[0] = 99
-	Fields(1)[0] = "x"
-	if g, _ := Request(1); g.Fixed[0] != 4 || Fields(1)[0] != "id" {
+	code.Fields(1)[0] = "x"
+	if g, _ := code.Request(1); g.Fixed[0] != 4 || code.Fields(1)[0] != "id" {
 		t.Error("shared")
 	}
 }

@@ -1,10 +1,11 @@
-package cross
+package cross_test
 
 import (
 	"slices"
 	"testing"
 
 	"glazier/api"
+	"glazier/cross"
 	"glazier/tree"
 )
 
@@ -31,38 +32,38 @@ func TestPath(t *testing.T) {
 	u := example()
 	for _, x := range []struct {
 		from, to api.ID
-		l        []Step
+		l        []cross.Step
 	}{
-		{c, b, []Step{{c, false, Nonlinear}, {a, false, NonlinearVirtual}, {b, true, Nonlinear}}},
+		{c, b, []cross.Step{{c, false, cross.Nonlinear}, {a, false, cross.NonlinearVirtual}, {b, true, cross.Nonlinear}}},
 		{c, c, nil}, {1, 1, nil}, {0, 99, nil},
-		{1, d, []Step{{1, false, Inferior}, {a, true, Virtual}, {c, true, Virtual}, {d, true, Ancestor}}},
-		{c, d, []Step{{c, false, Inferior}, {d, true, Ancestor}}},
-		{d, a, []Step{{d, false, Ancestor}, {c, false, Virtual}, {a, true, Inferior}}},
-		{d, 1, []Step{{d, false, Ancestor}, {c, false, Virtual}, {a, false, Virtual}, {1, true, Inferior}}},
-		{b, d, []Step{{b, false, Nonlinear}, {a, true, NonlinearVirtual}, {c, true, NonlinearVirtual}, {d, true, Nonlinear}}},
-		{0, c, []Step{{1, true, NonlinearVirtual}, {a, true, NonlinearVirtual}, {c, true, Nonlinear}}},
-		{c, 99, []Step{{c, false, Nonlinear}, {a, false, NonlinearVirtual}, {1, false, NonlinearVirtual}}},
-		{99, 1, []Step{{1, true, Nonlinear}}}, {1, 0, []Step{{1, false, Nonlinear}}},
+		{1, d, []cross.Step{{1, false, cross.Inferior}, {a, true, cross.Virtual}, {c, true, cross.Virtual}, {d, true, cross.Ancestor}}},
+		{c, d, []cross.Step{{c, false, cross.Inferior}, {d, true, cross.Ancestor}}},
+		{d, a, []cross.Step{{d, false, cross.Ancestor}, {c, false, cross.Virtual}, {a, true, cross.Inferior}}},
+		{d, 1, []cross.Step{{d, false, cross.Ancestor}, {c, false, cross.Virtual}, {a, false, cross.Virtual}, {1, true, cross.Inferior}}},
+		{b, d, []cross.Step{{b, false, cross.Nonlinear}, {a, true, cross.NonlinearVirtual}, {c, true, cross.NonlinearVirtual}, {d, true, cross.Nonlinear}}},
+		{0, c, []cross.Step{{1, true, cross.NonlinearVirtual}, {a, true, cross.NonlinearVirtual}, {c, true, cross.Nonlinear}}},
+		{c, 99, []cross.Step{{c, false, cross.Nonlinear}, {a, false, cross.NonlinearVirtual}, {1, false, cross.NonlinearVirtual}}},
+		{99, 1, []cross.Step{{1, true, cross.Nonlinear}}}, {1, 0, []cross.Step{{1, false, cross.Nonlinear}}},
 	} {
-		if l := Path(u, x.from, x.to); !slices.Equal(l, x.l) {
+		if l := cross.Path(u, x.from, x.to); !slices.Equal(l, x.l) {
 			t.Errorf("%d to %d: %v", x.from, x.to, l)
 		}
 	}
 	for i, n := range []string{"ancestor", "virtual", "inferior", "nonlinear", "nonlinear-virtual", ""} {
-		want(t, "Name", Name(i), n)
+		want(t, "Name", cross.Name(i), n)
 	}
-	want(t, "Name", Name(-1), "")
+	want(t, "Name", cross.Name(-1), "")
 }
 
 // P36.1, P36.2
 func TestBack(t *testing.T) {
 	u := example()
-	want(t, "none", len(Back(nil)), 0)
+	want(t, "none", len(cross.Back(nil)), 0)
 	ids := []api.ID{0, 1, a, b, c, d, 99}
 	for _, from := range ids {
 		for _, to := range ids {
-			l := Path(u, from, to)
-			want(t, "the way back", slices.Equal(Back(l), Path(u, to, from)), true)
+			l := cross.Path(u, from, to)
+			want(t, "the way back", slices.Equal(cross.Back(l), cross.Path(u, to, from)), true)
 			in, seen := map[api.ID]bool{}, map[api.ID]bool{}
 			for _, w := range u.Path(from) {
 				in[w] = true
@@ -70,7 +71,7 @@ func TestBack(t *testing.T) {
 			for _, s := range l {
 				want(t, "once", seen[s.ID], false)
 				seen[s.ID] = true
-				if s.Detail != Inferior {
+				if s.Detail != cross.Inferior {
 					want(t, "in or out", in[s.ID], !s.Enter)
 					in[s.ID] = s.Enter
 				}

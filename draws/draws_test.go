@@ -1,4 +1,4 @@
-package draws
+package draws_test
 
 import (
 	"math/rand"
@@ -10,6 +10,7 @@ import (
 	"glazier/api"
 	"glazier/band"
 	"glazier/code"
+	"glazier/draws"
 	"glazier/font"
 	"glazier/grid"
 	"glazier/image"
@@ -40,7 +41,7 @@ func do(t *testing.T, w world.World, client, c int, text string, n ...int64) (wo
 		r.N, r.L = n[:len(form.Fixed)], n[len(form.Fixed):]
 	}
 	was := w.Text()
-	u, said, ok := Do(w, client, r)
+	u, said, ok := draws.Do(w, client, r)
 	if !ok {
 		u, said, ok = panes.Do(w, client, r)
 	}
@@ -112,10 +113,10 @@ func TestLooks(t *testing.T) {
 	_, said := do(t, w, 1, 36, "A", p, q, 0, 0, 1)
 	want(t, "pens keep its id", said, "1 fault 7 f 36")
 	for _, c := range []int{0, 16, 37, 99} {
-		u, said, ok := Do(w, 1, api.Request{Code: c})
+		u, said, ok := draws.Do(w, 1, api.Request{Code: c})
 		want(t, "other code", !ok && len(said) == 0 && u.Text() == w.Text(), true)
 	}
-	want(t, "Codes", len(Codes()) == 20 && Codes()[0] == 17 && Codes()[19] == 36, true)
+	want(t, "Codes", len(draws.Codes()) == 20 && draws.Codes()[0] == 17 && draws.Codes()[19] == 36, true)
 }
 
 // P48.2, P48.4: what is made, and freed.
@@ -197,13 +198,13 @@ func TestWindows(t *testing.T) {
 		want(t, "ground", shows(v, a), []string{"05050909/05090909/05090909/", "05050505/05090909/05090909/"}[backing])
 		v, said = do(t, u, 1, 26, "", a, 0, 2, 1, 9, 0)
 		want(t, "told nobody", said+shows(v, a)[18:], "09"+rows[20:])
-		v, places := Clear(u, api.ID(a), api.Rect{X: -1, Y: -1, W: 2, H: 2})
+		v, places := draws.Clear(u, api.ID(a), api.Rect{X: -1, Y: -1, W: 2, H: 2})
 		want(t, "Clear", band.Same(places, band.Of(api.Rect{W: 1, H: 1})) && shows(v, a)[:2] == "09", true)
 		for _, id := range []int64{p, 99} {
-			v, places = Clear(u, api.ID(id), api.Rect{W: 9, H: 9})
+			v, places = draws.Clear(u, api.ID(id), api.Rect{W: 9, H: 9})
 			want(t, "Clear", places.Empty() && v.Text() == u.Text(), true)
 		}
-		_, places = Clear(u, api.ID(a), api.Rect{W: 0, H: 9})
+		_, places = draws.Clear(u, api.ID(a), api.Rect{W: 0, H: 9})
 		want(t, "Clear", places.Empty(), true)
 	}
 }

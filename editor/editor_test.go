@@ -1,4 +1,4 @@
-package editor
+package editor_test
 
 import (
 	"math/rand"
@@ -9,6 +9,7 @@ import (
 
 	"glazier/api"
 	"glazier/band"
+	"glazier/editor"
 	"glazier/font"
 	"glazier/grid"
 	"glazier/pack"
@@ -53,9 +54,9 @@ func asked(t *testing.T, l []api.Request) string {
 	return strings.Join(out, "; ")
 }
 
-func of(t *testing.T, w, h int, s string) Editor {
+func of(t *testing.T, w, h int, s string) editor.Editor {
 	t.Helper()
-	e, l, err := New(1, w, h, s)
+	e, l, err := editor.New(1, w, h, s)
 	want(t, "New", err, api.OK)
 	want(t, "requests", asked(t, l), "23 f 'tiny'; 19 p; 20 p 28 0 0 1 0 f; 1 w 1 0 0 "+strconv.Itoa(w)+" "+strconv.Itoa(h)+" 0 0 0; 7 w 32 0 0 0 0 0 277; 3 w")
 	return e
@@ -68,7 +69,7 @@ func key(code, mods int) api.Out {
 }
 
 // steps takes messages, and tells what the last one asked.
-func steps(t *testing.T, e Editor, l ...api.Out) (Editor, string) {
+func steps(t *testing.T, e editor.Editor, l ...api.Out) (editor.Editor, string) {
 	t.Helper()
 	last := ""
 	for _, o := range l {
@@ -78,7 +79,7 @@ func steps(t *testing.T, e Editor, l ...api.Out) (Editor, string) {
 	return e, last
 }
 
-func typed(t *testing.T, e Editor, s string) Editor {
+func typed(t *testing.T, e editor.Editor, s string) editor.Editor {
 	t.Helper()
 	for _, c := range s {
 		e, _ = steps(t, e, key(int(c), 0))
@@ -93,11 +94,11 @@ func TestNew(t *testing.T) {
 		s            string
 		e            api.Errno
 	}{{0, 0, 0, "\x00", api.ErrRange}, {9, 8, 8, "", api.ErrRange}, {1, 3, 8, "", api.ErrSize}, {1, 129, 8, "", api.ErrSize}, {1, 8, 5, "", api.ErrSize}, {1, 8, 129, strings.Repeat("\x00", 4097), api.ErrSize}, {1, 8, 8, strings.Repeat("\x00", 4097), api.ErrLong}, {1, 8, 8, "\x00", api.ErrForm}, {8, 128, 128, strings.Repeat("a", 4096), api.OK}} {
-		e, l, err := New(x.client, x.w, x.h, x.s)
+		e, l, err := editor.New(x.client, x.w, x.h, x.s)
 		want(t, "New", err, x.e)
 		want(t, "New", len(l) == 6 && e.Text() == x.s, err == api.OK)
 	}
-	var z Editor
+	var z editor.Editor
 	u, l := z.Step(key(65, 0))
 	want(t, "zero", len(l) == 0 && u.Text() == "" && u.Cursor() == 0 && grid.Same(u.Picture(), grid.Grid{}), true)
 	e := of(t, 8, 6, "ab")
@@ -253,7 +254,7 @@ func (c *canvas) draw(l []api.Request) {
 func TestPicture(t *testing.T) {
 	rnd := rand.New(rand.NewSource(6))
 	for range 8 {
-		e, l, _ := New(1, 26, 21, "first line\nsecond\n\nlast of them")
+		e, l, _ := editor.New(1, 26, 21, "first line\nsecond\n\nlast of them")
 		c := &canvas{g: e.Picture(), p: pen.New()}
 		c.draw(l[2:3])
 		for range 150 {
@@ -269,7 +270,11 @@ func TestPicture(t *testing.T) {
 			if !grid.Same(c.g, e.Picture()) {
 				t.Fatal("another picture")
 			}
-			if k := (e.columns == 6 && e.rows == 3); !k || !slices.ContainsFunc(e.looks(), func(l look) bool { return l.cursor >= 0 && l.cursor < 6 }) {
+			_, all := e.Step(event(api.EvExpose, window, 0, 0, 26, 21, 0))
+			seen := func(r api.Request) bool {
+				return r.Code == api.ReqFillRects && r.L[3] == 1 && r.L[0] >= 0 && r.L[0] <= 20 && r.L[1] >= 0 && r.L[1] <= 17
+			}
+			if !slices.ContainsFunc(all, seen) {
 				t.Fatal("the cursor isn't seen")
 			}
 		}

@@ -1,4 +1,4 @@
-package focus
+package focus_test
 
 import (
 	"slices"
@@ -6,6 +6,7 @@ import (
 
 	"glazier/api"
 	"glazier/cross"
+	"glazier/focus"
 	"glazier/place"
 	"glazier/tree"
 	"glazier/view"
@@ -36,17 +37,17 @@ func look(mapped ...api.ID) (tree.Tree, view.View) {
 // P37.1
 func TestSet(t *testing.T) {
 	_, v := look(a, b)
-	f := Focus{1, ToRoot, 10}
+	f := focus.Focus{1, focus.ToRoot, 10}
 	for _, x := range []struct {
 		id        api.ID
 		revert    int
 		time, now uint32
-		g         Focus
+		g         focus.Focus
 		ok        bool
 		e         api.Errno
 	}{
 		{99, 3, 5, 20, f, false, api.ErrKind}, {99, -1, 5, 20, f, false, api.ErrKind}, {99, 0, 5, 20, f, false, api.ErrNone}, {c, 0, 5, 20, f, false, api.ErrNone}, {b, 2, 9, 20, f, false, api.OK}, {b, 2, 21, 20, f, false, api.OK},
-		{b, 2, 10, 20, Focus{b, 2, 10}, true, api.OK}, {b, 2, 20, 20, Focus{b, 2, 20}, true, api.OK}, {0, 0, 0, 20, Focus{0, 0, 20}, true, api.OK}, {1, 1, 0, 3, Focus{1, 1, 3}, true, api.OK},
+		{b, 2, 10, 20, focus.Focus{b, 2, 10}, true, api.OK}, {b, 2, 20, 20, focus.Focus{b, 2, 20}, true, api.OK}, {0, 0, 0, 20, focus.Focus{0, 0, 20}, true, api.OK}, {1, 1, 0, 3, focus.Focus{1, 1, 3}, true, api.OK},
 	} {
 		g, ok, e := f.Set(v, x.id, x.revert, x.time, x.now)
 		want(t, "Set", g, x.g)
@@ -58,10 +59,10 @@ func TestSet(t *testing.T) {
 func TestLost(t *testing.T) {
 	for _, x := range []struct {
 		mapped []api.ID
-		f, g   Focus
+		f, g   focus.Focus
 	}{
-		{[]api.ID{a, b}, Focus{b, 2, 7}, Focus{b, 2, 7}}, {[]api.ID{a}, Focus{b, 2, 7}, Focus{a, 0, 7}}, {nil, Focus{b, 2, 7}, Focus{1, 0, 7}}, {[]api.ID{b}, Focus{b, 2, 7}, Focus{1, 0, 7}}, {nil, Focus{99, 2, 7}, Focus{1, 0, 7}},
-		{nil, Focus{b, 1, 7}, Focus{1, 1, 7}}, {nil, Focus{b, 0, 7}, Focus{0, 0, 7}}, {nil, Focus{b, 5, 7}, Focus{0, 0, 7}}, {nil, Focus{0, 5, 7}, Focus{0, 5, 7}}, {nil, Focus{1, 2, 7}, Focus{1, 2, 7}},
+		{[]api.ID{a, b}, focus.Focus{b, 2, 7}, focus.Focus{b, 2, 7}}, {[]api.ID{a}, focus.Focus{b, 2, 7}, focus.Focus{a, 0, 7}}, {nil, focus.Focus{b, 2, 7}, focus.Focus{1, 0, 7}}, {[]api.ID{b}, focus.Focus{b, 2, 7}, focus.Focus{1, 0, 7}}, {nil, focus.Focus{99, 2, 7}, focus.Focus{1, 0, 7}},
+		{nil, focus.Focus{b, 1, 7}, focus.Focus{1, 1, 7}}, {nil, focus.Focus{b, 0, 7}, focus.Focus{0, 0, 7}}, {nil, focus.Focus{b, 5, 7}, focus.Focus{0, 0, 7}}, {nil, focus.Focus{0, 5, 7}, focus.Focus{0, 5, 7}}, {nil, focus.Focus{1, 2, 7}, focus.Focus{1, 2, 7}},
 	} {
 		u, v := look(x.mapped...)
 		g, lost := x.f.Lost(u, v)
@@ -79,7 +80,7 @@ func TestWay(t *testing.T) {
 		focus, under api.ID
 		way          []api.ID
 	}{{a, b, []api.ID{b, a}}, {a, 1, []api.ID{a}}, {a, c, []api.ID{a}}, {a, 0, []api.ID{a}}, {1, b, []api.ID{b, a, 1}}, {1, 0, []api.ID{1}}, {1, 99, []api.ID{1}}, {0, b, nil}, {99, b, nil}, {b, a, []api.ID{b}}} {
-		want(t, "Way", slices.Equal(Focus{Window: x.focus}.Way(u, x.under), x.way), true)
+		want(t, "Way", slices.Equal(focus.Focus{Window: x.focus}.Way(u, x.under), x.way), true)
 	}
 }
 
@@ -87,11 +88,11 @@ func TestWay(t *testing.T) {
 func TestSteps(t *testing.T) {
 	u, _ := look()
 	for _, x := range [][2]api.ID{{b, c}, {1, b}, {b, 1}} {
-		want(t, "Steps", slices.Equal(Steps(u, x[0], x[1]), cross.Path(u, x[0], x[1])), true)
+		want(t, "Steps", slices.Equal(focus.Steps(u, x[0], x[1]), cross.Path(u, x[0], x[1])), true)
 	}
 	for _, x := range [][2]api.ID{{b, b}, {0, 0}, {0, 99}, {98, 99}} {
-		want(t, "none", len(Steps(u, x[0], x[1])), 0)
+		want(t, "none", len(focus.Steps(u, x[0], x[1])), 0)
 	}
-	want(t, "in", slices.Equal(Steps(u, 0, b), []cross.Step{{ID: b, Enter: true, Detail: cross.Nonlinear}}), true)
-	want(t, "out", slices.Equal(Steps(u, b, 99), []cross.Step{{ID: b, Enter: false, Detail: cross.Nonlinear}}), true)
+	want(t, "in", slices.Equal(focus.Steps(u, 0, b), []cross.Step{{ID: b, Enter: true, Detail: cross.Nonlinear}}), true)
+	want(t, "out", slices.Equal(focus.Steps(u, b, 99), []cross.Step{{ID: b, Enter: false, Detail: cross.Nonlinear}}), true)
 }

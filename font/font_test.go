@@ -1,4 +1,4 @@
-package font
+package font_test
 
 import (
 	"slices"
@@ -6,6 +6,7 @@ import (
 	"testing"
 
 	"glazier/api"
+	"glazier/font"
 )
 
 func want[T comparable](t *testing.T, what string, got, wanted T) {
@@ -17,12 +18,12 @@ func want[T comparable](t *testing.T, what string, got, wanted T) {
 
 // P26.2, P26.3
 func TestBuiltin(t *testing.T) {
-	f, ok := Builtin("tiny")
+	f, ok := font.Builtin("tiny")
 	want(t, "tiny", ok && f.Ascent() == 5 && f.Descent() == 1, true)
 	want(t, "A", slices.Equal(f.Glyph('A').Rows, []int{3, 5, 7, 1, 3, 0}) && f.Glyph('A').W == 4, true)
 	want(t, "Width", f.Width("AB")*100+f.Width(""), 800)
 	want(t, "Text", strings.HasPrefix(f.Text(), "font 5 1\n32 4 0 0 0 0 0 0\n33 4 3 5 7 1 3 0\n"), true)
-	w, ok := Builtin("wide")
+	w, ok := font.Builtin("wide")
 	want(t, "wide", ok && w.Ascent() == 7 && w.Descent() == 2 && w.Glyph('A').W == 6 && w.Glyph(' ').W == 5, true)
 	want(t, "wide A", slices.Equal(w.Glyph('A').Rows, []int{325 % 32, 462 % 32, 599 % 32, 736 % 32, 873 % 32, 1010 % 32, 1147 % 32, 1284 % 32, 1421 % 32}), true)
 	want(t, "blank", slices.Equal(w.Glyph(' ').Rows, make([]int, 9)), true)
@@ -32,7 +33,7 @@ func TestBuiltin(t *testing.T) {
 	w.Glyph('A').Rows[0] = 99
 	want(t, "new rows", w.Glyph('A').Rows[0], 325%32)
 	want(t, "Width", w.Width("ab\x00")+w.Width("c"), w.Width("ab?c"))
-	z, ok := Builtin("Tiny")
+	z, ok := font.Builtin("Tiny")
 	want(t, "none", !ok && z.Text() == "" && z.Width("abc") == 0 && z.Glyph('a').W == 0 && len(z.Glyph('a').Rows) == 0 && z.Ascent()+z.Descent() == 0, true)
 }
 
@@ -58,12 +59,12 @@ func itoa(n int) string {
 // P26.1, P26.4
 func TestParse(t *testing.T) {
 	for _, name := range []string{"tiny", "wide"} {
-		f, _ := Builtin(name)
-		g, n, e := Parse(f.Text())
+		f, _ := font.Builtin(name)
+		g, n, e := font.Parse(f.Text())
 		want(t, name, n == 0 && e == api.OK && g.Text() == f.Text(), true)
 	}
 	good := text("font 2 0", nil)
-	f, n, e := Parse(good)
+	f, n, e := font.Parse(good)
 	want(t, "good", n == 0 && e == api.OK && f.Text() == good, true)
 	for _, x := range []struct {
 		s string
@@ -76,7 +77,7 @@ func TestParse(t *testing.T) {
 		{text("font 2 0", map[int]string{3: "33 2"}), 3, api.ErrForm}, {text("font 2 0", map[int]string{3: "33 2 3 x"}), 3, api.ErrForm}, {text("font 2 0", map[int]string{3: "34 17 3"}), 3, api.ErrOrder}, {text("font 2 0", map[int]string{3: "33 17 3"}), 3, api.ErrRange},
 		{text("font 2 0", map[int]string{3: "33 2 9"}), 3, api.ErrSize}, {text("font 2 0", map[int]string{3: "33 2 9 9 9"}), 3, api.ErrSize}, {text("font 2 0", map[int]string{3: "33 2 4 0"}), 3, api.ErrValue}, {text("font 2 0", map[int]string{3: "33 0 0 0"}), 0, api.OK}, {text("font 0 2", map[int]string{96: "126 16 65535 0"}), 0, api.OK},
 	} {
-		f, n, e := Parse(x.s)
+		f, n, e := font.Parse(x.s)
 		want(t, "line", n, x.n)
 		want(t, "error", e, x.e)
 		want(t, "font", f.Text() == "", e != api.OK)

@@ -1,10 +1,11 @@
-package gravity
+package gravity_test
 
 import (
 	"strings"
 	"testing"
 
 	"glazier/api"
+	"glazier/gravity"
 )
 
 func rc(x, y, w, h int) api.Rect { return api.Rect{X: x, Y: y, W: w, H: h} }
@@ -25,23 +26,23 @@ func TestShift(t *testing.T) {
 		dx, dy int
 		kept   api.Rect
 	}{
-		{NorthWest, rc(8, 10, 7, 4), 0, 0, rc(0, 0, 4, 4)}, {North, rc(8, 10, 7, 4), 1, 0, rc(1, 0, 4, 4)}, {East, rc(8, 10, 7, 4), 3, 0, rc(3, 0, 4, 4)}, {Static, rc(8, 10, 7, 4), 2, 0, rc(2, 0, 4, 4)},
-		{North, rc(10, 10, 1, 4), -2, 0, rc(0, 0, 1, 4)}, {Center, rc(0, 0, 9, 1), 2, -2, rc(2, 0, 4, 1)}, {SouthEast, rc(0, 0, 9, 1), 5, -3, rc(5, 0, 4, 1)}, {SouthWest, rc(0, 0, 9, 9), 0, 5, rc(0, 5, 4, 4)},
-		{South, rc(0, 0, 7, 9), 1, 5, rc(1, 5, 4, 4)}, {West, rc(0, 0, 7, 9), 0, 2, rc(0, 2, 4, 4)}, {NorthEast, rc(0, 0, 7, 9), 3, 0, rc(3, 0, 4, 4)}, {Static, rc(20, 10, 4, 4), -10, 0, rc(0, 0, 0, 0)},
+		{gravity.NorthWest, rc(8, 10, 7, 4), 0, 0, rc(0, 0, 4, 4)}, {gravity.North, rc(8, 10, 7, 4), 1, 0, rc(1, 0, 4, 4)}, {gravity.East, rc(8, 10, 7, 4), 3, 0, rc(3, 0, 4, 4)}, {gravity.Static, rc(8, 10, 7, 4), 2, 0, rc(2, 0, 4, 4)},
+		{gravity.North, rc(10, 10, 1, 4), -2, 0, rc(0, 0, 1, 4)}, {gravity.Center, rc(0, 0, 9, 1), 2, -2, rc(2, 0, 4, 1)}, {gravity.SouthEast, rc(0, 0, 9, 1), 5, -3, rc(5, 0, 4, 1)}, {gravity.SouthWest, rc(0, 0, 9, 9), 0, 5, rc(0, 5, 4, 4)},
+		{gravity.South, rc(0, 0, 7, 9), 1, 5, rc(1, 5, 4, 4)}, {gravity.West, rc(0, 0, 7, 9), 0, 2, rc(0, 2, 4, 4)}, {gravity.NorthEast, rc(0, 0, 7, 9), 3, 0, rc(3, 0, 4, 4)}, {gravity.Static, rc(20, 10, 4, 4), -10, 0, rc(0, 0, 0, 0)},
 	} {
-		d, ok := Shift(x.g, was, x.now)
-		want(t, Name(x.g), d, api.Point{X: x.dx, Y: x.dy})
-		d, kept, ok2 := Kept(x.g, was, x.now)
-		want(t, Name(x.g), d, api.Point{X: x.dx, Y: x.dy})
-		want(t, Name(x.g), kept, x.kept)
-		want(t, Name(x.g), ok && ok2, true)
+		d, ok := gravity.Shift(x.g, was, x.now)
+		want(t, gravity.Name(x.g), d, api.Point{X: x.dx, Y: x.dy})
+		d, kept, ok2 := gravity.Kept(x.g, was, x.now)
+		want(t, gravity.Name(x.g), d, api.Point{X: x.dx, Y: x.dy})
+		want(t, gravity.Name(x.g), kept, x.kept)
+		want(t, gravity.Name(x.g), ok && ok2, true)
 	}
 	for _, x := range []struct {
 		g        int
 		was, now api.Rect
-	}{{Forget, was, was}, {11, was, was}, {-1, was, was}, {North, rc(0, 0, 0, 0), was}, {North, was, rc(0, 0, 0, 0)}, {North, was, rc(0, 0, 0, 5)}, {Static, rc(api.MaxCoord, 0, 1, 1), was}} {
-		d, kept, ok := Kept(x.g, x.was, x.now)
-		e, ok2 := Shift(x.g, x.was, x.now)
+	}{{gravity.Forget, was, was}, {11, was, was}, {-1, was, was}, {gravity.North, rc(0, 0, 0, 0), was}, {gravity.North, was, rc(0, 0, 0, 0)}, {gravity.North, was, rc(0, 0, 0, 5)}, {gravity.Static, rc(api.MaxCoord, 0, 1, 1), was}} {
+		d, kept, ok := gravity.Kept(x.g, x.was, x.now)
+		e, ok2 := gravity.Shift(x.g, x.was, x.now)
 		want(t, "none", !ok && !ok2 && d == api.Point{} && e == d && kept == api.Rect{}, true)
 	}
 }
@@ -49,28 +50,28 @@ func TestShift(t *testing.T) {
 // P16.3
 func TestNames(t *testing.T) {
 	for g, n := range strings.Fields("forget north-west north north-east west center east south-west south south-east static") {
-		want(t, "Name", Name(g), n)
-		h, ok := Of(n)
-		want(t, "Of", h == g && ok && Check(g) == api.OK, true)
+		want(t, "Name", gravity.Name(g), n)
+		h, ok := gravity.Of(n)
+		want(t, "Of", h == g && ok && gravity.Check(g) == api.OK, true)
 	}
 	for _, g := range []int{-1, 11} {
-		want(t, "none", Name(g) == "" && Check(g) == api.ErrKind, true)
+		want(t, "none", gravity.Name(g) == "" && gravity.Check(g) == api.ErrKind, true)
 	}
-	g, ok := Of("")
+	g, ok := gravity.Of("")
 	want(t, "Of", g == 0 && !ok, true)
 }
 
 // P16.4
 func TestThereAndBack(t *testing.T) {
-	for g := NorthWest; g <= Static; g++ {
+	for g := gravity.NorthWest; g <= gravity.Static; g++ {
 		for i := range 256 {
 			was, now := rc(i&3, i>>2&3, 1+i>>4&3, 1+i>>6), rc(1, 2, 3, 3)
-			d, _ := Shift(g, was, now)
-			e, _ := Shift(g, now, was)
+			d, _ := gravity.Shift(g, was, now)
+			e, _ := gravity.Shift(g, now, was)
 			for _, s := range []int{d.X + e.X, d.Y + e.Y} {
 				want(t, "halves", s == 0 || s == -1, true)
 			}
-			if g == Static {
+			if g == gravity.Static {
 				want(t, "stays", was.X == now.X+d.X && was.Y == now.Y+d.Y, true)
 			} else if was.W == now.W && was.H == now.H {
 				want(t, "stays", d, api.Point{})

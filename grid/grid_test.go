@@ -1,4 +1,4 @@
-package grid
+package grid_test
 
 import (
 	"math"
@@ -7,6 +7,7 @@ import (
 
 	"glazier/api"
 	"glazier/band"
+	"glazier/grid"
 )
 
 func rc(x, y, w, h int) api.Rect { return api.Rect{X: x, Y: y, W: w, H: h} }
@@ -20,9 +21,9 @@ func want[T comparable](t *testing.T, what string, got, wanted T) {
 	}
 }
 
-func must(t *testing.T, w, h int, p api.Pixel) Grid {
+func must(t *testing.T, w, h int, p api.Pixel) grid.Grid {
 	t.Helper()
-	g, e := New(w, h, p)
+	g, e := grid.New(w, h, p)
 	want(t, "New", e, api.OK)
 	return g
 }
@@ -30,24 +31,24 @@ func must(t *testing.T, w, h int, p api.Pixel) Grid {
 // P17.1, P17.2
 func TestOne(t *testing.T) {
 	for _, s := range [][2]int{{0, 1}, {1, 0}, {129, 1}, {1, 129}, {-1, 5}} {
-		g, e := New(s[0], s[1], 5)
-		want(t, "New", e == api.ErrSize && Same(g, Grid{}), true)
+		g, e := grid.New(s[0], s[1], 5)
+		want(t, "New", e == api.ErrSize && grid.Same(g, grid.Grid{}), true)
 	}
 	g := must(t, 3, 2, 7)
 	h := g.Set(1, 0, 9)
 	want(t, "Row", h.Row(0)+h.Row(1), "\x07\x09\x07\x07\x07\x07")
-	want(t, "Row", h.Row(-1)+h.Row(2)+Grid{}.Row(0), "")
+	want(t, "Row", h.Row(-1)+h.Row(2)+grid.Grid{}.Row(0), "")
 	want(t, "At", h.At(1, 0) == 9 && h.At(0, 1) == 7 && h.At(3, 0) == 0 && h.At(-1, 0) == 0 && h.At(0, 2) == 0 && g.At(1, 0) == 7, true)
 	w, hh := h.Size()
 	want(t, "Size", w*10+hh, 32)
-	want(t, "Same", Same(g, h) || !Same(g, h.Set(1, 0, 7)) || Same(g, must(t, 2, 3, 7)), false)
+	want(t, "Same", grid.Same(g, h) || !grid.Same(g, h.Set(1, 0, 7)) || grid.Same(g, must(t, 2, 3, 7)), false)
 	for _, p := range [][2]int{{3, 0}, {-1, 0}, {0, 2}, {0, -1}, {math.MaxInt, 0}} {
-		want(t, "Set", Same(g.Set(p[0], p[1], 1), g), true)
+		want(t, "Set", grid.Same(g.Set(p[0], p[1], 1), g), true)
 	}
 	f := g.Fill(band.Of(rc(-9, -9, 11, 10), rc(2, 1, 99, 99)), 4)
 	want(t, "Fill", f.Row(0)+f.Row(1), "\x04\x04\x07\x07\x07\x04")
-	want(t, "Fill", Same(f.Fill(band.Of(rc(0, 0, 3, 2)), 8), must(t, 3, 2, 8)) && Same(g, must(t, 3, 2, 7)), true)
-	want(t, "zero", Same(Grid{}.Fill(band.Of(rc(0, 0, 9, 9)), 1), Grid{}) && Same(Grid{}.Set(0, 0, 1), Grid{}), true)
+	want(t, "Fill", grid.Same(f.Fill(band.Of(rc(0, 0, 3, 2)), 8), must(t, 3, 2, 8)) && grid.Same(g, must(t, 3, 2, 7)), true)
+	want(t, "zero", grid.Same(grid.Grid{}.Fill(band.Of(rc(0, 0, 9, 9)), 1), grid.Grid{}) && grid.Same(grid.Grid{}.Set(0, 0, 1), grid.Grid{}), true)
 }
 
 // P17.3
@@ -70,7 +71,7 @@ func TestCropAndLay(t *testing.T) {
 	want(t, "Lay", l.Row(0)+l.Row(1), "\x07\x09\x07\x07\x01\x07")
 	for _, x := range []int{m + 1, -m - 1, math.MaxInt, math.MinInt} {
 		all := band.Of(rc(-m, -m, 2*m, 2*m))
-		want(t, "Lay", Same(g.Lay(h, x, 0, all), g) && Same(g.Lay(h, 0, x, all), g), true)
+		want(t, "Lay", grid.Same(g.Lay(h, x, 0, all), g) && grid.Same(g.Lay(h, 0, x, all), g), true)
 	}
 }
 
@@ -84,7 +85,7 @@ func TestFollows(t *testing.T) {
 		}
 		r := rc(rnd.Intn(9)-4, rnd.Intn(9)-4, 1+rnd.Intn(6), 1+rnd.Intn(6))
 		whole, _ := g.Crop(rc(0, 0, 5, 4), 0)
-		want(t, "whole", Same(whole, g), true)
+		want(t, "whole", grid.Same(whole, g), true)
 		c, _ := g.Crop(r, 77)
 		for x := range r.W {
 			for y := range r.H {
@@ -95,6 +96,6 @@ func TestFollows(t *testing.T) {
 				want(t, "Crop", c.At(x, y), p)
 			}
 		}
-		want(t, "laid again", Same(g.Lay(c, r.X, r.Y, band.Of(r)), g), true)
+		want(t, "laid again", grid.Same(g.Lay(c, r.X, r.Y, band.Of(r)), g), true)
 	}
 }

@@ -1,10 +1,11 @@
-package hands
+package hands_test
 
 import (
 	"slices"
 	"testing"
 
 	"glazier/api"
+	"glazier/hands"
 	"glazier/panes"
 	"glazier/passive"
 	"glazier/route"
@@ -25,7 +26,7 @@ const a, b, c = int64(1<<20 + 1), int64(2<<20 + 1), int64(1<<20 + 2)
 func do(t *testing.T, w world.World, client, code int, n ...int64) (world.World, string) {
 	t.Helper()
 	was := w.Text()
-	u, said, ok := Do(w, client, api.Request{Code: code, N: n})
+	u, said, ok := hands.Do(w, client, api.Request{Code: code, N: n})
 	if !ok {
 		u, said, ok = panes.Do(w, client, api.Request{Code: code, N: n})
 	}
@@ -79,10 +80,10 @@ func TestLooks(t *testing.T) {
 		}
 	}
 	for _, code := range []int{0, 36, 50, 99} {
-		u, said, ok := Do(w, 1, api.Request{Code: code})
+		u, said, ok := hands.Do(w, 1, api.Request{Code: code})
 		want(t, "other code", !ok && len(said) == 0 && u.Text() == w.Text(), true)
 	}
-	want(t, "Codes", slices.Equal(Codes(), []int{37, 38, 39, 40, 41, 42, 43, 44, 45, 46, 47, 48, 49}), true)
+	want(t, "Codes", slices.Equal(hands.Codes(), []int{37, 38, 39, 40, 41, 42, 43, 44, 45, 46, 47, 48, 49}), true)
 }
 
 // P49.2: the chapter's example, and what grabs do.

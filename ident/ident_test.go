@@ -1,9 +1,10 @@
-package ident
+package ident_test
 
 import (
 	"testing"
 
 	"glazier/api"
+	"glazier/ident"
 )
 
 func want[T comparable](t *testing.T, what string, got, wanted T) {
@@ -16,11 +17,11 @@ func want[T comparable](t *testing.T, what string, got, wanted T) {
 // P7.1
 func TestWhose(t *testing.T) {
 	for _, c := range []int{-1, 0, 9} {
-		b, ok := Base(c)
+		b, ok := ident.Base(c)
 		want(t, "Base", b == 0 && !ok, true)
-		want(t, "Mine", Mine(c, Root) || Mine(c, 0) || Mine(c, api.ID(c)<<20+1), false)
+		want(t, "Mine", ident.Mine(c, ident.Root) || ident.Mine(c, 0) || ident.Mine(c, api.ID(c)<<20+1), false)
 	}
-	b, ok := Base(2)
+	b, ok := ident.Base(2)
 	want(t, "Base", b == 2097152 && ok, true)
 	for _, x := range []struct {
 		id     api.ID
@@ -31,24 +32,24 @@ func TestWhose(t *testing.T) {
 		{0, 0, false, api.ErrNone}, {1, 0, true, api.OK}, {2, 0, false, api.ErrRange}, {1 << 20, 0, false, api.ErrRange}, {1<<20 + 1, 1, true, api.OK}, {1<<21 - 1, 1, true, api.OK},
 		{2097154, 2, true, api.OK}, {2097152, 0, false, api.ErrRange}, {9<<20 - 1, 8, true, api.OK}, {9 << 20, 0, false, api.ErrRange}, {9<<20 + 1, 0, false, api.ErrRange}, {1<<32 - 1, 0, false, api.ErrRange},
 	} {
-		c, ok := Client(x.id)
+		c, ok := ident.Client(x.id)
 		want(t, "Client", c == x.client && ok == x.ok, true)
-		want(t, "Check", Check(x.id), x.e)
+		want(t, "Check", ident.Check(x.id), x.e)
 		// P7.3: one client's alone.
 		for c := 0; c < 11; c++ {
-			want(t, "Mine", Mine(c, x.id), x.ok && x.id != Root && c == x.client)
+			want(t, "Mine", ident.Mine(c, x.id), x.ok && x.id != ident.Root && c == x.client)
 		}
 	}
 }
 
 // P7.2, P7.3
 func TestFresh(t *testing.T) {
-	id, ok := Fresh(2, 2097153, 2097155, 2097153, 1, 77, 1<<20+1)
+	id, ok := ident.Fresh(2, 2097153, 2097155, 2097153, 1, 77, 1<<20+1)
 	want(t, "Fresh", id == 2097154 && ok, true)
-	id, ok = Fresh(2)
+	id, ok = ident.Fresh(2)
 	want(t, "Fresh", id == 2097153 && ok, true)
 	for _, c := range []int{0, 9, -3} {
-		id, ok = Fresh(c)
+		id, ok = ident.Fresh(c)
 		want(t, "Fresh", id == 0 && !ok, true)
 	}
 	var used []api.ID
@@ -56,8 +57,8 @@ func TestFresh(t *testing.T) {
 		used = append(used, 3<<20+i)
 	}
 	last := used[len(used)-1]
-	id, ok = Fresh(3, used[:len(used)-1]...)
+	id, ok = ident.Fresh(3, used[:len(used)-1]...)
 	want(t, "the last one", id == last && ok, true)
-	id, ok = Fresh(3, used...)
+	id, ok = ident.Fresh(3, used...)
 	want(t, "all used", id == 0 && !ok, true)
 }

@@ -1,4 +1,4 @@
-package image
+package image_test
 
 import (
 	"math"
@@ -9,6 +9,7 @@ import (
 	"glazier/api"
 	"glazier/band"
 	"glazier/grid"
+	"glazier/image"
 	"glazier/pen"
 	"glazier/rop"
 	"glazier/sheet"
@@ -31,18 +32,18 @@ func random(rnd *rand.Rand, w, h int) grid.Grid {
 // P25.1
 func TestPack(t *testing.T) {
 	g := random(rand.New(rand.NewSource(1)), 128, 128)
-	u, e := Unpack(128, 128, Pack(g))
+	u, e := image.Unpack(128, 128, image.Pack(g))
 	want(t, "Unpack", e == api.OK && grid.Same(u, g), true)
-	s, _ := Unpack(3, 2, "abcdef")
-	want(t, "Pack", Pack(s), "abcdef")
+	s, _ := image.Unpack(3, 2, "abcdef")
+	want(t, "Pack", image.Pack(s), "abcdef")
 	want(t, "At", s.At(0, 1), 'd')
-	want(t, "zero", Pack(grid.Grid{}), "")
+	want(t, "zero", image.Pack(grid.Grid{}), "")
 	for _, x := range []struct {
 		w, h int
 		b    string
 		e    api.Errno
 	}{{0, 1, "", api.ErrSize}, {1, 129, "", api.ErrSize}, {2, 2, "abc", api.ErrShort}, {2, 2, "abcde", api.ErrLong}} {
-		u, e := Unpack(x.w, x.h, x.b)
+		u, e := image.Unpack(x.w, x.h, x.b)
 		want(t, "Unpack", e == x.e && grid.Same(u, grid.Grid{}), true)
 	}
 }
@@ -54,12 +55,12 @@ func TestShort(t *testing.T) {
 		{"", ""}, {"\x07\x07\x07\x07\x01\x02", "\x81\x07\x01\x01\x02"}, {"a", "\x00a"}, {"aa", "\x01aa"}, {a(3), "\x80a"}, {a(130), "\xffa"}, {a(131), "\xffa\x00a"}, {a(133), "\xffa\x80a"},
 		{"xyaab" + a(3), "\x04xyaab\x80a"}, {strings.Repeat("ab", 64), "\x7f" + strings.Repeat("ab", 64)}, {strings.Repeat("ab", 64) + "a", "\x7f" + strings.Repeat("ab", 64) + "\x00a"},
 	} {
-		want(t, "Short", Short(x[0]), x[1])
-		l, e := Long(x[1])
+		want(t, "Short", image.Short(x[0]), x[1])
+		l, e := image.Long(x[1])
 		want(t, "Long", l == x[0] && e == api.OK, true)
 	}
-	want(t, "Short", Short(a(65537)), "")
-	l, e := Long("\x00\x09\x80\x05")
+	want(t, "Short", image.Short(a(65537)), "")
+	l, e := image.Long("\x00\x09\x80\x05")
 	want(t, "Long", l == "\x09\x05\x05\x05" && e == api.OK, true)
 	whole := strings.Repeat("\xffa", 504) + "\x8da" // 504 times 130, and 16: 65536
 	for _, x := range []struct {
@@ -68,7 +69,7 @@ func TestShort(t *testing.T) {
 	}{
 		{strings.Repeat("\x80", 131073), api.ErrLong}, {"\x80", api.ErrShort}, {"\x01a", api.ErrShort}, {"\x00a\x05", api.ErrShort}, {whole, api.OK}, {whole + "\x00a", api.ErrLong}, {whole + "\x05a", api.ErrShort}, {"\x00a\x00a\x00a", api.OK},
 	} {
-		l, e := Long(x.s)
+		l, e := image.Long(x.s)
 		want(t, "Long", e, x.e)
 		want(t, "Long", l == "", e != api.OK)
 	}
@@ -85,8 +86,8 @@ func TestThereAndBack(t *testing.T) {
 		if i%4 == 3 {
 			rnd.Read(b)
 		}
-		s := Short(string(b))
-		l, e := Long(s)
+		s := image.Short(string(b))
+		l, e := image.Long(s)
 		want(t, "back", l == string(b) && e == api.OK, true)
 		want(t, "length", len(s) <= len(b)+(len(b)+127)/128, true)
 	}
@@ -99,9 +100,9 @@ func TestPutAndGet(t *testing.T) {
 	for op := range 16 {
 		g, i := random(rnd, 5, 4), random(rnd, 3, 3)
 		x, y, p := rnd.Intn(8)-3, rnd.Intn(8)-3, pen.Pen{Func: op, Planes: api.Pixel(rnd.Intn(256))}
-		h := Put(g, clip, i, x, y, p)
+		h := image.Put(g, clip, i, x, y, p)
 		r := rc(rnd.Intn(8)-3, rnd.Intn(8)-3, 1+rnd.Intn(6), 1+rnd.Intn(6))
-		got, e := Get(g, clip, r, 77)
+		got, e := image.Get(g, clip, r, 77)
 		want(t, "Get", e, api.OK)
 		for px := -1; px < 7; px++ {
 			for py := -1; py < 7; py++ {
@@ -122,14 +123,14 @@ func TestPutAndGet(t *testing.T) {
 	}
 	g := random(rnd, 5, 4)
 	for _, n := range []int{math.MaxInt, math.MinInt, 1 << 20, -1 << 20} {
-		want(t, "far", grid.Same(Put(g, clip, g, n, 0, pen.New()), g) && grid.Same(Put(g, clip, g, 0, n, pen.New()), g), true)
+		want(t, "far", grid.Same(image.Put(g, clip, g, n, 0, pen.New()), g) && grid.Same(image.Put(g, clip, g, 0, n, pen.New()), g), true)
 	}
-	want(t, "pen", grid.Same(Put(g, clip, random(rnd, 5, 4), 0, 0, pen.Pen{Func: 16, Planes: 255}), g), true)
+	want(t, "pen", grid.Same(image.Put(g, clip, random(rnd, 5, 4), 0, 0, pen.Pen{Func: 16, Planes: 255}), g), true)
 	for _, x := range []struct {
 		r api.Rect
 		e api.Errno
 	}{{rc(1<<21, 0, 0, 1), api.ErrSize}, {rc(0, 0, 1, 129), api.ErrSize}, {rc(1<<20+1, 0, 1, 1), api.ErrRange}, {rc(0, -1<<20-1, 1, 1), api.ErrRange}, {rc(1<<20, -1<<20, 128, 128), api.OK}} {
-		h, e := Get(g, clip, x.r, 9)
+		h, e := image.Get(g, clip, x.r, 9)
 		want(t, "Get", e, x.e)
 		want(t, "Get", h.At(0, 0) == 9, e == api.OK)
 	}

@@ -1,4 +1,4 @@
-package manager
+package manager_test
 
 import (
 	"math"
@@ -8,6 +8,7 @@ import (
 	"testing"
 
 	"glazier/api"
+	"glazier/manager"
 	"glazier/pack"
 )
 
@@ -58,7 +59,7 @@ func title(seq int, s string) api.Out {
 func mapRequest(id api.ID) api.Out { return event(api.EvMapRequest, 1, int64(id)) }
 
 // steps takes messages, and tells what the last one asked.
-func steps(t *testing.T, m Manager, l ...api.Out) (Manager, string) {
+func steps(t *testing.T, m manager.Manager, l ...api.Out) (manager.Manager, string) {
 	t.Helper()
 	last := ""
 	for _, o := range l {
@@ -70,16 +71,16 @@ func steps(t *testing.T, m Manager, l ...api.Out) (Manager, string) {
 	return m, last
 }
 
-func started(t *testing.T) Manager {
+func started(t *testing.T) manager.Manager {
 	t.Helper()
-	m, l, e := New(1, 60, 40)
+	m, l, e := manager.New(1, 60, 40)
 	want(t, "New", e, api.OK)
 	want(t, "requests", asked(t, l), "7 1 32 0 0 0 0 0 3072; 23 1048578 'tiny'; 19 pen; 20 pen 28 0 0 1 200 1048578")
 	return m
 }
 
 // with is a manager that has framed a, of 20 by 10.
-func with(t *testing.T) Manager {
+func with(t *testing.T) manager.Manager {
 	t.Helper()
 	m, _ := steps(t, started(t), mapRequest(a), size(5, 20, 10), title(6, "a"))
 	return m
@@ -91,7 +92,7 @@ func TestNewAndSpot(t *testing.T) {
 		client, w, h int
 		e            api.Errno
 	}{{0, 0, 0, api.ErrRange}, {9, 5, 5, api.ErrRange}, {1, 0, 5, api.ErrSize}, {1, 5, 129, api.ErrSize}, {8, 128, 128, api.OK}} {
-		m, l, e := New(x.client, x.w, x.h)
+		m, l, e := manager.New(x.client, x.w, x.h)
 		want(t, "New", e == x.e && (len(l) == 4) == (e == api.OK) && len(m.Frames()) == 0, true)
 	}
 	r := api.Rect{X: 5, Y: -3, W: 60, H: 40}
@@ -99,7 +100,7 @@ func TestNewAndSpot(t *testing.T) {
 		n, w, h int
 		p       api.Point
 	}{{0, 22, 20, api.Point{X: 5, Y: -3}}, {1, 22, 20, api.Point{X: 17, Y: 7}}, {5, 22, 20, api.Point{X: 5 + 60%39, Y: -3 + 50%21}}, {5, 60, 40, api.Point{X: 5, Y: -3}}, {5, 99, 99, api.Point{X: 5, Y: -3}}, {1, 59, 39, api.Point{X: 5 + 12%2, Y: -3 + 10%2}}, {-7, 1, 1, api.Point{X: 5, Y: -3}}, {math.MaxInt, 22, 20, api.Point{X: 5 + 12<<20%39, Y: -3 + 10<<20%21}}} {
-		want(t, "Spot", Spot(x.n, x.w, x.h, r), x.p)
+		want(t, "Spot", manager.Spot(x.n, x.w, x.h, r), x.p)
 	}
 }
 
@@ -162,7 +163,7 @@ func TestFaults(t *testing.T) {
 		u, l := m.Step(o)
 		want(t, "ignored", len(l) == 0 && slices.Equal(u.Frames(), m.Frames()), true)
 	}
-	z, l := Manager{}.Step(mapRequest(a))
+	z, l := manager.Manager{}.Step(mapRequest(a))
 	want(t, "zero", len(l) == 0 && len(z.Frames()) == 0, true)
 }
 

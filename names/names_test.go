@@ -1,4 +1,4 @@
-package names
+package names_test
 
 import (
 	"slices"
@@ -7,6 +7,7 @@ import (
 	"testing"
 
 	"glazier/api"
+	"glazier/names"
 	"glazier/prop"
 	"glazier/tell"
 	"glazier/world"
@@ -39,7 +40,7 @@ func example(t *testing.T) world.World {
 func do(t *testing.T, w world.World, client, code int, n []int64, text string, l ...int64) (world.World, string) {
 	t.Helper()
 	was := w.Text()
-	u, said, ok := Do(w, client, api.Request{Code: code, N: n, B: text, L: l})
+	u, said, ok := names.Do(w, client, api.Request{Code: code, N: n, B: text, L: l})
 	want(t, "one of its requests", ok, true)
 	want(t, "as it was", w.Text(), was)
 	var lines []string
@@ -120,12 +121,12 @@ func TestRequests(t *testing.T) {
 func TestOthers(t *testing.T) {
 	w := example(t)
 	for _, code := range []int{0, 10, 17, 49, 54, 99} {
-		u, said, ok := Do(w, 1, api.Request{Code: code})
+		u, said, ok := names.Do(w, 1, api.Request{Code: code})
 		want(t, "other code", !ok && len(said) == 0 && u.Text() == w.Text(), true)
 	}
-	want(t, "Codes", slices.Equal(Codes(), []int{11, 12, 13, 14, 15, 16, 50, 51, 52, 53}), true)
+	want(t, "Codes", slices.Equal(names.Codes(), []int{11, 12, 13, 14, 15, 16, 50, 51, 52, 53}), true)
 	w.In.Choice, _ = w.In.Choice.Set(2, a, api.MaskProperty)
-	l := Property(w, a, 9, 1)
+	l := names.Property(w, a, 9, 1)
 	want(t, "Property", len(l) == 1 && l[0].Client == 2 && l[0].Out.Code == api.EvProperty && slices.Equal(l[0].Out.N, []int64{int64(a), 9, 1, 50}), true)
 }
 

@@ -1,10 +1,11 @@
-package order
+package order_test
 
 import (
 	"strings"
 	"testing"
 
 	"glazier/api"
+	"glazier/order"
 )
 
 func want[T comparable](t *testing.T, what string, got, wanted T) {
@@ -21,15 +22,15 @@ func TestPutAndGet(t *testing.T) {
 		v           int64
 		b           string
 	}{
-		{Little, 2, 258, "\x02\x01"}, {Big, 2, 258, "\x01\x02"}, {Big, -2, -2, "\xff\xfe"},
-		{Little, 1, 0, "\x00"}, {Little, 4, 4294967295, "\xff\xff\xff\xff"},
-		{Big, -4, -2147483648, "\x80\x00\x00\x00"}, {Little, -4, 2147483647, "\xff\xff\xff\x7f"},
-		{Little, -1, -1, "\xff"}, {Big, -1, 127, "\x7f"},
+		{order.Little, 2, 258, "\x02\x01"}, {order.Big, 2, 258, "\x01\x02"}, {order.Big, -2, -2, "\xff\xfe"},
+		{order.Little, 1, 0, "\x00"}, {order.Little, 4, 4294967295, "\xff\xff\xff\xff"},
+		{order.Big, -4, -2147483648, "\x80\x00\x00\x00"}, {order.Little, -4, 2147483647, "\xff\xff\xff\x7f"},
+		{order.Little, -1, -1, "\xff"}, {order.Big, -1, 127, "\x7f"},
 	} {
-		b, e := Put(x.order, x.size, x.v)
+		b, e := order.Put(x.order, x.size, x.v)
 		want(t, "Put", e, api.OK)
 		want(t, "Put", b, x.b)
-		v, e := Get(x.order, x.size, x.b)
+		v, e := order.Get(x.order, x.size, x.b)
 		want(t, "Get", e, api.OK)
 		want(t, "Get", v, x.v)
 	}
@@ -42,7 +43,7 @@ func TestPutAndGet(t *testing.T) {
 		{0, 1, 256, api.ErrRange}, {0, 1, -1, api.ErrRange}, {0, 2, 65536, api.ErrRange}, {1, 4, 1 << 32, api.ErrRange},
 		{0, -1, 128, api.ErrRange}, {0, -1, -129, api.ErrRange}, {0, -2, 32768, api.ErrRange}, {0, -4, 1 << 31, api.ErrRange},
 	} {
-		b, e := Put(x.order, x.size, x.v)
+		b, e := order.Put(x.order, x.size, x.v)
 		want(t, "Put", e, x.e)
 		want(t, "Put", b, "")
 	}
@@ -51,7 +52,7 @@ func TestPutAndGet(t *testing.T) {
 		b           string
 		e           api.Errno
 	}{{2, 3, "", api.ErrKind}, {1, 5, "", api.ErrSize}, {0, 4, "abc", api.ErrShort}, {0, 1, "", api.ErrShort}, {1, -2, "abc", api.ErrLong}} {
-		v, e := Get(x.order, x.size, x.b)
+		v, e := order.Get(x.order, x.size, x.b)
 		want(t, "Get", e, x.e)
 		want(t, "Get", v, 0)
 	}
@@ -59,33 +60,33 @@ func TestPutAndGet(t *testing.T) {
 
 // P1.2
 func TestRows(t *testing.T) {
-	s, e := Row(Big, -2, 1, -2, 3)
+	s, e := order.Row(order.Big, -2, 1, -2, 3)
 	want(t, "Row", e, api.OK)
 	want(t, "Row", s, "\x00\x01\xff\xfe\x00\x03")
-	l, e := Rows(Big, -2, s)
+	l, e := order.Rows(order.Big, -2, s)
 	want(t, "Rows", e, api.OK)
 	want(t, "Rows", len(l) == 3 && l[0] == 1 && l[1] == -2 && l[2] == 3, true)
-	_, e = Row(3, 3, make([]int64, 65537)...)
+	_, e = order.Row(3, 3, make([]int64, 65537)...)
 	want(t, "Row", e, api.ErrKind)
-	_, e = Row(0, 3, make([]int64, 65537)...)
+	_, e = order.Row(0, 3, make([]int64, 65537)...)
 	want(t, "Row", e, api.ErrSize)
-	_, e = Row(0, 1, append(make([]int64, 65536), 256)...)
+	_, e = order.Row(0, 1, append(make([]int64, 65536), 256)...)
 	want(t, "Row", e, api.ErrMany)
-	_, e = Row(0, 4, make([]int64, 65536)...)
+	_, e = order.Row(0, 4, make([]int64, 65536)...)
 	want(t, "Row", e, api.OK)
-	s, e = Row(0, 1, 1, 256)
+	s, e = order.Row(0, 1, 1, 256)
 	want(t, "Row", e, api.ErrRange)
 	want(t, "Row", s, "")
-	_, e = Rows(2, 9, "")
+	_, e = order.Rows(2, 9, "")
 	want(t, "Rows", e, api.ErrKind)
-	_, e = Rows(1, 9, "")
+	_, e = order.Rows(1, 9, "")
 	want(t, "Rows", e, api.ErrSize)
-	_, e = Rows(1, 4, strings.Repeat("a", 262145))
+	_, e = order.Rows(1, 4, strings.Repeat("a", 262145))
 	want(t, "Rows", e, api.ErrLong)
-	l, e = Rows(1, 4, strings.Repeat("a", 262144))
+	l, e = order.Rows(1, 4, strings.Repeat("a", 262144))
 	want(t, "Rows", e, api.OK)
 	want(t, "Rows", len(l), 65536)
-	l, e = Rows(1, 4, "abcdef")
+	l, e = order.Rows(1, 4, "abcdef")
 	want(t, "Rows", e, api.ErrShort)
 	want(t, "Rows", len(l), 0)
 }
@@ -93,9 +94,9 @@ func TestRows(t *testing.T) {
 // P1.3
 func TestPad(t *testing.T) {
 	for n, p := range []int{0, 3, 2, 1, 0, 3, 2} {
-		want(t, "Pad", Pad(n), p)
+		want(t, "Pad", order.Pad(n), p)
 	}
-	want(t, "Pad below 0", Pad(-5), 0)
+	want(t, "Pad below 0", order.Pad(-5), 0)
 }
 
 // P1.4
@@ -104,9 +105,9 @@ func TestThereAndBack(t *testing.T) {
 		b := string([]byte{byte(u), byte(u >> 8)})
 		turned := string([]byte{byte(u >> 8), byte(u)})
 		for _, size := range []int{2, -2} {
-			v, e := Get(Little, size, b)
-			w, _ := Get(Big, size, turned)
-			s, f := Put(Little, size, v)
+			v, e := order.Get(order.Little, size, b)
+			w, _ := order.Get(order.Big, size, turned)
+			s, f := order.Put(order.Little, size, v)
 			if e != api.OK || f != api.OK || s != b || v != w {
 				t.Fatal(u, size, v, w, s)
 			}

@@ -1,4 +1,4 @@
-package pack
+package pack_test
 
 import (
 	"math/rand"
@@ -7,6 +7,7 @@ import (
 
 	"glazier/api"
 	"glazier/code"
+	"glazier/pack"
 )
 
 func want[T comparable](t *testing.T, what string, got, wanted T) {
@@ -31,14 +32,14 @@ func TestPut(t *testing.T) {
 		{0, api.Request{Code: 2}, "", api.ErrMatch}, {0, api.Request{Code: 2, N: []int64{-1}}, "", api.ErrRange}, {0, api.Request{Code: 58, B: "a"}, "", api.ErrMatch},
 		{0, api.Request{Code: 11, N: []int64{0}, B: strings.Repeat("a", 65528)}, "", api.ErrLong},
 	} {
-		s, e := Put(x.order, x.r)
+		s, e := pack.Put(x.order, x.r)
 		want(t, "Put", s, x.s)
 		want(t, "Put", e, x.e)
 		if x.order < 2 {
-			want(t, "Check", Check(x.r), x.e)
+			want(t, "Check", pack.Check(x.r), x.e)
 		}
 	}
-	s, e := Put(0, api.Request{Code: 11, N: []int64{0}, B: strings.Repeat("a", 65524)})
+	s, e := pack.Put(0, api.Request{Code: 11, N: []int64{0}, B: strings.Repeat("a", 65524)})
 	want(t, "Put", e, api.OK)
 	want(t, "Put", len(s), 65536)
 }
@@ -54,9 +55,9 @@ func TestGet(t *testing.T) {
 		{0, "\x3a\x09\x00\x00", api.ErrEmpty}, {0, "\x3a\x09\xff\xff", api.ErrLong}, {0, "\x3a\x09\x02\x00", api.ErrSize}, {0, "\x3a\x09\x01\x00\x00", api.ErrSize},
 		{0, "\x3a\x09\x01\x00", api.ErrForm}, {0, "\x02\x00\x01\x00", api.ErrShort}, {0, "\x3a\x00\x02\x00\x00\x00\x00\x00", api.ErrForm}, {0, "\x3a\x00\x01\x00", api.OK},
 	} {
-		r, e := Get(x.order, x.s)
+		r, e := pack.Get(x.order, x.s)
 		want(t, "Get "+x.s, e, x.e)
-		want(t, "Get "+x.s, e == api.OK || Same(r, api.Request{}), true)
+		want(t, "Get "+x.s, e == api.OK || pack.Same(r, api.Request{}), true)
 	}
 }
 
@@ -71,15 +72,15 @@ func TestLengthAndSame(t *testing.T) {
 		{3, "", 0, api.ErrOrder}, {0, "abc", 0, api.ErrShort}, {0, "ab\x00\x00", 0, api.ErrEmpty}, {0, "ab\x01\x40", 0, api.ErrLong},
 		{0, "ab\x00\x40rest", 65536, api.OK}, {1, "ab\x00\x02", 8, api.OK},
 	} {
-		n, e := Length(x.order, x.s)
+		n, e := pack.Length(x.order, x.s)
 		want(t, "Length", n, x.n)
 		want(t, "Length", e, x.e)
 	}
 	a := api.Request{Code: 1, N: []int64{1}, B: "a", L: []int64{2}}
 	for i, b := range []api.Request{{Code: 2, N: []int64{1}, B: "a", L: []int64{2}}, {Code: 1, B: "a", L: []int64{2}}, {Code: 1, N: []int64{1}, L: []int64{2}}, {Code: 1, N: []int64{1}, B: "a", L: []int64{3}}, a} {
-		want(t, "Same", Same(a, b), i == 4)
+		want(t, "Same", pack.Same(a, b), i == 4)
 	}
-	want(t, "Same", Same(api.Request{N: []int64{}}, api.Request{L: []int64{}}), true)
+	want(t, "Same", pack.Same(api.Request{N: []int64{}}, api.Request{L: []int64{}}), true)
 }
 
 // P4.3
@@ -97,16 +98,16 @@ func TestThereAndBack(t *testing.T) {
 		if f.List != 0 {
 			r.L = []int64{1, 2, 3}
 		}
-		little, _ := Put(0, r)
-		big, _ := Put(1, r)
-		n, e := Length(1, big)
+		little, _ := pack.Put(0, r)
+		big, _ := pack.Put(1, r)
+		n, e := pack.Length(1, big)
 		want(t, "length", n, len(little))
 		want(t, "length", e, api.OK)
 		for o, s := range []string{little, big} {
-			g, e := Get(o, s)
-			again, _ := Put(o, g)
+			g, e := pack.Get(o, s)
+			again, _ := pack.Put(o, g)
 			want(t, code.Name(c), e, api.OK)
-			want(t, code.Name(c), Same(g, r) && again == s, true)
+			want(t, code.Name(c), pack.Same(g, r) && again == s, true)
 		}
 	}
 }

@@ -1,4 +1,4 @@
-package paint
+package paint_test
 
 import (
 	"math"
@@ -8,6 +8,7 @@ import (
 	"glazier/api"
 	"glazier/band"
 	"glazier/grid"
+	"glazier/paint"
 	"glazier/pen"
 	"glazier/region"
 	"glazier/rop"
@@ -48,13 +49,13 @@ func some(rnd *rand.Rand) band.Region {
 func TestExamples(t *testing.T) {
 	p := pen.New()
 	p.Fore, p.Func = 5, rop.Xor
-	g := Rects(blank(3, 2), band.Of(all), p, rc(0, 0, 2, 1), rc(1, 0, 1, 1))
+	g := paint.Rects(blank(3, 2), band.Of(all), p, rc(0, 0, 2, 1), rc(1, 0, 1, 1))
 	want(t, "Rects", g.Row(0)+g.Row(1), "\x05\x00\x00\x00\x00\x00")
-	g = Tile(blank(3, 2), band.Of(all), band.Of(all), blank(2, 1).Set(0, 0, 1).Set(1, 0, 2), 1, 0)
+	g = paint.Tile(blank(3, 2), band.Of(all), band.Of(all), blank(2, 1).Set(0, 0, 1).Set(1, 0, 2), 1, 0)
 	want(t, "Tile", g.Row(0)+g.Row(1), "\x02\x01\x02\x02\x01\x02")
-	g = Points(blank(3, 2), band.Of(rc(0, 0, 2, 2)), p, pt(0, 0), pt(1, 1), pt(0, 0), pt(2, 0), pt(1, 1), pt(1, 1), pt(-1, 0), pt(math.MaxInt, 0))
+	g = paint.Points(blank(3, 2), band.Of(rc(0, 0, 2, 2)), p, pt(0, 0), pt(1, 1), pt(0, 0), pt(2, 0), pt(1, 1), pt(1, 1), pt(-1, 0), pt(math.MaxInt, 0))
 	want(t, "Points", g.Row(0)+g.Row(1), "\x00\x00\x00\x00\x05\x00")
-	g = Rects(blank(3, 2), band.Of(all), p, rc(0, 0, 0, 2), rc(-1<<20-1, 0, 1<<21, 9), api.Rect{}, rc(2, 1, 100, 100))
+	g = paint.Rects(blank(3, 2), band.Of(all), p, rc(0, 0, 0, 2), rc(-1<<20-1, 0, 1<<21, 9), api.Rect{}, rc(2, 1, 100, 100))
 	want(t, "Rects", g.Row(0)+g.Row(1), "\x00\x00\x00\x00\x00\x05")
 }
 
@@ -64,12 +65,12 @@ func TestPlaces(t *testing.T) {
 	for op := range 16 {
 		g, tile, clip, what, other := random(rnd, 6, 5), random(rnd, 2, 3), some(rnd), some(rnd), some(rnd)
 		p := pen.Pen{Func: op, Planes: api.Pixel(rnd.Intn(256)), Fore: api.Pixel(rnd.Intn(256)), Back: api.Pixel(rnd.Intn(256))}
-		fore, back, tiled := Region(g, clip, what, p), Back(g, clip, what, p), Tile(g, clip, what, tile, -7, 4)
+		fore, back, tiled := paint.Region(g, clip, what, p), paint.Back(g, clip, what, p), paint.Tile(g, clip, what, tile, -7, 4)
 		l := []api.Rect{rc(0, 0, 3, 3), rc(1, 1, 4, 2), rc(1, 2, 1, 1), rc(1, 2, 1, 1)}
-		rects := Rects(g, clip, p, l...)
+		rects := paint.Rects(g, clip, p, l...)
 		one := g
 		for _, r := range l {
-			one = Region(one, clip, band.Of(r), p)
+			one = paint.Region(one, clip, band.Of(r), p)
 		}
 		want(t, "Rects", grid.Same(rects, one), true)
 		for x := range 6 {
@@ -84,9 +85,9 @@ func TestPlaces(t *testing.T) {
 				want(t, "planes", (rects.At(x, y)^g.At(x, y))&^p.Planes, 0)
 			}
 		}
-		two := Region(Region(g, clip, region.Minus(what, other), p), clip, region.Meet(what, other), p)
+		two := paint.Region(paint.Region(g, clip, region.Minus(what, other), p), clip, region.Meet(what, other), p)
 		want(t, "parts", grid.Same(two, fore), true)
-		want(t, "tile again", grid.Same(Tile(tiled, clip, what, tile, -7, 4), tiled), true)
+		want(t, "tile again", grid.Same(paint.Tile(tiled, clip, what, tile, -7, 4), tiled), true)
 	}
 }
 
@@ -95,14 +96,14 @@ func TestWrong(t *testing.T) {
 	g := blank(3, 2).Set(1, 1, 8)
 	for _, p := range []pen.Pen{{Func: 16, Fore: 5, Planes: 255}, {Func: 3, Fore: 5, Planes: 255, X: 40000}} {
 		r := band.Of(all)
-		want(t, "pen", grid.Same(Region(g, r, r, p), g) && grid.Same(Back(g, r, r, p), g) && grid.Same(Points(g, r, p, pt(0, 0)), g) && grid.Same(Rects(g, r, p, all), g), true)
+		want(t, "pen", grid.Same(paint.Region(g, r, r, p), g) && grid.Same(paint.Back(g, r, r, p), g) && grid.Same(paint.Points(g, r, p, pt(0, 0)), g) && grid.Same(paint.Rects(g, r, p, all), g), true)
 	}
 	for _, x := range []int{1<<20 + 1, -1<<20 - 1, math.MinInt} {
-		want(t, "Tile", grid.Same(Tile(g, band.Of(all), band.Of(all), blank(1, 1), x, 0), g) && grid.Same(Tile(g, band.Of(all), band.Of(all), blank(1, 1), 0, x), g), true)
+		want(t, "Tile", grid.Same(paint.Tile(g, band.Of(all), band.Of(all), blank(1, 1), x, 0), g) && grid.Same(paint.Tile(g, band.Of(all), band.Of(all), blank(1, 1), 0, x), g), true)
 	}
-	want(t, "Tile", grid.Same(Tile(g, band.Of(all), band.Of(all), grid.Grid{}, 0, 0), g), true)
+	want(t, "Tile", grid.Same(paint.Tile(g, band.Of(all), band.Of(all), grid.Grid{}, 0, 0), g), true)
 	p := pen.New()
 	p.Clipped = true // the pen's own clip isn't looked at
-	want(t, "own clip", Region(g, band.Of(all), band.Of(all), p).At(1, 1), 0)
-	want(t, "zero grid", grid.Same(Points(grid.Grid{}, band.Of(all), p, pt(0, 0)), grid.Grid{}), true)
+	want(t, "own clip", paint.Region(g, band.Of(all), band.Of(all), p).At(1, 1), 0)
+	want(t, "zero grid", grid.Same(paint.Points(grid.Grid{}, band.Of(all), p, pt(0, 0)), grid.Grid{}), true)
 }

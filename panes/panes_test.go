@@ -1,4 +1,4 @@
-package panes
+package panes_test
 
 import (
 	"math"
@@ -10,6 +10,7 @@ import (
 	"glazier/claim"
 	"glazier/freeze"
 	"glazier/gravity"
+	"glazier/panes"
 	"glazier/passive"
 	"glazier/prop"
 	"glazier/route"
@@ -36,7 +37,7 @@ func do(t *testing.T, w world.World, client, code int, n ...int64) (world.World,
 		r.N, r.L = n[:f], n[f:]
 	}
 	was := w.Text()
-	u, said, ok := Do(w, client, r)
+	u, said, ok := panes.Do(w, client, r)
 	want(t, "one of its requests", ok, true)
 	want(t, "as it was", w.Text(), was)
 	if broken := u.Check(); len(broken) > 0 {
@@ -60,8 +61,8 @@ func example(t *testing.T) world.World {
 		w, said = do(t, w, int(x[0]), 1, x[1:]...)
 		want(t, "made", said, "")
 	}
-	w, _ = Map(w, a, true)
-	w, _ = Map(w, c, true)
+	w, _ = panes.Map(w, a, true)
+	w, _ = panes.Map(w, c, true)
 	return w
 }
 
@@ -109,10 +110,10 @@ func TestLooks(t *testing.T) {
 		}
 	}
 	for _, code := range []int{0, 11, 53, 55, 99} {
-		u, said, ok := Do(w, 1, api.Request{Code: code})
+		u, said, ok := panes.Do(w, 1, api.Request{Code: code})
 		want(t, "other code", !ok && len(said) == 0 && u.Text() == w.Text(), true)
 	}
-	want(t, "Codes", slices.Equal(Codes(), []int{1, 2, 3, 4, 5, 6, 7, 8, 9, 10, 54}), true)
+	want(t, "Codes", slices.Equal(panes.Codes(), []int{1, 2, 3, 4, 5, 6, 7, 8, 9, 10, 54}), true)
 }
 
 // P47.2: how many windows there may be.
@@ -139,7 +140,7 @@ func TestMapping(t *testing.T) {
 	u, said = do(t, u, 1, 3, int64(a))
 	want(t, "map", said, "1 event 15 a a 0; 2 event 15 1 a 0; 1 event 10 a 0 0 3 1 1; 1 event 10 a 0 1 2 1 0")
 	w = choice{3, 1, api.MaskRedirect}.on(t, w)
-	u, _ = Map(w, a, false)
+	u, _ = panes.Map(w, a, false)
 	u2, said := do(t, u, 1, 3, int64(a))
 	want(t, "redirected", said+u2.Text(), "3 event 17 1 a"+u.Text())
 	_, said = do(t, u, 3, 3, int64(a))
@@ -147,10 +148,10 @@ func TestMapping(t *testing.T) {
 	_, said = do(t, w, 3, 3, int64(m))
 	want(t, "overrides", said, "2 event 15 1 m 1")
 	for _, id := range []api.ID{1, 99} {
-		v, l := Map(w, id, false)
+		v, l := panes.Map(w, id, false)
 		want(t, "Map", len(l) == 0 && v.Text() == w.Text(), true)
 	}
-	v, l := Map(w, a, true)
+	v, l := panes.Map(w, a, true)
 	want(t, "Map", len(l) == 0 && v.Text() == w.Text(), true)
 }
 
@@ -184,7 +185,7 @@ func TestConfigure(t *testing.T) {
 	}{
 		{1, 31, api.Rect{}, 99, 9, api.ErrRoot}, {99, 31, api.Rect{}, 99, 9, api.ErrNone}, {a, 31, api.Rect{X: 32768}, 99, 9, api.ErrRange}, {a, 31, api.Rect{W: 129, H: 1}, 99, 9, api.ErrSize}, {a, 4, api.Rect{W: math.MaxInt}, 99, 9, api.ErrSize}, {a, 19, api.Rect{}, 99, 9, api.ErrKind}, {a, 19, api.Rect{}, 99, 0, api.ErrMatch},
 	} {
-		v, l, e := Configure(w, x.id, x.mask, x.r, x.sibling, x.mode)
+		v, l, e := panes.Configure(w, x.id, x.mask, x.r, x.sibling, x.mode)
 		want(t, "Configure", e == x.e && len(l) == 0 && v.Text() == w.Text(), true)
 	}
 	// A kid that would come too far.
@@ -211,7 +212,7 @@ func TestReparent(t *testing.T) {
 		x          int
 		e          api.Errno
 	}{{1, 99, 99999, api.ErrRoot}, {99, 98, 99999, api.ErrNone}, {a, 99, 99999, api.ErrNone}, {a, b, 99999, api.ErrRing}, {a, c, 32768, api.ErrRange}, {a, c, -32769, api.ErrRange}} {
-		v, l, e := Reparent(w, y.id, y.parent, y.x, 0)
+		v, l, e := panes.Reparent(w, y.id, y.parent, y.x, 0)
 		want(t, "Reparent", e == y.e && len(l) == 0 && v.Text() == w.Text(), true)
 	}
 }
@@ -236,7 +237,7 @@ func TestDestroy(t *testing.T) {
 	_, keys := u.In.Keyboard.Active()
 	want(t, "gone", grabbed || !keys || len(u.Saves.Of(3)) > 0 || len(u.In.Passive.All()) > 0 || u.In.Choice.Mask(1, a) > 0 || len(u.Props) > 0 || u.Over[b] || u.Held.Kind(b) != 0, false)
 	for _, id := range []api.ID{1, 99} {
-		v, l := Destroy(w, id)
+		v, l := panes.Destroy(w, id)
 		want(t, "Destroy", len(l) == 0 && v.Text() == w.Text(), true)
 	}
 }

@@ -1,10 +1,11 @@
-package passive
+package passive_test
 
 import (
 	"slices"
 	"testing"
 
 	"glazier/api"
+	"glazier/passive"
 )
 
 func want[T comparable](t *testing.T, what string, got, wanted T) {
@@ -14,28 +15,28 @@ func want[T comparable](t *testing.T, what string, got, wanted T) {
 	}
 }
 
-func add(t *testing.T, u Table, g Grab) Table {
+func add(t *testing.T, u passive.Table, g passive.Grab) passive.Table {
 	t.Helper()
 	u, e := u.Add(g)
 	want(t, "Add", e, api.OK)
 	return u
 }
 
-func button(client int, w api.ID, code, mods int) Grab {
-	return Grab{Client: client, Window: w, Button: true, Code: code, Mods: mods}
+func button(client int, w api.ID, code, mods int) passive.Grab {
+	return passive.Grab{Client: client, Window: w, Button: true, Code: code, Mods: mods}
 }
 
 // P38.1
 func TestAdd(t *testing.T) {
-	u := add(t, Table{}, button(1, 7, 1, 4))
+	u := add(t, passive.Table{}, button(1, 7, 1, 4))
 	for _, x := range []struct {
-		g Grab
+		g passive.Grab
 		e api.Errno
 	}{
-		{button(2, 7, 0, 4), api.ErrAccess}, {button(2, 7, 1, AnyMods), api.ErrAccess}, {button(2, 7, 0, 5), api.OK}, {button(2, 8, 1, 4), api.OK}, {Grab{Client: 2, Window: 7, Code: 1, Mods: 4}, api.OK}, {button(1, 7, 0, AnyMods), api.OK},
-		{Grab{}, api.ErrRange}, {Grab{Client: 9}, api.ErrRange}, {Grab{Client: 1, Code: -1}, api.ErrNone}, {button(1, 7, 6, -1), api.ErrRange}, {button(1, 7, -1, -1), api.ErrRange}, {Grab{Client: 1, Window: 7, Code: 256, Mods: -1}, api.ErrRange}, {Grab{Client: 1, Window: 7, Code: 255}, api.OK},
-		{Grab{Client: 1, Window: 7, Mods: -1, Mask: -1}, api.ErrValue}, {Grab{Client: 1, Window: 7, Mods: 256, Mask: -1}, api.ErrValue}, {Grab{Client: 1, Window: 7, Mask: -1, Pointer: 2}, api.ErrRange}, {Grab{Client: 1, Window: 7, Mask: 8192}, api.ErrRange},
-		{Grab{Client: 1, Window: 7, Pointer: 2}, api.ErrKind}, {Grab{Client: 1, Window: 7, Keyboard: -1}, api.ErrKind}, {Grab{Client: 8, Window: 7, Mods: 255, Mask: 8191, Pointer: 1, Keyboard: 1}, api.OK},
+		{button(2, 7, 0, 4), api.ErrAccess}, {button(2, 7, 1, passive.AnyMods), api.ErrAccess}, {button(2, 7, 0, 5), api.OK}, {button(2, 8, 1, 4), api.OK}, {passive.Grab{Client: 2, Window: 7, Code: 1, Mods: 4}, api.OK}, {button(1, 7, 0, passive.AnyMods), api.OK},
+		{passive.Grab{}, api.ErrRange}, {passive.Grab{Client: 9}, api.ErrRange}, {passive.Grab{Client: 1, Code: -1}, api.ErrNone}, {button(1, 7, 6, -1), api.ErrRange}, {button(1, 7, -1, -1), api.ErrRange}, {passive.Grab{Client: 1, Window: 7, Code: 256, Mods: -1}, api.ErrRange}, {passive.Grab{Client: 1, Window: 7, Code: 255}, api.OK},
+		{passive.Grab{Client: 1, Window: 7, Mods: -1, Mask: -1}, api.ErrValue}, {passive.Grab{Client: 1, Window: 7, Mods: 256, Mask: -1}, api.ErrValue}, {passive.Grab{Client: 1, Window: 7, Mask: -1, Pointer: 2}, api.ErrRange}, {passive.Grab{Client: 1, Window: 7, Mask: 8192}, api.ErrRange},
+		{passive.Grab{Client: 1, Window: 7, Pointer: 2}, api.ErrKind}, {passive.Grab{Client: 1, Window: 7, Keyboard: -1}, api.ErrKind}, {passive.Grab{Client: 8, Window: 7, Mods: 255, Mask: 8191, Pointer: 1, Keyboard: 1}, api.OK},
 	} {
 		v, e := u.Add(x.g)
 		want(t, "Add", e, x.e)
@@ -44,7 +45,7 @@ func TestAdd(t *testing.T) {
 	g := button(1, 7, 1, 4)
 	g.Mask, g.Owner = 5, true
 	v := add(t, add(t, u, button(1, 7, 2, 4)), g)
-	want(t, "in its place", slices.Equal(v.All(), []Grab{g, button(1, 7, 2, 4)}), true)
+	want(t, "in its place", slices.Equal(v.All(), []passive.Grab{g, button(1, 7, 2, 4)}), true)
 	v.All()[0].Mask = 99
 	want(t, "new memory", v.All()[0].Mask, 5)
 	for i := range 255 {
@@ -58,23 +59,23 @@ func TestAdd(t *testing.T) {
 
 // P38.2
 func TestDropAndLeave(t *testing.T) {
-	u := Table{}
-	for _, g := range []Grab{button(1, 7, 1, 4), button(1, 7, 1, 5), button(1, 7, 2, 4), button(1, 8, 1, 4), button(2, 7, 3, 4), {Client: 1, Window: 7, Code: 1, Mods: 4}} {
+	u := passive.Table{}
+	for _, g := range []passive.Grab{button(1, 7, 1, 4), button(1, 7, 1, 5), button(1, 7, 2, 4), button(1, 8, 1, 4), button(2, 7, 3, 4), {Client: 1, Window: 7, Code: 1, Mods: 4}} {
 		u = add(t, u, g)
 	}
 	for _, x := range []struct {
 		code, mods, left int
-	}{{1, 4, 5}, {AnyCode, 4, 4}, {1, AnyMods, 4}, {AnyCode, AnyMods, 3}, {9, 4, 6}, {3, 4, 6}} {
+	}{{1, 4, 5}, {passive.AnyCode, 4, 4}, {1, passive.AnyMods, 4}, {passive.AnyCode, passive.AnyMods, 3}, {9, 4, 6}, {3, 4, 6}} {
 		want(t, "Drop", len(u.Drop(1, 7, true, x.code, x.mods).All()), x.left)
 	}
-	want(t, "Drop", len(u.Drop(1, 7, false, AnyCode, AnyMods).All()), 5)
+	want(t, "Drop", len(u.Drop(1, 7, false, passive.AnyCode, passive.AnyMods).All()), 5)
 	want(t, "Leave", len(u.Leave(1).All())*100+len(u.Leave(0, 7).All())*10+len(u.Leave(2, 8, 99).All()), 114)
 }
 
 // P38.3, P38.4
 func TestFind(t *testing.T) {
-	u := add(t, add(t, Table{}, button(1, 7, 1, 4)), button(2, 7, 0, 5))
-	u = add(t, add(t, u, button(1, 8, 0, AnyMods)), Grab{Client: 3, Window: 7, Code: 200, Mods: AnyMods})
+	u := add(t, add(t, passive.Table{}, button(1, 7, 1, 4)), button(2, 7, 0, 5))
+	u = add(t, add(t, u, button(1, 8, 0, passive.AnyMods)), passive.Grab{Client: 3, Window: 7, Code: 200, Mods: passive.AnyMods})
 	for _, x := range []struct {
 		path       []api.ID
 		button     bool
@@ -88,21 +89,21 @@ func TestFind(t *testing.T) {
 		want(t, "Find", g.Client == x.client && ok == (x.client != 0), true)
 	}
 	// Two grabs cross just if some press activates both.
-	var all []Grab
+	var all []passive.Grab
 	for i := range 2 * 2 * 3 * 3 {
-		all = append(all, Grab{Client: 1, Window: api.ID(7 + i%2), Button: i/2%2 == 0, Code: i / 4 % 3, Mods: []int{0, 3, AnyMods}[i/12]})
+		all = append(all, passive.Grab{Client: 1, Window: api.ID(7 + i%2), Button: i/2%2 == 0, Code: i / 4 % 3, Mods: []int{0, 3, passive.AnyMods}[i/12]})
 	}
 	for _, a := range all {
 		for _, b := range all {
 			both := false
 			for _, w := range []api.ID{7, 8} {
 				for i := range 5 * 4 {
-					_, inA := add(t, Table{}, a).Find([]api.ID{w}, i >= 10, 1+i%5, i/5%2*3)
-					_, inB := add(t, Table{}, b).Find([]api.ID{w}, i >= 10, 1+i%5, i/5%2*3)
+					_, inA := add(t, passive.Table{}, a).Find([]api.ID{w}, i >= 10, 1+i%5, i/5%2*3)
+					_, inB := add(t, passive.Table{}, b).Find([]api.ID{w}, i >= 10, 1+i%5, i/5%2*3)
 					both = both || inA && inB
 				}
 			}
-			want(t, "Meet", Meet(a, b), both)
+			want(t, "Meet", passive.Meet(a, b), both)
 		}
 	}
 }

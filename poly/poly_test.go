@@ -1,4 +1,4 @@
-package poly
+package poly_test
 
 import (
 	"math/rand"
@@ -7,6 +7,7 @@ import (
 
 	"glazier/api"
 	"glazier/band"
+	"glazier/poly"
 	"glazier/region"
 )
 
@@ -57,30 +58,30 @@ func TestPlaces(t *testing.T) {
 		back := slices.Clone(l)
 		slices.Reverse(back)
 		later := append(slices.Clone(l[2:]), l[:2]...)
-		odd, e := Region(EvenOdd, l...)
-		wind, f := Region(Winding, l...)
+		odd, e := poly.Region(poly.EvenOdd, l...)
+		wind, f := poly.Region(poly.Winding, l...)
 		want(t, "Region", e == api.OK && f == api.OK, true)
 		for _, o := range [][]api.Point{back, later} {
-			a, _ := Region(EvenOdd, o...)
-			b, _ := Region(Winding, o...)
+			a, _ := poly.Region(poly.EvenOdd, o...)
+			b, _ := poly.Region(poly.Winding, o...)
 			want(t, "told otherwise", band.Same(a, odd) && band.Same(b, wind), true)
 		}
 		for x := -1; x < 14; x++ {
 			for y := -1; y < 14; y++ {
 				down, up := passing(x, y, l)
-				want(t, "Turns", Turns(x, y, l...), down-up)
-				want(t, "turned", Turns(x, y, back...), up-down)
-				want(t, "odd", Inside(EvenOdd, x, y, l...), (down+up)%2 == 1)
-				want(t, "winding", Inside(Winding, x, y, l...), down != up)
+				want(t, "Turns", poly.Turns(x, y, l...), down-up)
+				want(t, "turned", poly.Turns(x, y, back...), up-down)
+				want(t, "odd", poly.Inside(poly.EvenOdd, x, y, l...), (down+up)%2 == 1)
+				want(t, "winding", poly.Inside(poly.Winding, x, y, l...), down != up)
 				want(t, "Region", odd.Has(x, y) == ((down+up)%2 == 1) && wind.Has(x, y) == (down != up), true)
 			}
 		}
-		want(t, "Twice", Twice(l...), -Twice(back...))
+		want(t, "Twice", poly.Twice(l...), -poly.Twice(back...))
 		// Two triangles that share an edge, and the four corners round both.
 		q := corners(rnd, 4)
-		one, _ := Region(EvenOdd, q[0], q[1], q[2])
-		two, _ := Region(EvenOdd, q[0], q[2], q[3])
-		both, _ := Region(EvenOdd, q...)
+		one, _ := poly.Region(poly.EvenOdd, q[0], q[1], q[2])
+		two, _ := poly.Region(poly.EvenOdd, q[0], q[2], q[3])
+		both, _ := poly.Region(poly.EvenOdd, q...)
 		want(t, "shared edge", band.Same(region.Xor(one, two), both), true)
 	}
 }
@@ -88,12 +89,12 @@ func TestPlaces(t *testing.T) {
 // P22.1
 func TestWrong(t *testing.T) {
 	l := []api.Point{pt(0, 0), pt(4, 0), pt(0, 4)}
-	r, _ := Region(0, l...)
-	want(t, "example", band.Same(r, band.Of(rc(0, 0, 3, 1), rc(0, 1, 2, 1), rc(0, 2, 1, 1))) && Twice(l...) == 16, true)
-	want(t, "rule", Inside(2, 0, 0, l...) || Inside(-1, 0, 0, l...), false)
-	want(t, "places", Inside(0, m+1, 0, l...) || Inside(0, -m-1, 0, l...) || Turns(m+1, 0, l...) != 0, false)
+	r, _ := poly.Region(0, l...)
+	want(t, "example", band.Same(r, band.Of(rc(0, 0, 3, 1), rc(0, 1, 2, 1), rc(0, 2, 1, 1))) && poly.Twice(l...) == 16, true)
+	want(t, "rule", poly.Inside(2, 0, 0, l...) || poly.Inside(-1, 0, 0, l...), false)
+	want(t, "places", poly.Inside(0, m+1, 0, l...) || poly.Inside(0, -m-1, 0, l...) || poly.Turns(m+1, 0, l...) != 0, false)
 	for _, bad := range [][]api.Point{nil, l[:2], append(slices.Clone(l), pt(m+1, 0)), append(slices.Clone(l), pt(0, -m-1)), make([]api.Point, 257)} {
-		want(t, "corners", Inside(0, 0, 0, bad...) || Turns(0, 0, bad...) != 0 || Twice(bad...) != 0, false)
+		want(t, "corners", poly.Inside(0, 0, 0, bad...) || poly.Turns(0, 0, bad...) != 0 || poly.Twice(bad...) != 0, false)
 	}
 }
 
@@ -108,17 +109,17 @@ func TestRegion(t *testing.T) {
 		{2, append(make([]api.Point, 256), far), api.ErrKind}, {0, append(make([]api.Point, 256), far), api.ErrMany}, {0, []api.Point{far, pt(-m, 0)}, api.ErrRange}, {0, []api.Point{pt(0, 0), pt(4097, 0)}, api.ErrSize}, {1, []api.Point{pt(0, 0), pt(0, 4097), pt(0, 0)}, api.ErrSize},
 		{0, nil, api.OK}, {0, []api.Point{pt(0, 0), pt(5, 5)}, api.OK},
 	} {
-		r, e := Region(x.rule, x.l...)
+		r, e := poly.Region(x.rule, x.l...)
 		want(t, "Region", e == x.e && r.Empty(), true)
 	}
-	r, e := Region(Winding, pt(m-4096, m-4096), pt(m, m-4096), pt(m, m), pt(m-4096, m))
+	r, e := poly.Region(poly.Winding, pt(m-4096, m-4096), pt(m, m-4096), pt(m, m), pt(m-4096, m))
 	want(t, "rectangle", e == api.OK && band.Same(r, band.Of(rc(m-4096, m-4096, 4096, 4096))), true)
 	l := []api.Point{pt(0, 0), pt(7, 0), pt(7, 3), pt(2, 3), pt(2, 5), pt(0, 5)}
 	sum := 0
 	for x := range 9 {
 		for y := range 9 {
-			sum += Turns(x, y, l...)
+			sum += poly.Turns(x, y, l...)
 		}
 	}
-	want(t, "sum of turns", 2*sum, -Twice(l...))
+	want(t, "sum of turns", 2*sum, -poly.Twice(l...))
 }

@@ -1,10 +1,11 @@
-package prop
+package prop_test
 
 import (
 	"slices"
 	"testing"
 
 	"glazier/api"
+	"glazier/prop"
 )
 
 func want[T comparable](t *testing.T, what string, got, wanted T) {
@@ -14,40 +15,40 @@ func want[T comparable](t *testing.T, what string, got, wanted T) {
 	}
 }
 
-func change(t *testing.T, l List, mode int, p Prop) List {
+func change(t *testing.T, l prop.List, mode int, p prop.Prop) prop.List {
 	t.Helper()
 	l, e := l.Change(mode, p)
 	want(t, "Change", e, api.OK)
 	return l
 }
 
-func data(l List, name api.Atom) []int64 {
+func data(l prop.List, name api.Atom) []int64 {
 	p, _ := l.Find(name)
 	return p.Data
 }
 
 // P10.1
 func TestChange(t *testing.T) {
-	var l List
+	var l prop.List
 	in := []int64{1, 2}
-	l = change(t, l, Replace, Prop{5, 4, 8, in})
+	l = change(t, l, prop.Replace, prop.Prop{5, 4, 8, in})
 	in[0] = 9
-	m := change(t, l, Prepend, Prop{5, 4, 8, []int64{0}})
-	m = change(t, m, Append, Prop{5, 4, 8, []int64{3}})
+	m := change(t, l, prop.Prepend, prop.Prop{5, 4, 8, []int64{0}})
+	m = change(t, m, prop.Append, prop.Prop{5, 4, 8, []int64{3}})
 	want(t, "data", slices.Equal(data(m, 5), []int64{0, 1, 2, 3}) && slices.Equal(data(l, 5), []int64{1, 2}), true)
-	m = change(t, m, Append, Prop{6, 4, 32, []int64{1<<32 - 1}})
-	m = change(t, m, Replace, Prop{5, 7, 16, []int64{65535}})
+	m = change(t, m, prop.Append, prop.Prop{6, 4, 32, []int64{1<<32 - 1}})
+	m = change(t, m, prop.Replace, prop.Prop{5, 7, 16, []int64{65535}})
 	p, _ := m.Find(5)
 	want(t, "replaced", p.Type == 7 && p.Format == 16 && len(p.Data) == 1, true)
 	big := make([]int64, 16385)
 	for _, x := range []struct {
 		mode int
-		p    Prop
+		p    prop.Prop
 		e    api.Errno
 	}{
-		{3, Prop{}, api.ErrKind}, {-1, Prop{}, api.ErrKind}, {0, Prop{0, 0, 9, big}, api.ErrName}, {0, Prop{5, 0, 9, big}, api.ErrValue}, {0, Prop{5, 4, 9, big}, api.ErrSize}, {0, Prop{5, 4, 8, append(big, 256)}, api.ErrLong},
-		{0, Prop{5, 4, 8, []int64{256}}, api.ErrRange}, {0, Prop{5, 4, 16, []int64{65536}}, api.ErrRange}, {0, Prop{5, 4, 32, []int64{-1}}, api.ErrRange}, {0, Prop{5, 4, 32, []int64{1 << 32}}, api.ErrRange},
-		{1, Prop{5, 4, 16, nil}, api.ErrMatch}, {2, Prop{5, 7, 8, big[:16384]}, api.ErrMatch}, {2, Prop{5, 7, 16, big[:16384]}, api.ErrLong}, {2, Prop{5, 7, 16, big[:16383]}, api.OK},
+		{3, prop.Prop{}, api.ErrKind}, {-1, prop.Prop{}, api.ErrKind}, {0, prop.Prop{0, 0, 9, big}, api.ErrName}, {0, prop.Prop{5, 0, 9, big}, api.ErrValue}, {0, prop.Prop{5, 4, 9, big}, api.ErrSize}, {0, prop.Prop{5, 4, 8, append(big, 256)}, api.ErrLong},
+		{0, prop.Prop{5, 4, 8, []int64{256}}, api.ErrRange}, {0, prop.Prop{5, 4, 16, []int64{65536}}, api.ErrRange}, {0, prop.Prop{5, 4, 32, []int64{-1}}, api.ErrRange}, {0, prop.Prop{5, 4, 32, []int64{1 << 32}}, api.ErrRange},
+		{1, prop.Prop{5, 4, 16, nil}, api.ErrMatch}, {2, prop.Prop{5, 7, 8, big[:16384]}, api.ErrMatch}, {2, prop.Prop{5, 7, 16, big[:16384]}, api.ErrLong}, {2, prop.Prop{5, 7, 16, big[:16383]}, api.OK},
 	} {
 		n, e := m.Change(x.mode, x.p)
 		want(t, "Change", e, x.e)
@@ -57,32 +58,32 @@ func TestChange(t *testing.T) {
 
 // P10.1: how many there may be.
 func TestFull(t *testing.T) {
-	var l List
+	var l prop.List
 	for i := api.Atom(64); i > 0; i-- {
-		l = change(t, l, Append, Prop{i, 4, 8, nil})
+		l = change(t, l, prop.Append, prop.Prop{i, 4, 8, nil})
 	}
-	_, e := l.Change(Replace, Prop{65, 4, 8, nil})
+	_, e := l.Change(prop.Replace, prop.Prop{65, 4, 8, nil})
 	want(t, "full", e, api.ErrFull)
-	l = change(t, l, Replace, Prop{64, 5, 8, nil})
+	l = change(t, l, prop.Replace, prop.Prop{64, 5, 8, nil})
 	want(t, "Names", len(l.Names()) == 64 && slices.IsSorted(l.Names()), true)
 }
 
 // P10.2, P10.4
 func TestGet(t *testing.T) {
-	l := change(t, List{}, Replace, Prop{5, 4, 8, []int64{0, 1, 2, 3}})
-	l = change(t, l, Replace, Prop{6, 4, 8, nil})
+	l := change(t, prop.List{}, prop.Replace, prop.Prop{5, 4, 8, []int64{0, 1, 2, 3}})
+	l = change(t, l, prop.Replace, prop.Prop{6, 4, 8, nil})
 	for _, x := range []struct {
 		name, kind     api.Atom
 		offset, length int
 		remove         bool
-		f              Found
+		f              prop.Found
 		ok             bool
 		e              api.Errno
 		gone           bool
 	}{
-		{9, 0, -1, 0, true, Found{}, false, api.ErrRange, false}, {9, 0, 0, -1, true, Found{}, false, api.ErrRange, false}, {9, 0, 7, 7, true, Found{}, false, api.OK, false},
-		{5, 7, 99, 1, true, Found{4, 8, 4, nil}, true, api.OK, false}, {5, 0, 5, 1, true, Found{}, false, api.ErrValue, false}, {5, 4, 1, 2, true, Found{4, 8, 1, []int64{1, 2}}, true, api.OK, false},
-		{5, 4, 2, 1 << 62, true, Found{4, 8, 0, []int64{2, 3}}, true, api.OK, true}, {5, 0, 4, 0, true, Found{4, 8, 0, nil}, true, api.OK, true}, {5, 0, 4, 9, false, Found{4, 8, 0, nil}, true, api.OK, false},
+		{9, 0, -1, 0, true, prop.Found{}, false, api.ErrRange, false}, {9, 0, 0, -1, true, prop.Found{}, false, api.ErrRange, false}, {9, 0, 7, 7, true, prop.Found{}, false, api.OK, false},
+		{5, 7, 99, 1, true, prop.Found{4, 8, 4, nil}, true, api.OK, false}, {5, 0, 5, 1, true, prop.Found{}, false, api.ErrValue, false}, {5, 4, 1, 2, true, prop.Found{4, 8, 1, []int64{1, 2}}, true, api.OK, false},
+		{5, 4, 2, 1 << 62, true, prop.Found{4, 8, 0, []int64{2, 3}}, true, api.OK, true}, {5, 0, 4, 0, true, prop.Found{4, 8, 0, nil}, true, api.OK, true}, {5, 0, 4, 9, false, prop.Found{4, 8, 0, nil}, true, api.OK, false},
 	} {
 		m, f, ok, e := l.Get(x.name, x.kind, x.offset, x.length, x.remove)
 		want(t, "Get", ok == x.ok && e == x.e && f.Type == x.f.Type && f.Format == x.f.Format && f.Left == x.f.Left && slices.Equal(f.Data, x.f.Data), true)
@@ -107,7 +108,7 @@ func TestGet(t *testing.T) {
 
 // P10.3
 func TestFindAndDelete(t *testing.T) {
-	l := change(t, change(t, List{}, 0, Prop{9, 4, 8, []int64{1}}), 0, Prop{3, 4, 8, []int64{2}})
+	l := change(t, change(t, prop.List{}, 0, prop.Prop{9, 4, 8, []int64{1}}), 0, prop.Prop{3, 4, 8, []int64{2}})
 	want(t, "Names", slices.Equal(l.Names(), []api.Atom{3, 9}), true)
 	data(l, 9)[0] = 7
 	want(t, "new memory", data(l, 9)[0], 1)

@@ -1,4 +1,4 @@
-package proxy
+package proxy_test
 
 import (
 	"math/rand"
@@ -9,6 +9,7 @@ import (
 	"glazier/api"
 	"glazier/link"
 	"glazier/pack"
+	"glazier/proxy"
 	"glazier/stream"
 	"glazier/tell"
 )
@@ -20,14 +21,14 @@ func want[T comparable](t *testing.T, what string, got, wanted T) {
 	}
 }
 
-func of(t *testing.T, server bool) Half {
+func of(t *testing.T, server bool) proxy.Half {
 	t.Helper()
-	h, e := New(server, 0, 16, 64)
+	h, e := proxy.New(server, 0, 16, 64)
 	want(t, "New", e, api.OK)
 	return h
 }
 
-func near(t *testing.T, h Half, b string) Half {
+func near(t *testing.T, h proxy.Half, b string) proxy.Half {
 	t.Helper()
 	h, e := h.Near(b)
 	want(t, "Near", e, api.OK)
@@ -35,7 +36,7 @@ func near(t *testing.T, h Half, b string) Half {
 }
 
 // over brings all that is due over, until both are quiet.
-func over(t *testing.T, a, b Half) (Half, Half) {
+func over(t *testing.T, a, b proxy.Half) (proxy.Half, proxy.Half) {
 	t.Helper()
 	for range 2000 {
 		if a.Quiet() && b.Quiet() {
@@ -91,11 +92,11 @@ func TestRefused(t *testing.T) {
 		order, kept, most int
 		e                 api.Errno
 	}{{2, 0, 0, api.ErrOrder}, {-1, 1, 1, api.ErrOrder}, {1, 0, 0, api.ErrRange}, {1, 65, 1, api.ErrRange}, {1, 64, 0, api.ErrSize}, {1, 64, 1025, api.ErrSize}, {1, 64, 1024, api.OK}} {
-		h, e := New(true, x.order, x.kept, x.most)
+		h, e := proxy.New(true, x.order, x.kept, x.most)
 		_, f := h.Near("")
 		want(t, "New", e == x.e && (f == api.ErrState) == (e != api.OK), true)
 	}
-	var z Half
+	var z proxy.Half
 	_, e := z.Near("a")
 	_, f := z.Got("a")
 	zz, l := z.Tick().Due()

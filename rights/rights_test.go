@@ -1,4 +1,4 @@
-package rights
+package rights_test
 
 import (
 	"slices"
@@ -7,6 +7,7 @@ import (
 	"glazier/api"
 	"glazier/choice"
 	"glazier/claim"
+	"glazier/rights"
 	"glazier/tree"
 )
 
@@ -20,20 +21,20 @@ func want[T comparable](t *testing.T, what string, got, wanted T) {
 // table is the chapter's, line by line: the codes of a rule, and who may.
 var table = []struct {
 	codes []int
-	may   func(f Facts) bool
+	may   func(f rights.Facts) bool
 }{
-	{[]int{9, 10, 11, 12, 17, 18, 19, 20, 21, 22, 23, 24, 25, 38, 40, 42, 44, 46, 47, 48, 51, 57, 58}, func(f Facts) bool { return true }},
-	{[]int{2, 7, 8, 26, 27, 28, 29, 30, 31, 32, 33, 34, 35, 36, 50, 52}, func(f Facts) bool { return f.Own }},
-	{[]int{1}, func(f Facts) bool { return f.Own || f.Root }},
-	{[]int{3, 4, 5, 6, 37, 39, 41, 43, 45, 49}, func(f Facts) bool { return f.Own || f.Managed || f.Framed }},
-	{[]int{0}, func(f Facts) bool { return f.Own || f.Root || f.Managed || f.Framed }},
-	{[]int{13, 14, 15, 16, 53}, func(f Facts) bool { return f.Own || f.Root || f.Managed || f.Framed || f.Asked }},
-	{[]int{54, 55}, func(f Facts) bool { return f.Managed || f.Framed }},
-	{[]int{56}, func(f Facts) bool { return f.Managed }},
+	{[]int{9, 10, 11, 12, 17, 18, 19, 20, 21, 22, 23, 24, 25, 38, 40, 42, 44, 46, 47, 48, 51, 57, 58}, func(f rights.Facts) bool { return true }},
+	{[]int{2, 7, 8, 26, 27, 28, 29, 30, 31, 32, 33, 34, 35, 36, 50, 52}, func(f rights.Facts) bool { return f.Own }},
+	{[]int{1}, func(f rights.Facts) bool { return f.Own || f.Root }},
+	{[]int{3, 4, 5, 6, 37, 39, 41, 43, 45, 49}, func(f rights.Facts) bool { return f.Own || f.Managed || f.Framed }},
+	{[]int{0}, func(f rights.Facts) bool { return f.Own || f.Root || f.Managed || f.Framed }},
+	{[]int{13, 14, 15, 16, 53}, func(f rights.Facts) bool { return f.Own || f.Root || f.Managed || f.Framed || f.Asked }},
+	{[]int{54, 55}, func(f rights.Facts) bool { return f.Managed || f.Framed }},
+	{[]int{56}, func(f rights.Facts) bool { return f.Managed }},
 }
 
-func facts(i int) Facts {
-	return Facts{i&1 != 0, i&2 != 0, i&4 != 0, i&8 != 0, i&16 != 0}
+func facts(i int) rights.Facts {
+	return rights.Facts{i&1 != 0, i&2 != 0, i&4 != 0, i&8 != 0, i&16 != 0}
 }
 
 // P44.1, P44.2, P44.4
@@ -43,12 +44,12 @@ func TestTable(t *testing.T) {
 		for _, code := range row.codes {
 			n++
 			for f := range 32 {
-				want(t, "May", May(code, facts(f)), row.may(facts(f)))
+				want(t, "May", rights.May(code, facts(f)), row.may(facts(f)))
 				for more := range 32 {
-					want(t, "no less", May(code, facts(f)) && !May(code, facts(f|more)), false)
+					want(t, "no less", rights.May(code, facts(f)) && !rights.May(code, facts(f|more)), false)
 				}
 			}
-			want(t, "Fault", Fault(code), map[bool]int{true: 0, false: api.BadAccess}[i == 0])
+			want(t, "Fault", rights.Fault(code), map[bool]int{true: 0, false: api.BadAccess}[i == 0])
 			needs := []int{0}
 			switch {
 			case i == 0 || code == 0 || code == 56:
@@ -58,12 +59,12 @@ func TestTable(t *testing.T) {
 			case code == 6 || code == 27:
 				needs = []int{0, 1}
 			}
-			want(t, "Needs", slices.Equal(Needs(code), needs), true)
+			want(t, "Needs", slices.Equal(rights.Needs(code), needs), true)
 		}
 	}
 	want(t, "all codes", n, 59)
 	for _, code := range []int{-1, 59, 1 << 40} {
-		want(t, "no code", May(code, facts(31)) || Fault(code) != 0 || len(Needs(code)) != 0, false)
+		want(t, "no code", rights.May(code, facts(31)) || rights.Fault(code) != 0 || len(rights.Needs(code)) != 0, false)
 	}
 }
 
@@ -80,11 +81,11 @@ func TestOf(t *testing.T) {
 	for _, x := range []struct {
 		client int
 		id     api.ID
-		f      Facts
+		f      rights.Facts
 	}{
-		{1, a, Facts{Own: true}}, {2, a, Facts{Framed: true}}, {2, f, Facts{Own: true}}, {3, f, Facts{Managed: true}}, {3, b, Facts{Managed: true}}, {3, a, Facts{}}, {4, a, Facts{Managed: true}}, {3, 1, Facts{Root: true, Managed: true}}, {1, 1, Facts{Root: true}},
-		{5, b, Facts{Asked: true}}, {5, a, Facts{}}, {7, 7<<20 + 5, Facts{Own: true}}, {3, 99, Facts{}}, {3, 0, Facts{}}, {0, 1, Facts{Root: true}},
+		{1, a, rights.Facts{Own: true}}, {2, a, rights.Facts{Framed: true}}, {2, f, rights.Facts{Own: true}}, {3, f, rights.Facts{Managed: true}}, {3, b, rights.Facts{Managed: true}}, {3, a, rights.Facts{}}, {4, a, rights.Facts{Managed: true}}, {3, 1, rights.Facts{Root: true, Managed: true}}, {1, 1, rights.Facts{Root: true}},
+		{5, b, rights.Facts{Asked: true}}, {5, a, rights.Facts{}}, {7, 7<<20 + 5, rights.Facts{Own: true}}, {3, 99, rights.Facts{}}, {3, 0, rights.Facts{}}, {0, 1, rights.Facts{Root: true}},
 	} {
-		want(t, "Of", Of(u, c, q, x.client, x.id), x.f)
+		want(t, "Of", rights.Of(u, c, q, x.client, x.id), x.f)
 	}
 }

@@ -1,4 +1,4 @@
-package route
+package route_test
 
 import (
 	"math/rand"
@@ -11,6 +11,7 @@ import (
 	"glazier/freeze"
 	"glazier/passive"
 	"glazier/place"
+	"glazier/route"
 	"glazier/tree"
 	"glazier/view"
 )
@@ -36,18 +37,18 @@ func looked(mapped ...api.ID) (tree.Tree, view.View) {
 	return t, view.Of(t, p)
 }
 
-func start(x, y int) State {
+func start(x, y int) route.State {
 	t, v := looked(a, b, c)
 	under, _ := v.At(x, y)
-	return State{Tree: t, View: v, X: x, Y: y, Under: under, Focus: focus.Focus{Window: 1, Revert: focus.ToRoot}}
+	return route.State{Tree: t, View: v, X: x, Y: y, Under: under, Focus: focus.Focus{Window: 1, Revert: focus.ToRoot}}
 }
 
-func (s State) sel(client int, id api.ID, mask int) State {
+func sel(s route.State, client int, id api.ID, mask int) route.State {
 	s.Choice, _ = s.Choice.Set(client, id, mask)
 	return s
 }
 
-func (s State) grabs(g passive.Grab) State {
+func grabs(s route.State, g passive.Grab) route.State {
 	s.Passive, _ = s.Passive.Add(g)
 	return s
 }
@@ -69,11 +70,11 @@ func keyUp(n int, time uint32) api.Input {
 }
 
 // does takes inputs, and tells all that was said.
-func does(t *testing.T, s State, l ...api.Input) (State, []api.Send) {
+func does(t *testing.T, s route.State, l ...api.Input) (route.State, []api.Send) {
 	t.Helper()
 	var all []api.Send
 	for _, i := range l {
-		u, said, e := Step(s, i)
+		u, said, e := route.Step(s, i)
 		want(t, "Step", e, api.OK)
 		s, all = u, append(all, said...)
 	}
@@ -95,7 +96,7 @@ func said(t *testing.T, got []api.Send, wanted ...[]int64) {
 
 // P40.1: the chapter's example.
 func TestExample(t *testing.T) {
-	s := start(4, 5).sel(1, 1, api.MaskButtonPress|api.MaskButtonRelease)
+	s := sel(start(4, 5), 1, 1, api.MaskButtonPress|api.MaskButtonRelease)
 	s, l := does(t, s, press(1, 5))
 	said(t, l, []int64{1, 3, 1, 0, 1, 0, 4, 5, 4, 5, 5})
 	g, ok := s.Pointer.Active()
@@ -116,7 +117,7 @@ func TestRefused(t *testing.T) {
 		{api.Input{Kind: 0, Code: 999}, api.ErrKind}, {api.Input{Kind: 6}, api.ErrKind}, {press(0, 1<<31), api.ErrRange}, {press(6, 0), api.ErrRange}, {key(0, 0), api.ErrRange}, {key(256, 0), api.ErrRange}, {api.Input{Kind: api.EvMotion, Code: 1}, api.ErrRange},
 		{press(1, 1<<31), api.ErrTime}, {press(1, 5), api.ErrState}, {release(2, 5), api.ErrState}, {key(250, 5), api.ErrState}, {keyUp(251, 5), api.ErrState}, {key(10, 3), api.OK}, {keyUp(10, 3), api.OK}, {release(1, 1<<31-1), api.OK},
 	} {
-		u, l, e := Step(s, x.i)
+		u, l, e := route.Step(s, x.i)
 		want(t, "Step", e, x.e)
 		want(t, "as it was", u.Count == s.Count && len(l) == 0, e != api.OK)
 	}
@@ -125,21 +126,21 @@ func TestRefused(t *testing.T) {
 	// Behind what waits: the button is down there, then up.
 	s.Pointer = s.Pointer.Begin(freeze.Active{Client: 1, Window: 1}, true)
 	s, _ = does(t, s, press(1, 9))
-	_, _, e := Step(s, press(1, 9))
+	_, _, e := route.Step(s, press(1, 9))
 	want(t, "down as it waits", e, api.ErrState)
 	s, _ = does(t, s, release(1, 9), press(1, 9))
 	for len(s.Pointer.Waiting()) < 256 {
 		s, _ = does(t, s, motion(0, 0, 9))
 	}
-	_, _, e = Step(s, motion(0, 0, 9))
+	_, _, e = route.Step(s, motion(0, 0, 9))
 	want(t, "full", e, api.ErrFull)
-	_, _, e = Step(s, key(9, 9))
+	_, _, e = route.Step(s, key(9, 9))
 	want(t, "the keyboard goes on", e, api.OK)
 }
 
 // P40.1: a motion, with crossings, by choices up the way.
 func TestMotion(t *testing.T) {
-	s := start(0, 0).sel(1, 1, api.MaskMotion|api.MaskLeave).sel(2, a, api.MaskEnter|api.MaskLeave|api.MaskMotion).sel(3, b, api.MaskEnter).sel(4, a, api.MaskMotion)
+	s := sel(sel(sel(sel(start(0, 0), 1, 1, api.MaskMotion|api.MaskLeave), 2, a, api.MaskEnter|api.MaskLeave|api.MaskMotion), 3, b, api.MaskEnter), 4, a, api.MaskMotion)
 	s, l := does(t, s, motion(3, 2, 7))
 	said(t, l, []int64{1, 7, 1, cross.Inferior, 3, 2, 3, 2, 0, 7}, []int64{2, 6, int64(a), cross.Virtual, 2, 1, 3, 2, 0, 7}, []int64{3, 6, int64(b), cross.Ancestor, 1, 0, 3, 2, 0, 7},
 		[]int64{2, 5, int64(a), int64(b), 0, 0, 2, 1, 3, 2, 7}, []int64{4, 5, int64(a), int64(b), 0, 0, 2, 1, 3, 2, 7})
@@ -150,14 +151,14 @@ func TestMotion(t *testing.T) {
 	s.Choice = s.Choice.Drop(2).Drop(4)
 	_, l = does(t, s, motion(3, 2, 9))
 	said(t, l, []int64{1, 7, 1}, []int64{3, 6, int64(b)})
-	var none State
+	var none route.State
 	none, _ = does(t, none, motion(77777, -5, 1))
 	want(t, "no windows", none.X == 77777 && none.Y == -5 && none.Under == 0, true)
 }
 
 // P40.1: keys go the focus's way.
 func TestKeys(t *testing.T) {
-	s := start(3, 3).sel(1, 1, api.MaskKeyPress|api.MaskKeyRelease).sel(2, b, api.MaskKeyPress).sel(3, c, api.MaskKeyPress)
+	s := sel(sel(sel(start(3, 3), 1, 1, api.MaskKeyPress|api.MaskKeyRelease), 2, b, api.MaskKeyPress), 3, c, api.MaskKeyPress)
 	s, l := does(t, s, key(65, 5), keyUp(65, 6), key(249, 7), key(66, 8))
 	said(t, l, []int64{2, 1, int64(b), 0, 65, 0, 1, 1, 3, 3, 5}, []int64{1, 2, 1, int64(a), 65, 0, 3, 3, 3, 3, 6}, []int64{2, 1, int64(b), 0, 249, 0}, []int64{2, 1, int64(b), 0, 66, 2})
 	want(t, "Mods", s.Mods, 2)
@@ -171,14 +172,14 @@ func TestKeys(t *testing.T) {
 
 // P40.1: grabs that are active name their client alone, or by Owner its windows.
 func TestActive(t *testing.T) {
-	s := start(3, 3).sel(1, b, api.MaskButtonPress).sel(2, b, api.MaskMotion)
+	s := sel(sel(start(3, 3), 1, b, api.MaskButtonPress), 2, b, api.MaskMotion)
 	g := freeze.Active{Client: 1, Window: c, Mask: api.MaskMotion}
-	s, status, l := Grab(s, true, g, 0, 0)
+	s, status, l := route.Grab(s, true, g, 0, 0)
 	want(t, "Grab", status == 0 && len(l) == 0, true)
 	_, l = does(t, s, press(1, 5), motion(3, 2, 6))
 	said(t, l, []int64{1, 5, int64(c), 0, 0, 256, -3, -4, 3, 2, 6})
 	g.Owner, g.Mask = true, api.MaskButtonPress|api.MaskMotion
-	s, _, _ = Grab(s, true, g, 0, 0)
+	s, _, _ = route.Grab(s, true, g, 0, 0)
 	_, l = does(t, s, press(1, 5), motion(3, 2, 6))
 	said(t, l, []int64{1, 3, int64(b), 0, 1, 0, 1, 1}, []int64{1, 5, int64(c), 0, 0, 256, -3, -4})
 }
@@ -187,7 +188,7 @@ func TestActive(t *testing.T) {
 func TestPassive(t *testing.T) {
 	one := passive.Grab{Client: 1, Window: a, Button: true, Code: 1, Mods: passive.AnyMods, Mask: api.MaskButtonPress, Owner: true}
 	two := passive.Grab{Client: 2, Window: b, Button: true, Code: 1, Mods: passive.AnyMods, Mask: api.MaskButtonPress}
-	s := start(3, 3).grabs(two).grabs(one)
+	s := grabs(grabs(start(3, 3), two), one)
 	s, l := does(t, s, press(1, 5))
 	said(t, l, []int64{1, 3, int64(a), int64(b), 1, 0, 2, 2, 3, 3, 5})
 	g, ok := s.Pointer.Active()
@@ -200,7 +201,7 @@ func TestPassive(t *testing.T) {
 	_, ok = s.Pointer.Active()
 	want(t, "ended", ok, false)
 	k := passive.Grab{Client: 3, Window: 1, Code: 65, Mods: 1, Mask: api.MaskKeyPress | api.MaskKeyRelease}
-	s = start(7, 0).grabs(k)
+	s = grabs(start(7, 0), k)
 	s, l = does(t, s, key(65, 1), key(248, 2), key(65, 3), keyUp(66, 4), keyUp(65, 5), keyUp(65, 6))
 	said(t, l, []int64{3, 1, 1, 0, 65, 1}, []int64{3, 2, 1, 0, 66, 1}, []int64{3, 2, 1, 0, 65, 1})
 	s.Focus.Window = 0
@@ -209,14 +210,14 @@ func TestPassive(t *testing.T) {
 	s.Focus.Window = c
 	_, l = does(t, s, key(65, 7))
 	said(t, l, []int64{3, 1, 1, 0, 65, 1})
-	_, l = does(t, start(3, 3).grabs(passive.Grab{Client: 3, Window: b, Code: 65, Mask: 3}), key(65, 1))
+	_, l = does(t, grabs(start(3, 3), passive.Grab{Client: 3, Window: b, Code: 65, Mask: 3}), key(65, 1))
 	said(t, l, []int64{3, 1, int64(b)})
 }
 
 // P40.1, P40.4, P40.6: frozen devices lose nothing; steps; replay.
 func TestFrozen(t *testing.T) {
 	sync := passive.Grab{Client: 1, Window: a, Button: true, Code: 0, Mods: passive.AnyMods, Mask: api.MaskButtonPress | api.MaskButtonRelease | api.MaskMotion, Pointer: freeze.Sync, Keyboard: freeze.Sync}
-	s := start(3, 3).grabs(sync).sel(2, b, api.MaskButtonPress|api.MaskKeyPress)
+	s := sel(grabs(start(3, 3), sync), 2, b, api.MaskButtonPress|api.MaskKeyPress)
 	s, l := does(t, s, press(1, 5), motion(2, 2, 6), key(70, 7), release(1, 8), motion(3, 3, 9))
 	said(t, l, []int64{1, 3, int64(a)})
 	want(t, "waits", len(s.Pointer.Waiting())*10+len(s.Keyboard.Waiting()), 31)
@@ -224,41 +225,41 @@ func TestFrozen(t *testing.T) {
 		client, mode int
 		time         uint32
 	}{{2, 0, 0}, {1, 6, 0}, {1, -1, 0}, {1, 0, 4}, {1, 0, 10}, {2, 3, 0}} {
-		u, l := Allow(s, x.client, x.mode, x.time)
+		u, l := route.Allow(s, x.client, x.mode, x.time)
 		want(t, "nothing", len(l) == 0 && u.Pointer.Frozen() && u.Keyboard.Frozen(), true)
 	}
-	u, l := Allow(s, 1, 1, 5)
+	u, l := route.Allow(s, 1, 1, 5)
 	said(t, l, []int64{1, 5, int64(a)}, []int64{1, 4, int64(a), int64(b), 1, 256}, []int64{2, 1, int64(b)})
 	_, ok := u.Pointer.Active()
 	want(t, "the grab ended by the release", ok, false)
-	_, l = Allow(s, 1, 3, 0)
+	_, l = route.Allow(s, 1, 3, 0)
 	said(t, l, []int64{2, 1, int64(b), 0, 70, 256})
-	u, l = Allow(s, 1, 0, 0)
+	u, l = route.Allow(s, 1, 0, 0)
 	said(t, l, []int64{1, 5, int64(a)}, []int64{1, 4, int64(a)}, []int64{2, 1, int64(b)})
 	want(t, "all is taken", len(u.Pointer.Waiting())+len(u.Keyboard.Waiting()), 0)
 	// Replay: the press goes to whom it names without the passive grab, as if it hadn't been.
-	u, l = Allow(s, 1, 2, 0)
+	u, l = route.Allow(s, 1, 2, 0)
 	said(t, l, []int64{2, 3, int64(b), 0, 1, 0}, []int64{2, 1, int64(b)})
 	want(t, "Replay", u.Buttons == 0 && len(u.Pointer.Waiting()) == 0, true)
-	s = s.grabs(passive.Grab{Client: 3, Window: b, Button: true, Code: 1, Mods: passive.AnyMods, Mask: api.MaskButtonPress})
-	_, l = Allow(s, 1, 2, 0)
+	s = grabs(s, passive.Grab{Client: 3, Window: b, Button: true, Code: 1, Mods: passive.AnyMods, Mask: api.MaskButtonPress})
+	_, l = route.Allow(s, 1, 2, 0)
 	said(t, l, []int64{3, 3, int64(b), 0, 1, 0}, []int64{2, 1, int64(b)})
 }
 
 // P40.4: a step stops at the next press, which is held.
 func TestStep(t *testing.T) {
 	s := start(3, 3)
-	s, _, _ = Grab(s, true, freeze.Active{Client: 1, Window: a, Mask: api.MaskMotion | api.MaskButtonPress}, freeze.Sync, freeze.Async)
+	s, _, _ = route.Grab(s, true, freeze.Active{Client: 1, Window: a, Mask: api.MaskMotion | api.MaskButtonPress}, freeze.Sync, freeze.Async)
 	s, _ = does(t, s, motion(2, 2, 5), press(1, 6), motion(3, 3, 7))
-	s, l := Allow(s, 1, 1, 0)
+	s, l := route.Allow(s, 1, 1, 0)
 	said(t, l, []int64{1, 5}, []int64{1, 3})
 	want(t, "waits again", s.Pointer.Frozen() && s.Buttons == 1 && len(s.Pointer.Waiting()) == 1, true)
-	u := s.sel(2, b, api.MaskButtonPress)
-	u, l = Allow(u, 1, 2, 0)
+	u := sel(s, 2, b, api.MaskButtonPress)
+	u, l = route.Allow(u, 1, 2, 0)
 	said(t, l, []int64{2, 3, int64(b), 0, 1, 0})
 	g, _ := u.Pointer.Active()
 	want(t, "Replay", g.Auto && g.Client == 2 && u.Buttons == 1 && u.X == 3, true)
-	s, _ = Allow(s, 1, 1, 0)
+	s, _ = route.Allow(s, 1, 1, 0)
 	want(t, "a step waits for the next", s.Pointer.Stepping() && !s.Pointer.Frozen(), true)
 	s, _ = does(t, s, release(1, 8))
 	want(t, "frozen by the release", s.Pointer.Frozen(), true)
@@ -266,20 +267,20 @@ func TestStep(t *testing.T) {
 
 // P40.2
 func TestMoved(t *testing.T) {
-	s := start(3, 3).sel(1, a, api.MaskFocus|api.MaskLeave).sel(2, 1, api.MaskFocus|api.MaskEnter).sel(3, b, api.MaskFocus|api.MaskLeave|api.MaskMotion)
+	s := sel(sel(sel(start(3, 3), 1, a, api.MaskFocus|api.MaskLeave), 2, 1, api.MaskFocus|api.MaskEnter), 3, b, api.MaskFocus|api.MaskLeave|api.MaskMotion)
 	s.Focus = focus.Focus{Window: b, Revert: focus.ToParent, Time: 3}
 	s.Pointer = s.Pointer.Begin(freeze.Active{Client: 4, Window: b}, true)
 	s.Keyboard = s.Keyboard.Freeze()
 	s, _ = does(t, s, key(65, 5))
 	s.Tree, s.View = looked(c)
-	u, l := Moved(s)
+	u, l := route.Moved(s)
 	said(t, l, []int64{3, 9, int64(b), cross.Ancestor}, []int64{1, 9, int64(a), cross.Virtual}, []int64{2, 8, 1, cross.Inferior},
 		[]int64{3, 7, int64(b), cross.Ancestor, 3, 3, 3, 3, 0, 5}, []int64{1, 7, int64(a), cross.Virtual}, []int64{2, 6, 1, cross.Inferior})
 	_, ok := u.Pointer.Active()
 	want(t, "ended", ok || u.Keyboard.Frozen() || len(u.Keyboard.Waiting()) > 0, false)
 	want(t, "Moved", u.Focus == focus.Focus{Window: 1, Time: 3} && u.Under == 1, true)
 	same := start(3, 3)
-	u, l = Moved(same)
+	u, l = route.Moved(same)
 	want(t, "the same", len(l) == 0 && u.Under == b && u.Focus == same.Focus, true)
 }
 
@@ -287,14 +288,14 @@ func TestMoved(t *testing.T) {
 func TestGrab(t *testing.T) {
 	s, _ := does(t, start(3, 3), motion(3, 3, 20))
 	_, v := looked(a, c)
-	s, status, _ := Grab(s, true, freeze.Active{Client: 1, Window: a, Time: 10}, 0, freeze.Sync)
+	s, status, _ := route.Grab(s, true, freeze.Active{Client: 1, Window: a, Time: 10}, 0, freeze.Sync)
 	want(t, "Grab", status == 0 && !s.Pointer.Frozen() && s.Keyboard.Frozen(), true)
 	g, _ := s.Pointer.Active()
 	want(t, "Time", g.Time, 10)
 	hidden := s
 	hidden.View = v
 	for _, x := range []struct {
-		s       State
+		s       route.State
 		pointer bool
 		a       freeze.Active
 		status  int
@@ -302,35 +303,35 @@ func TestGrab(t *testing.T) {
 		{hidden, true, freeze.Active{Client: 2, Window: b, Time: 30}, 1}, {hidden, true, freeze.Active{Client: 1, Window: b, Time: 30}, 3}, {s, true, freeze.Active{Client: 1, Window: b, Time: 21}, 2}, {s, true, freeze.Active{Client: 1, Window: b, Time: 9}, 2},
 		{s, false, freeze.Active{Client: 2, Window: b, Time: 21}, 2}, {s, false, freeze.Active{Client: 2, Window: b, Time: 3}, 4}, {s, false, freeze.Active{Client: 1, Window: b, Time: 3}, 0}, {s, true, freeze.Active{Client: 1, Window: b, Time: 10}, 0}, {s, true, freeze.Active{Client: 1, Window: 99}, 3},
 	} {
-		_, status, l := Grab(x.s, x.pointer, x.a, 0, 0)
+		_, status, l := route.Grab(x.s, x.pointer, x.a, 0, 0)
 		want(t, "status", status, x.status)
 		want(t, "said", len(l), 0)
 	}
-	s, _, _ = Grab(s, true, freeze.Active{Client: 1, Window: c}, freeze.Sync, 0)
+	s, _, _ = route.Grab(s, true, freeze.Active{Client: 1, Window: c}, freeze.Sync, 0)
 	g, _ = s.Pointer.Active()
 	want(t, "now", g.Time == 20 && s.Pointer.Frozen() && s.Keyboard.Frozen(), true)
 	s, _ = does(t, s, motion(7, 7, 21))
-	s, _, l := Grab(s, true, freeze.Active{Client: 1, Window: c, Mask: api.MaskMotion}, 0, 0)
+	s, _, l := route.Grab(s, true, freeze.Active{Client: 1, Window: c, Mask: api.MaskMotion}, 0, 0)
 	said(t, l, []int64{1, 5, int64(c), 0, 0, 0, 1, 1, 7, 7, 21})
 	want(t, "Run", s.X, 7)
 }
 
 // P40.4, P40.6
 func TestUngrab(t *testing.T) {
-	s, _ := does(t, start(3, 3).sel(5, 1, api.MaskKeyPress), motion(3, 3, 20))
-	s, _, _ = Grab(s, true, freeze.Active{Client: 1, Window: a, Time: 10}, 0, freeze.Sync)
+	s, _ := does(t, sel(start(3, 3), 5, 1, api.MaskKeyPress), motion(3, 3, 20))
+	s, _, _ = route.Grab(s, true, freeze.Active{Client: 1, Window: a, Time: 10}, 0, freeze.Sync)
 	s, _ = does(t, s, key(65, 20))
 	for _, x := range []struct {
 		pointer bool
 		client  int
 		time    uint32
 	}{{false, 1, 0}, {true, 2, 0}, {true, 1, 9}, {true, 1, 21}} {
-		u, l := Ungrab(s, x.pointer, x.client, x.time)
+		u, l := route.Ungrab(s, x.pointer, x.client, x.time)
 		_, ok := u.Pointer.Active()
 		want(t, "nothing", ok && len(l) == 0, true)
 	}
 	for _, time := range []uint32{0, 10, 20} {
-		u, l := Ungrab(s, true, 1, time)
+		u, l := route.Ungrab(s, true, 1, time)
 		_, ok := u.Pointer.Active()
 		want(t, "ends", ok || u.Keyboard.Frozen(), false)
 		said(t, l, []int64{5, 1, 1, int64(a), 65})
@@ -339,7 +340,7 @@ func TestUngrab(t *testing.T) {
 
 // P40.5
 func TestFocusWarpLeave(t *testing.T) {
-	s := start(3, 3).sel(1, b, api.MaskFocus|api.MaskLeave).sel(2, c, api.MaskFocus|api.MaskEnter)
+	s := sel(sel(start(3, 3), 1, b, api.MaskFocus|api.MaskLeave), 2, c, api.MaskFocus|api.MaskEnter)
 	s.Focus = focus.Focus{Window: b, Time: 5}
 	s.Now = 9
 	for _, x := range []struct {
@@ -348,24 +349,24 @@ func TestFocusWarpLeave(t *testing.T) {
 		time   uint32
 		e      api.Errno
 	}{{99, 7, 1 << 31, api.ErrTime}, {99, 7, 1, api.ErrKind}, {99, 0, 1, api.ErrNone}, {c, 0, 4, api.OK}, {c, 0, 10, api.OK}} {
-		u, l, e := SetFocus(s, x.id, x.revert, x.time)
+		u, l, e := route.SetFocus(s, x.id, x.revert, x.time)
 		want(t, "SetFocus", e == x.e && len(l) == 0 && u.Focus == s.Focus, true)
 	}
-	u, l, e := SetFocus(s, c, 2, 0)
+	u, l, e := route.SetFocus(s, c, 2, 0)
 	want(t, "SetFocus", e == api.OK && u.Focus == focus.Focus{Window: c, Revert: 2, Time: 9}, true)
 	said(t, l, []int64{1, 9, int64(b), cross.Nonlinear}, []int64{2, 8, int64(c), cross.Nonlinear})
-	u, l = Warp(s, 6, 99)
+	u, l = route.Warp(s, 6, 99)
 	want(t, "Warp", u.X == 6 && u.Y == 7 && u.Under == c, true)
 	said(t, l, []int64{1, 7, int64(b), cross.Nonlinear, 4, 5, 6, 7, 0, 9}, []int64{2, 6, int64(c), cross.Nonlinear, 0, 1, 6, 7, 0, 9})
 	for _, by := range []struct {
 		client int
 		ids    []api.ID
 	}{{1, nil}, {0, []api.ID{a}}} {
-		g := s.sel(1, a, api.MaskMotion).sel(5, 1, api.MaskKeyPress).grabs(passive.Grab{Client: 1, Window: a, Code: 1})
+		g := grabs(sel(sel(s, 1, a, api.MaskMotion), 5, 1, api.MaskKeyPress), passive.Grab{Client: 1, Window: a, Code: 1})
 		g.Focus.Window = 1
-		g, _, _ = Grab(g, true, freeze.Active{Client: 1, Window: a}, 0, freeze.Sync)
+		g, _, _ = route.Grab(g, true, freeze.Active{Client: 1, Window: a}, 0, freeze.Sync)
 		g, _ = does(t, g, key(65, 20))
-		g, l = Leave(g, by.client, by.ids...)
+		g, l = route.Leave(g, by.client, by.ids...)
 		_, ok := g.Pointer.Active()
 		want(t, "Leave", ok || len(g.Passive.All()) > 0 || g.Choice.Mask(1, a) != 0 || g.Keyboard.Frozen(), false)
 		said(t, l, []int64{5, 1, 1})
@@ -376,10 +377,10 @@ func TestFocusWarpLeave(t *testing.T) {
 func TestFollows(t *testing.T) {
 	rnd := rand.New(rand.NewSource(3))
 	for range 60 {
-		s := start(3, 3).sel(1, 1, 31).sel(2, a, 27).sel(3, b, 31&^4)
+		s := sel(sel(sel(start(3, 3), 1, 1, 31), 2, a, 27), 3, b, 31&^4)
 		for _, w := range []api.ID{1, a, b} {
-			s = s.grabs(passive.Grab{Client: 1 + rnd.Intn(3), Window: w, Button: true, Code: 1 + rnd.Intn(2), Mods: passive.AnyMods, Mask: 31, Pointer: rnd.Intn(2), Keyboard: rnd.Intn(2)})
-			s = s.grabs(passive.Grab{Client: 1 + rnd.Intn(3), Window: w, Code: 65, Mods: passive.AnyMods, Mask: 31, Pointer: rnd.Intn(2), Keyboard: rnd.Intn(2)})
+			s = grabs(s, passive.Grab{Client: 1 + rnd.Intn(3), Window: w, Button: true, Code: 1 + rnd.Intn(2), Mods: passive.AnyMods, Mask: 31, Pointer: rnd.Intn(2), Keyboard: rnd.Intn(2)})
+			s = grabs(s, passive.Grab{Client: 1 + rnd.Intn(3), Window: w, Code: 65, Mods: passive.AnyMods, Mask: 31, Pointer: rnd.Intn(2), Keyboard: rnd.Intn(2)})
 		}
 		taken := 0
 		for range 120 {
@@ -391,18 +392,18 @@ func TestFollows(t *testing.T) {
 				i.Code = 1 + rnd.Intn(3)
 			}
 			waiting := len(s.Pointer.Waiting()) + len(s.Keyboard.Waiting())
-			u, _, e := Step(s, i)
+			u, _, e := route.Step(s, i)
 			if e == api.OK {
 				waiting++
 			}
 			s = u
 			switch client := 1 + rnd.Intn(3); rnd.Intn(6) {
 			case 0:
-				s, _ = Allow(s, client, rnd.Intn(6), 0)
+				s, _ = route.Allow(s, client, rnd.Intn(6), 0)
 			case 1:
-				s, _ = Ungrab(s, rnd.Intn(2) == 0, client, 0)
+				s, _ = route.Ungrab(s, rnd.Intn(2) == 0, client, 0)
 			case 2:
-				s, _, _ = Grab(s, rnd.Intn(2) == 0, freeze.Active{Client: client, Window: a, Mask: 31}, rnd.Intn(2), rnd.Intn(2))
+				s, _, _ = route.Grab(s, rnd.Intn(2) == 0, freeze.Active{Client: client, Window: a, Mask: 31}, rnd.Intn(2), rnd.Intn(2))
 			}
 			taken += waiting - len(s.Pointer.Waiting()) - len(s.Keyboard.Waiting())
 			for _, pair := range [][2]freeze.Device{{s.Pointer, s.Keyboard}, {s.Keyboard, s.Pointer}} {
@@ -412,9 +413,9 @@ func TestFollows(t *testing.T) {
 				want(t, "frozen only by a grab", !pair[0].Frozen() || grabbed || other, true)
 			}
 		}
-		s, _ = Leave(s, 1)
-		s, _ = Leave(s, 2)
-		s, _ = Leave(s, 3)
+		s, _ = route.Leave(s, 1)
+		s, _ = route.Leave(s, 2)
+		s, _ = route.Leave(s, 3)
 		want(t, "all is taken", len(s.Pointer.Waiting())+len(s.Keyboard.Waiting()), 0)
 		want(t, "some was", taken > 0, true)
 	}

@@ -1,4 +1,4 @@
-package saveset
+package saveset_test
 
 import (
 	"math/rand"
@@ -7,6 +7,7 @@ import (
 
 	"glazier/api"
 	"glazier/place"
+	"glazier/saveset"
 	"glazier/tree"
 )
 
@@ -21,7 +22,7 @@ func id(client, n int) api.ID { return api.ID(client<<20 + n) }
 
 // P43.1
 func TestChange(t *testing.T) {
-	s, e := Set{}.Change(1, id(2, 5), true)
+	s, e := saveset.Set{}.Change(1, id(2, 5), true)
 	want(t, "Change", e, api.OK)
 	s, _ = s.Change(1, id(3, 4), true)
 	s, _ = s.Change(1, id(2, 5), true)
@@ -44,7 +45,7 @@ func TestChange(t *testing.T) {
 	want(t, "Drop", len(s.Drop(1).Of(1))*10+len(s.Drop(1).Of(4)), 1)
 	d := s.Drop(0, id(2, 5))
 	want(t, "Drop", len(d.Of(1))*10+len(d.Of(4)), 10)
-	many := Set{}
+	many := saveset.Set{}
 	for i := 1; i <= 64; i++ {
 		many, _ = many.Change(1, id(2, i), true)
 	}
@@ -75,17 +76,17 @@ func TestRescue(t *testing.T) {
 	u, p = grow(t, u, p, id(2, 4), id(1, 2), 7, 8, true)      // saved, in own, in what lives on
 	u, p = grow(t, u, p, id(2, 5), 1, 1, 1, true)             // saved, on the root
 	u, p = grow(t, u, p, id(2, 6), id(1, 1), 1, 1, true)      // not saved
-	s := Set{}
+	s := saveset.Set{}
 	for _, n := range []int{1, 2, 3, 4, 5, 9} {
 		s, _ = s.Change(1, id(2, n), true)
 	}
 	own := []api.ID{id(1, 1), id(1, 2)}
-	l := Rescue(u, p, s, 1, own)
-	want(t, "Rescue", slices.Equal(l, []Move{{id(2, 1), 1, 13, 24, false}, {id(2, 3), 1, 15, 25, true}, {id(2, 4), id(3, 1), 8, 9, false}}), true)
-	want(t, "own", len(Rescue(u, p, s, 1, append(own, id(2, 1), id(2, 3), id(2, 4)))), 1)
-	want(t, "none", len(Rescue(u, p, s, 0, own))+len(Rescue(u, p, s, 2, own))+len(Rescue(u, p, s, 9, own)), 0)
-	l = Rescue(u, p.Drop(id(2, 1)), s, 1, own)
-	want(t, "no place", slices.Equal(l, []Move{{id(2, 3), 1, 15, 25, true}, {id(2, 4), id(3, 1), 8, 9, false}}), true)
+	l := saveset.Rescue(u, p, s, 1, own)
+	want(t, "Rescue", slices.Equal(l, []saveset.Move{{id(2, 1), 1, 13, 24, false}, {id(2, 3), 1, 15, 25, true}, {id(2, 4), id(3, 1), 8, 9, false}}), true)
+	want(t, "own", len(saveset.Rescue(u, p, s, 1, append(own, id(2, 1), id(2, 3), id(2, 4)))), 1)
+	want(t, "none", len(saveset.Rescue(u, p, s, 0, own))+len(saveset.Rescue(u, p, s, 2, own))+len(saveset.Rescue(u, p, s, 9, own)), 0)
+	l = saveset.Rescue(u, p.Drop(id(2, 1)), s, 1, own)
+	want(t, "no place", slices.Equal(l, []saveset.Move{{id(2, 3), 1, 15, 25, true}, {id(2, 4), id(3, 1), 8, 9, false}}), true)
 }
 
 // P43.3
@@ -94,7 +95,7 @@ func TestFollows(t *testing.T) {
 	for range 200 {
 		u := tree.New()
 		p, _ := place.New(50, 50)
-		s, own := Set{}, []api.ID(nil)
+		s, own := saveset.Set{}, []api.ID(nil)
 		for i := 1; i < 15; i++ {
 			w, l := id(1+rnd.Intn(2), i), u.Below(1)
 			u, p = grow(t, u, p, w, l[rnd.Intn(len(l))], rnd.Intn(20)-5, rnd.Intn(20)-5, true)
@@ -109,7 +110,7 @@ func TestFollows(t *testing.T) {
 			was[w], _ = p.Origin(u, w)
 		}
 		v, q := u, p
-		for _, m := range Rescue(u, p, s, 1, own) {
+		for _, m := range saveset.Rescue(u, p, s, 1, own) {
 			v, _ = v.Move(m.ID, m.Parent)
 			b, _ := q.Box(m.ID)
 			b.X, b.Y = m.X, m.Y

@@ -1,4 +1,4 @@
-package script
+package script_test
 
 import (
 	"slices"
@@ -6,6 +6,7 @@ import (
 	"testing"
 
 	"glazier/api"
+	"glazier/script"
 )
 
 func want[T comparable](t *testing.T, what string, got, wanted T) {
@@ -15,8 +16,8 @@ func want[T comparable](t *testing.T, what string, got, wanted T) {
 	}
 }
 
-func same(a, b []Command, lines bool) bool {
-	return slices.EqualFunc(a, b, func(x, y Command) bool {
+func same(a, b []script.Command, lines bool) bool {
+	return slices.EqualFunc(a, b, func(x, y script.Command) bool {
 		return x.Op == y.Op && slices.Equal(x.Nums, y.Nums) && slices.Equal(x.Words, y.Words) && (!lines || x.Line == y.Line)
 	})
 }
@@ -25,22 +26,22 @@ const all = "screen 128 1\njoin plain 0 1\nask 1 58\nask 8 255 -2147483648 42949
 
 // P63.1, P63.2, P63.3
 func TestThereAndBack(t *testing.T) {
-	l, n, e := Parse(all)
+	l, n, e := script.Parse(all)
 	want(t, "Parse", n == 0 && e == api.OK && len(l) == 24, true)
-	s, e := Print(l...)
+	s, e := script.Print(l...)
 	want(t, "Print", e == api.OK && s == all, true)
 	for i, c := range l {
 		want(t, "Line", c.Line, i+1)
 	}
-	m, _, e := Parse("# first\n\nscreen 20 10\n#\njoin plain 0 1\n\n\nsay 1 11 696e6372 0\nbytes 1 -")
-	want(t, "example", e == api.OK && same(m, []Command{{3, 0, []int64{20, 10}, nil}, {5, 1, []int64{0, 1}, []string{"plain"}}, {8, 3, []int64{1, 11, 0}, []string{"696e6372"}}, {9, 5, []int64{1}, []string{"-"}}}, true), true)
-	s, _ = Print(m...)
-	again, _, _ := Parse(s)
+	m, _, e := script.Parse("# first\n\nscreen 20 10\n#\njoin plain 0 1\n\n\nsay 1 11 696e6372 0\nbytes 1 -")
+	want(t, "example", e == api.OK && same(m, []script.Command{{3, 0, []int64{20, 10}, nil}, {5, 1, []int64{0, 1}, []string{"plain"}}, {8, 3, []int64{1, 11, 0}, []string{"696e6372"}}, {9, 5, []int64{1}, []string{"-"}}}, true), true)
+	s, _ = script.Print(m...)
+	again, _, _ := script.Parse(s)
 	want(t, "but for the Lines", same(again, m, false) && again[3].Line == 4, true)
 	for op, name := range strings.Fields("screen join ask say row bytes turn input hang show read text write lose calm audit") {
-		want(t, "Name", Name(op), name)
+		want(t, "Name", script.Name(op), name)
 	}
-	want(t, "Name", Name(-1)+Name(16), "")
+	want(t, "Name", script.Name(-1)+script.Name(16), "")
 }
 
 // P63.1: what Parse refuses, in order.
@@ -58,7 +59,7 @@ func TestParse(t *testing.T) {
 		{"screen 1 1\nrow 1 1", 2, api.ErrForm}, {"screen 1 1\nrow 1 1 -1", 2, api.ErrRange}, {"screen 1 1\nrow 1 1 2 5", 2, api.ErrRange}, {"screen 1 1\nbytes 1", 2, api.ErrForm}, {"screen 1 1\nbytes 0 -", 2, api.ErrRange}, {"screen 1 1\nwrite 1 -", 2, api.ErrForm}, {"screen 1 1\nturn 1 0", 2, api.ErrRange}, {"screen 1 1\nturn 1 65537", 2, api.ErrRange}, {"screen 1 1\nlose 1 5", 2, api.ErrRange}, {"screen 1 1\nshow 1", 2, api.ErrForm}, {"screen 1 1\ninput 1 2 3 4", 2, api.ErrForm},
 		{many, 0, api.OK}, {many + "calm", 1001, api.ErrMany}, {many + "screen 1 1", 1001, api.ErrOrder}, {many + "calm 1", 1001, api.ErrForm},
 	} {
-		l, n, e := Parse(x.s)
+		l, n, e := script.Parse(x.s)
 		if n != x.n || e != x.e || (len(l) > 0) != (e == api.OK) {
 			t.Errorf("%.40q: line %d, error %d", x.s, n, e)
 		}
@@ -67,16 +68,16 @@ func TestParse(t *testing.T) {
 
 // P63.2: what Print refuses, in order.
 func TestPrint(t *testing.T) {
-	screen, calm := Command{Op: 0, Nums: []int64{1, 1}}, Command{Op: 14}
+	screen, calm := script.Command{Op: 0, Nums: []int64{1, 1}}, script.Command{Op: 14}
 	for i, x := range []struct {
-		l []Command
+		l []script.Command
 		e api.Errno
 	}{
-		{nil, api.ErrEmpty}, {make([]Command, 1001), api.ErrMany}, {[]Command{{Op: 16, Nums: []int64{1}}}, api.ErrKind}, {[]Command{{Op: -1}}, api.ErrKind}, {[]Command{{Op: 0, Nums: []int64{0}}}, api.ErrForm}, {[]Command{{Op: 0, Nums: []int64{0, 1}, Words: []string{"x"}}}, api.ErrForm}, {[]Command{{Op: 0, Nums: []int64{0, 1}}}, api.ErrRange}, {[]Command{calm}, api.ErrOrder}, {[]Command{screen, screen}, api.ErrOrder},
-		{[]Command{screen, {Op: 1, Nums: []int64{0, 0}}}, api.ErrForm}, {[]Command{screen, {Op: 1, Nums: []int64{0, 0}, Words: []string{"plain", "raw"}}}, api.ErrForm}, {[]Command{screen, {Op: 5, Nums: []int64{1}, Words: []string{""}}}, api.ErrForm}, {[]Command{screen, {Op: 5, Nums: []int64{1}, Words: []string{"a b"}}}, api.ErrForm}, {[]Command{screen, {Op: 4, Nums: []int64{1, 1, 1}}}, api.ErrRange}, {[]Command{screen, {Op: 2, Nums: []int64{1, 1, 1 << 40}}}, api.ErrRange},
-		{[]Command{screen, {Op: 5, Nums: []int64{1}, Words: []string{strings.Repeat("00", 33000)}}}, api.ErrLong}, {[]Command{screen, {Op: 5, Nums: []int64{1}, Words: []string{strings.Repeat("00", 33000)}}, {Op: 99}}, api.ErrKind}, {[]Command{screen, calm}, api.OK},
+		{nil, api.ErrEmpty}, {make([]script.Command, 1001), api.ErrMany}, {[]script.Command{{Op: 16, Nums: []int64{1}}}, api.ErrKind}, {[]script.Command{{Op: -1}}, api.ErrKind}, {[]script.Command{{Op: 0, Nums: []int64{0}}}, api.ErrForm}, {[]script.Command{{Op: 0, Nums: []int64{0, 1}, Words: []string{"x"}}}, api.ErrForm}, {[]script.Command{{Op: 0, Nums: []int64{0, 1}}}, api.ErrRange}, {[]script.Command{calm}, api.ErrOrder}, {[]script.Command{screen, screen}, api.ErrOrder},
+		{[]script.Command{screen, {Op: 1, Nums: []int64{0, 0}}}, api.ErrForm}, {[]script.Command{screen, {Op: 1, Nums: []int64{0, 0}, Words: []string{"plain", "raw"}}}, api.ErrForm}, {[]script.Command{screen, {Op: 5, Nums: []int64{1}, Words: []string{""}}}, api.ErrForm}, {[]script.Command{screen, {Op: 5, Nums: []int64{1}, Words: []string{"a b"}}}, api.ErrForm}, {[]script.Command{screen, {Op: 4, Nums: []int64{1, 1, 1}}}, api.ErrRange}, {[]script.Command{screen, {Op: 2, Nums: []int64{1, 1, 1 << 40}}}, api.ErrRange},
+		{[]script.Command{screen, {Op: 5, Nums: []int64{1}, Words: []string{strings.Repeat("00", 33000)}}}, api.ErrLong}, {[]script.Command{screen, {Op: 5, Nums: []int64{1}, Words: []string{strings.Repeat("00", 33000)}}, {Op: 99}}, api.ErrKind}, {[]script.Command{screen, calm}, api.OK},
 	} {
-		s, e := Print(x.l...)
+		s, e := script.Print(x.l...)
 		if e != x.e || (s != "") != (e == api.OK) {
 			t.Errorf("%d: %q, %d", i, s, e)
 		}

@@ -1,4 +1,4 @@
-package serve
+package serve_test
 
 import (
 	"math/rand"
@@ -10,6 +10,7 @@ import (
 	"glazier/code"
 	"glazier/image"
 	"glazier/screen"
+	"glazier/serve"
 	"glazier/sheet"
 	"glazier/tell"
 	"glazier/told"
@@ -28,7 +29,7 @@ func joined(t *testing.T, clients ...int) world.World {
 	w, _ := world.New(20, 16, 1)
 	for _, c := range clients {
 		var e api.Errno
-		w, e = Join(w, c)
+		w, e = serve.Join(w, c)
 		want(t, "Join", e, api.OK)
 	}
 	return w
@@ -43,7 +44,7 @@ func do(t *testing.T, w world.World, client, c int, text string, n ...int64) (wo
 		r.N, r.L = n[:len(form.Fixed)], n[len(form.Fixed):]
 	}
 	was := w.Text()
-	u, said := Do(w, client, r)
+	u, said := serve.Do(w, client, r)
 	check(t, u, said)
 	want(t, "as it was", w.Text(), was)
 	if len(said) > 0 && said[0].Out.Kind == api.Fault {
@@ -71,16 +72,16 @@ const a, b, f, p, q, o = int64(1<<20 + 1), int64(2<<20 + 1), int64(1<<20 + 2), i
 func TestJoin(t *testing.T) {
 	w := joined(t, 1, 2)
 	for c, e := range map[int]api.Errno{0: api.ErrRange, 9: api.ErrRange, -1: api.ErrRange, 2: api.ErrTwice} {
-		u, f := Join(w, c)
+		u, f := serve.Join(w, c)
 		want(t, "Join", f == e && u.Text() == w.Text(), true)
 	}
-	want(t, "Open", Open(w, 1) && Open(w, 2) && !Open(w, 3) && !Open(w, 0), true)
+	want(t, "Open", serve.Open(w, 1) && serve.Open(w, 2) && !serve.Open(w, 3) && !serve.Open(w, 0), true)
 	w.Closed = 2
-	want(t, "closed", !Open(w, 1) && Open(w, 2), true)
-	u, said, e := Input(w, api.Input{Kind: 9})
+	want(t, "closed", !serve.Open(w, 1) && serve.Open(w, 2), true)
+	u, said, e := serve.Input(w, api.Input{Kind: 9})
 	want(t, "Input", e == api.ErrKind && len(said) == 0 && u.Text() == w.Text(), true)
 	w.In.Choice, _ = w.In.Choice.Set(1, 1, api.MaskKeyPress)
-	u, said, e = Input(w, api.Input{Kind: api.EvKeyPress, Code: 65, Time: 5})
+	u, said, e = serve.Input(w, api.Input{Kind: api.EvKeyPress, Code: 65, Time: 5})
 	want(t, "Input", e == api.OK && told.Sends(said) == "1 event 1 1 0 65 0 10 8 10 8 5" && u.In.Now == 5, true)
 }
 
@@ -134,20 +135,20 @@ func TestLeave(t *testing.T) {
 	w, _ = do(t, w, 1, 43, "", a, 0, 1, 0, 0)             //
 	w, _ = do(t, w, 1, 56, "")                            //
 	w.In.Choice, _ = w.In.Choice.Set(2, api.ID(b), api.MaskKeyPress|api.MaskStructure)
-	w, said, _ := Input(w, api.Input{Kind: api.EvButtonPress, Code: 1, Time: 9})
+	w, said, _ := serve.Input(w, api.Input{Kind: api.EvButtonPress, Code: 1, Time: 9})
 	want(t, "frozen", len(said), 0)
-	u, said := Leave(w, 1)
+	u, said := serve.Leave(w, 1)
 	check(t, u, said)
 	want(t, "told", told.Sends(said), "2 event 24 2097153 1 4 0 0; 2 event 20 2097153 2097153 1 4 3 0; 3 event 20 1 2097153 1 4 3 0; 2 event 15 2097153 2097153 0; 3 event 15 1 2097153 0; 3 event 16 1 1048577; 3 event 14 1 1048577")
 	gone := u.Text()
 	want(t, "nothing is left", strings.Contains(gone, "10485") || strings.Contains(gone, "client 1\n") || strings.Contains(gone, " 1 2048"), false)
 	x, _ := u.Place.Box(api.ID(b))
 	want(t, "saved", x.X == 4 && x.Y == 3 && x.Mapped && !u.Clients[1] && u.Clients[2] && u.Closed == 0, true)
-	v, said := Leave(u, 1)
+	v, said := serve.Leave(u, 1)
 	want(t, "not there", len(said) == 0 && v.Text() == u.Text(), true)
 	w = joined(t, 1, 2)
 	w, _ = do(t, w, 1, 1, "", a, 1, 0, 0, 1, 1, 0, 0, 0)
-	w, _ = Leave(w, 1)
+	w, _ = serve.Leave(w, 1)
 	want(t, "example", slices.Equal(w.In.Tree.Below(1), []api.ID{1}) && w.Clients[2], true)
 }
 
@@ -216,22 +217,22 @@ func TestFollows(t *testing.T) {
 			client := 1 + rnd.Intn(3)
 			switch n := rnd.Intn(60); {
 			case n == 0:
-				w, said = Leave(w, client)
+				w, said = serve.Leave(w, client)
 				check(t, w, said)
 				want(t, "nothing held", len(w.Held.Of(client)), 0)
 			case n < 3:
-				w, _ = Join(w, client)
+				w, _ = serve.Join(w, client)
 			case n < 16:
 				i := api.Input{Kind: 1 + rnd.Intn(5), Code: 1 + rnd.Intn(3), X: rnd.Intn(24) - 2, Y: rnd.Intn(20) - 2, Time: uint32(step)}
 				if i.Kind == api.EvMotion {
 					i.Code = 0
 				}
-				w, said, _ = Input(w, i)
+				w, said, _ = serve.Input(w, i)
 			default:
 				r := ask(rnd, client)
-				closed := !Open(w, client)
+				closed := !serve.Open(w, client)
 				was := w.Text()
-				u, l := Do(w, client, r)
+				u, l := serve.Do(w, client, r)
 				want(t, "as it was", w.Text(), was)
 				if closed {
 					want(t, "not open", u.Text() == was && len(l) == 0, true)
@@ -252,7 +253,7 @@ func TestFollows(t *testing.T) {
 			}
 		}
 		for c := 1; c <= 3; c++ {
-			w, _ = Leave(w, c)
+			w, _ = serve.Leave(w, c)
 		}
 		want(t, "nothing is left", w.Held.Len() == 0 && len(w.In.Tree.Below(1)) == 1 && len(w.Clients) == 0 && len(w.Claims.All()) == 0 && len(w.In.Passive.All()) == 0, true)
 	}

@@ -1,4 +1,4 @@
-package server
+package server_test
 
 import (
 	"math/rand"
@@ -7,6 +7,7 @@ import (
 
 	"glazier/api"
 	"glazier/pack"
+	"glazier/server"
 	"glazier/stream"
 	"glazier/tell"
 	"glazier/told"
@@ -19,9 +20,9 @@ func want[T comparable](t *testing.T, what string, got, wanted T) {
 	}
 }
 
-func connected(t *testing.T, n int) Server {
+func connected(t *testing.T, n int) server.Server {
 	t.Helper()
-	s, e := New(8, 8, 0)
+	s, e := server.New(8, 8, 0)
 	want(t, "New", e, api.OK)
 	for i := 1; i <= n; i++ {
 		var c int
@@ -39,7 +40,7 @@ func request(code int, text string, n ...int64) string {
 	return b
 }
 
-func feed(t *testing.T, s Server, client int, b string) Server {
+func feed(t *testing.T, s server.Server, client int, b string) server.Server {
 	t.Helper()
 	s, e := s.Feed(client, b)
 	want(t, "Feed", e, api.OK)
@@ -50,7 +51,7 @@ func feed(t *testing.T, s Server, client int, b string) Server {
 }
 
 // all takes a client's queue, and tells it with the numbers.
-func all(t *testing.T, s Server, client int) (Server, string) {
+func all(t *testing.T, s server.Server, client int) (server.Server, string) {
 	t.Helper()
 	s, b := s.Take(client, 1<<30)
 	var l []string
@@ -73,9 +74,9 @@ const (
 
 // P51.1, P51.3
 func TestConnect(t *testing.T) {
-	_, e := New(0, 8, 0)
+	_, e := server.New(0, 8, 0)
 	want(t, "New", e, api.ErrSize)
-	var z Server
+	var z server.Server
 	_, c, e := z.Connect()
 	want(t, "zero", c == 0 && e == api.ErrState, true)
 	_, e = z.Input(api.Input{Kind: 99})

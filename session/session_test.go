@@ -1,4 +1,4 @@
-package session
+package session_test
 
 import (
 	"fmt"
@@ -8,11 +8,13 @@ import (
 	"testing"
 
 	"glazier/api"
+	"glazier/editor"
 	"glazier/grid"
 	"glazier/held"
 	"glazier/place"
 	"glazier/screen"
 	"glazier/script"
+	"glazier/session"
 	"glazier/world"
 )
 
@@ -26,7 +28,7 @@ func want[T comparable](t *testing.T, what string, got, wanted T) {
 // run plays a script, and tells its lines.
 func run(t *testing.T, s string) []string {
 	t.Helper()
-	l, n, e := Run(s)
+	l, n, e := session.Run(s)
 	if n != 0 || e != api.OK {
 		t.Fatal(n, e)
 	}
@@ -116,7 +118,7 @@ func TestCommands(t *testing.T) {
 		calm -> calm 2
 		text 2 -> |hi           / |             / |             / |             / |            
 		audit -> ok`)
-	s, e := New(5, 5)
+	s, e := session.New(5, 5)
 	want(t, "New", e, api.OK)
 	for _, x := range []struct {
 		c script.Command
@@ -127,7 +129,7 @@ func TestCommands(t *testing.T) {
 		want(t, "Do", strings.Join(s.Do(x.c), "/"), x.l)
 	}
 	for _, n := range [][2]int{{0, 5}, {5, 129}} {
-		z, e := New(n[0], n[1])
+		z, e := session.New(n[0], n[1])
 		want(t, "New", z == nil && e == api.ErrSize, true)
 		want(t, "nil", len(z.Do(script.Command{Op: 14})) == 0 && grid.Same(z.Screen(), grid.Grid{}) && !z.Server().Alive(1), true)
 	}
@@ -145,7 +147,7 @@ func TestRun(t *testing.T) {
 		n int
 		e api.Errno
 	}{{"", 0, api.ErrEmpty}, {"screen 1 1\n\nwhat", 3, api.ErrName}, {"calm", 1, api.ErrOrder}, {"screen 1 1", 0, api.OK}} {
-		l, n, e := Run(x.s)
+		l, n, e := session.Run(x.s)
 		want(t, "Run", len(l) == 0 && n == x.n && e == x.e, true)
 	}
 }
@@ -153,17 +155,17 @@ func TestRun(t *testing.T) {
 // P64.1
 func TestAudit(t *testing.T) {
 	w, _ := world.New(4, 3, 7)
-	want(t, "good", len(Audit(w)), 0)
+	want(t, "good", len(session.Audit(w)), 0)
 	bad := w
 	bad.Held, _ = bad.Held.Add(1, 1<<20+1, held.Window)
-	want(t, "rules", slices.Equal(Audit(bad), []int{1, 6}), true)
+	want(t, "rules", slices.Equal(session.Audit(bad), []int{1, 6}), true)
 	bad = w
 	bad.In.Tree, _ = bad.In.Tree.Add(1<<20+1, 1)
 	bad.Held, _ = bad.Held.Add(1, 1<<20+1, held.Window)
 	bad.Clients[1] = true
 	bad.Place, _ = bad.Place.Set(1<<20+1, place.Box{W: 2, H: 2, Mapped: true})
 	bad.Canvas, _ = bad.Canvas.Open(1<<20+1, 2, 2, 9, true)
-	want(t, "the screen", slices.Equal(Audit(bad), []int{4, 9}), true)
+	want(t, "the screen", slices.Equal(session.Audit(bad), []int{4, 9}), true)
 }
 
 // Example 8 of the whole: a window manager that dies leaves the windows that it framed on the root, where they were.
@@ -209,7 +211,7 @@ audit`)
 
 // An editor and a terminal, whose screens are their pictures; and a text that is copied and put in.
 func TestApplications(t *testing.T) {
-	s, _ := New(70, 40)
+	s, _ := session.New(70, 40)
 	do := func(line string) []string {
 		l, _, e := script.Parse("screen 1 1\n" + line)
 		if e != api.OK {
@@ -226,7 +228,11 @@ func TestApplications(t *testing.T) {
 	}
 	want(t, "calm", strings.HasPrefix(do("calm")[0], "calm"), true)
 	want(t, "typed", do("text 1")[0], "4869207468657265")
-	p := s.guests[1].editor.Picture()
+	e, _, _ := editor.New(1, 60, 36, "")
+	for _, c := range []byte("Hi there") {
+		e, _ = e.Step(api.Out{Kind: api.Event, Code: api.EvKeyPress, N: []int64{1<<20 + 1, 0, int64(c), 0, 0, 0, 0, 0, 0}})
+	}
+	p := e.Picture()
 	for x := range 60 {
 		for y := range 36 {
 			want(t, "the picture", s.Screen().At(x, y), p.At(x, y))

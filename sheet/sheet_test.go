@@ -1,4 +1,4 @@
-package sheet
+package sheet_test
 
 import (
 	"testing"
@@ -6,14 +6,15 @@ import (
 	"glazier/api"
 	"glazier/band"
 	"glazier/grid"
+	"glazier/sheet"
 )
 
 func TestSheet(t *testing.T) {
-	g, e := Make(5, 4, func(x, y int) api.Pixel { return api.Pixel(x*y*40 + x) })
+	g, e := sheet.Make(5, 4, func(x, y int) api.Pixel { return api.Pixel(x*y*40 + x) })
 	if e != api.OK {
 		t.Fatal(e)
 	}
-	h := Change(g, band.Of(api.Rect{X: -2, Y: 1, W: 5, H: 99}), func(x, y int, old api.Pixel) api.Pixel {
+	h := sheet.Change(g, band.Of(api.Rect{X: -2, Y: 1, W: 5, H: 99}), func(x, y int, old api.Pixel) api.Pixel {
 		if old != g.At(x, y) {
 			t.Error("old", x, y)
 		}
@@ -33,10 +34,10 @@ func TestSheet(t *testing.T) {
 			}
 		}
 	}
-	if _, e := Make(0, 4, nil); e != api.ErrSize {
+	if _, e := sheet.Make(0, 4, nil); e != api.ErrSize {
 		t.Error(e)
 	}
-	if z := Change(grid.Grid{}, band.Of(api.Rect{W: 9, H: 9}), nil); !grid.Same(z, grid.Grid{}) {
+	if z := sheet.Change(grid.Grid{}, band.Of(api.Rect{W: 9, H: 9}), nil); !grid.Same(z, grid.Grid{}) {
 		t.Error("zero grid")
 	}
 }

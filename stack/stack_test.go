@@ -1,4 +1,4 @@
-package stack
+package stack_test
 
 import (
 	"math/rand"
@@ -6,6 +6,7 @@ import (
 	"testing"
 
 	"glazier/api"
+	"glazier/stack"
 	"glazier/tree"
 )
 
@@ -36,11 +37,11 @@ func TestRestack(t *testing.T) {
 		mode        int
 		kids        []api.ID
 	}{
-		{a, 0, TopIf, []api.ID{b, c, a}}, {b, 0, TopIf, nil}, {a, 0, Opposite, []api.ID{b, c, a}}, {c, 0, Opposite, []api.ID{c, a, b}}, {a, 0, Above, []api.ID{b, c, a}}, {c, 0, Above, nil}, {a, b, Above, []api.ID{b, a, c}}, {c, a, Above, []api.ID{a, c, b}}, {b, a, Above, nil},
-		{c, 0, Below, []api.ID{c, a, b}}, {a, 0, Below, nil}, {c, b, Below, []api.ID{a, c, b}}, {a, c, Below, []api.ID{b, a, c}}, {a, b, Below, nil}, {a, c, TopIf, []api.ID{b, c, a}}, {a, b, TopIf, nil}, {c, a, TopIf, nil},
-		{c, 0, BottomIf, []api.ID{c, a, b}}, {c, a, BottomIf, []api.ID{c, a, b}}, {c, b, BottomIf, nil}, {a, 0, BottomIf, nil}, {b, 0, Opposite, nil}, {a, c, Opposite, []api.ID{b, c, a}}, {c, a, Opposite, []api.ID{c, a, b}}, {c, b, Opposite, nil}, {d, 0, Opposite, nil},
+		{a, 0, stack.TopIf, []api.ID{b, c, a}}, {b, 0, stack.TopIf, nil}, {a, 0, stack.Opposite, []api.ID{b, c, a}}, {c, 0, stack.Opposite, []api.ID{c, a, b}}, {a, 0, stack.Above, []api.ID{b, c, a}}, {c, 0, stack.Above, nil}, {a, b, stack.Above, []api.ID{b, a, c}}, {c, a, stack.Above, []api.ID{a, c, b}}, {b, a, stack.Above, nil},
+		{c, 0, stack.Below, []api.ID{c, a, b}}, {a, 0, stack.Below, nil}, {c, b, stack.Below, []api.ID{a, c, b}}, {a, c, stack.Below, []api.ID{b, a, c}}, {a, b, stack.Below, nil}, {a, c, stack.TopIf, []api.ID{b, c, a}}, {a, b, stack.TopIf, nil}, {c, a, stack.TopIf, nil},
+		{c, 0, stack.BottomIf, []api.ID{c, a, b}}, {c, a, stack.BottomIf, []api.ID{c, a, b}}, {c, b, stack.BottomIf, nil}, {a, 0, stack.BottomIf, nil}, {b, 0, stack.Opposite, nil}, {a, c, stack.Opposite, []api.ID{b, c, a}}, {c, a, stack.Opposite, []api.ID{c, a, b}}, {c, b, stack.Opposite, nil}, {d, 0, stack.Opposite, nil},
 	} {
-		v, other, e := Restack(u, x.id, x.sibling, x.mode, at)
+		v, other, e := stack.Restack(u, x.id, x.sibling, x.mode, at)
 		kids := x.kids
 		if kids == nil {
 			kids = u.Kids(1)
@@ -52,7 +53,7 @@ func TestRestack(t *testing.T) {
 		mode        int
 		e           api.Errno
 	}{{1, 99, 9, api.ErrRoot}, {99, 98, 9, api.ErrNone}, {a, 99, 5, api.ErrKind}, {a, 99, -1, api.ErrKind}, {a, 99, 0, api.ErrMatch}, {a, a, 0, api.ErrMatch}, {a, d, 0, api.ErrMatch}, {d, a, 0, api.ErrMatch}} {
-		v, other, e := Restack(u, x.id, x.sibling, x.mode, at)
+		v, other, e := stack.Restack(u, x.id, x.sibling, x.mode, at)
 		want(t, "Restack", e == x.e && !other && slices.Equal(v.Below(1), u.Below(1)), true)
 	}
 }
@@ -64,32 +65,32 @@ func TestHides(t *testing.T) {
 		a, b api.ID
 		ok   bool
 	}{{c, a, true}, {a, c, false}, {c, b, false}, {c, c, false}, {d, a, false}, {c, d, false}, {99, a, false}, {1, a, false}} {
-		want(t, "Hides", Hides(u, x.a, x.b, at), x.ok)
+		want(t, "Hides", stack.Hides(u, x.a, x.b, at), x.ok)
 	}
-	want(t, "not there", Hides(u, c, a, map[api.ID]api.Rect{c: at[c]}) || Hides(u, c, a, map[api.ID]api.Rect{c: rc(0, 0, 0, 9), a: at[a]}) || Hides(u, c, a, nil), false)
+	want(t, "not there", stack.Hides(u, c, a, map[api.ID]api.Rect{c: at[c]}) || stack.Hides(u, c, a, map[api.ID]api.Rect{c: rc(0, 0, 0, 9), a: at[a]}) || stack.Hides(u, c, a, nil), false)
 }
 
 // P29.2
 func TestCirculateAndOrder(t *testing.T) {
 	u, at := example()
-	v, id, ok := Circulate(u, 1, true, at)
+	v, id, ok := stack.Circulate(u, 1, true, at)
 	want(t, "up", id == a && ok && slices.Equal(v.Kids(1), []api.ID{b, c, a}), true)
-	v, id, ok = Circulate(u, 1, false, at)
+	v, id, ok = stack.Circulate(u, 1, false, at)
 	want(t, "down", id == c && ok && slices.Equal(v.Kids(1), []api.ID{c, a, b}), true)
 	for _, parent := range []api.ID{b, d, 99} {
-		v, id, ok = Circulate(u, parent, true, at)
+		v, id, ok = stack.Circulate(u, parent, true, at)
 		want(t, "none", id == 0 && !ok && slices.Equal(v.Below(1), u.Below(1)), true)
 	}
 	at[b] = rc(0, 0, 9, 9)
-	_, id, _ = Circulate(u, 1, true, at)
-	_, down, _ := Circulate(u, 1, false, at)
+	_, id, _ = stack.Circulate(u, 1, true, at)
+	_, down, _ := stack.Circulate(u, 1, false, at)
 	want(t, "lowest, highest", id == a && down == c, true)
 	for _, x := range []struct {
 		a, b api.ID
 		n    int
 		ok   bool
 	}{{c, a, 1, true}, {a, c, -1, true}, {a, a, 0, true}, {1, 1, 0, true}, {a, d, 0, false}, {d, a, 0, false}, {1, a, 0, false}, {99, 99, 0, false}, {a, 99, 0, false}} {
-		n, ok := Order(u, x.a, x.b)
+		n, ok := stack.Order(u, x.a, x.b)
 		want(t, "Order", n == x.n && ok == x.ok, true)
 	}
 }
@@ -111,16 +112,16 @@ func TestFollows(t *testing.T) {
 		if s := kids[rnd.Intn(len(kids))]; rnd.Intn(2) == 0 && s != id {
 			sibling = s
 		}
-		v, other, _ := Restack(u, id, sibling, mode, at)
+		v, other, _ := stack.Restack(u, id, sibling, mode, at)
 		but := func(l []api.ID) []api.ID { return slices.DeleteFunc(l, func(k api.ID) bool { return k == id }) }
 		want(t, "the others", slices.Equal(but(u.Kids(1)), but(v.Kids(1))), true)
 		want(t, "another order", other, !slices.Equal(u.Kids(1), v.Kids(1)))
-		if mode == Above || mode == Below {
-			_, other, _ = Restack(v, id, sibling, mode, at)
+		if mode == stack.Above || mode == stack.Below {
+			_, other, _ = stack.Restack(v, id, sibling, mode, at)
 			want(t, "twice", other, false)
 		}
 		for _, k := range kids {
-			if sibling == 0 && (mode == TopIf && Hides(v, k, id, at) || mode == BottomIf && Hides(v, id, k, at)) {
+			if sibling == 0 && (mode == stack.TopIf && stack.Hides(v, k, id, at) || mode == stack.BottomIf && stack.Hides(v, id, k, at)) {
 				t.Error("hides still")
 			}
 		}

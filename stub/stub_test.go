@@ -1,4 +1,4 @@
-package stub
+package stub_test
 
 import (
 	"slices"
@@ -7,6 +7,7 @@ import (
 
 	"glazier/api"
 	"glazier/stream"
+	"glazier/stub"
 	"glazier/tell"
 )
 
@@ -17,7 +18,7 @@ func want[T comparable](t *testing.T, what string, got, wanted T) {
 	}
 }
 
-func waits(t *testing.T, s Stub, numbers ...int) {
+func waits(t *testing.T, s stub.Stub, numbers ...int) {
 	t.Helper()
 	if !slices.Equal(s.Waiting(), numbers) {
 		t.Errorf("Waiting: %v, wanted %v", s.Waiting(), numbers)
@@ -42,11 +43,11 @@ func reply(seq int) api.Out {
 
 // P8.1
 func TestAsk(t *testing.T) {
-	_, e := New(2, 9)
+	_, e := stub.New(2, 9)
 	want(t, "New", e, api.ErrOrder)
-	_, e = New(1, 9)
+	_, e = stub.New(1, 9)
 	want(t, "New", e, api.ErrRange)
-	s, e := New(1, 3)
+	s, e := stub.New(1, 3)
 	want(t, "New", e, api.OK)
 	a, e := s.Ask(geometry, noop)
 	want(t, "Ask", e, api.OK)
@@ -67,7 +68,7 @@ func TestAsk(t *testing.T) {
 	c, e := b.Ask(noop)
 	want(t, "full", e, api.ErrFull)
 	want(t, "Sent", c.Sent(), 4)
-	var zero Stub
+	var zero stub.Stub
 	_, e = zero.Ask()
 	want(t, "zero", e, api.ErrDead)
 	_, _, e = zero.Feed("")
@@ -78,7 +79,7 @@ func TestAsk(t *testing.T) {
 
 // P8.2
 func TestFeed(t *testing.T) {
-	s, _ := New(0, 1)
+	s, _ := stub.New(0, 1)
 	s, _ = s.Ask(geometry, noop, geometry)
 	waits(t, s, 1, 3)
 	for _, o := range []api.Out{reply(2), reply(3), {Kind: 2, Code: 12, Seq: 2, N: []int64{1}}, {Kind: 0, Code: 1, Seq: 0, N: []int64{0, 0}}, {Kind: 0, Code: 1, Seq: 4, N: []int64{0, 0}}, {Kind: 1, Code: 38, Seq: 1, N: []int64{0, 0}}} {
@@ -103,13 +104,13 @@ func TestFeed(t *testing.T) {
 	_, _, e = u.Feed("\x00\x01\x03\x00\x03\x00\x00\x00\x00\x00\x00\x00")
 	want(t, "too short", e, api.ErrShort)
 	for _, x := range [][3]int{{65535, 0, 65536}, {70000, 4464, 70000}, {-1, 0, -1}, {1 << 40, 0, 1 << 40}, {1<<40 + 1, 0, -1}, {0, 65536, -1}, {0, -1, -1}, {5, 4, 65540}} {
-		want(t, "Wide", Wide(x[0], x[1]), x[2])
+		want(t, "Wide", stub.Wide(x[0], x[1]), x[2])
 	}
 }
 
 // P8.2: numbers beyond the low bits.
 func TestFarNumbers(t *testing.T) {
-	s, _ := New(0, 1)
+	s, _ := stub.New(0, 1)
 	for range 70 {
 		s, _ = s.Ask(slices.Repeat([]api.Request{noop}, 1000)...)
 		s, _ = s.Take()
@@ -123,7 +124,7 @@ func TestFarNumbers(t *testing.T) {
 
 // P8.3
 func TestFresh(t *testing.T) {
-	s, _ := New(0, 2)
+	s, _ := stub.New(0, 2)
 	for i := api.ID(1); i < 1<<20; i++ {
 		var id api.ID
 		var e api.Errno
@@ -137,7 +138,7 @@ func TestFresh(t *testing.T) {
 
 // P8.4
 func TestParts(t *testing.T) {
-	s, _ := New(0, 1)
+	s, _ := stub.New(0, 1)
 	s, _ = s.Ask(geometry, geometry)
 	b := put(t, reply(1)) + put(t, api.Out{Kind: 2, Code: 12, Seq: 1, N: []int64{1}}) + put(t, reply(2))
 	for i := range b {

@@ -1,10 +1,11 @@
-package tell
+package tell_test
 
 import (
 	"strings"
 	"testing"
 
 	"glazier/api"
+	"glazier/tell"
 )
 
 func want[T comparable](t *testing.T, what string, got, wanted T) {
@@ -31,18 +32,18 @@ func TestPut(t *testing.T) {
 		{0, api.Out{Kind: 0, Code: 1, Seq: -1}, "", api.ErrValue}, {0, api.Out{Kind: 0, Code: 1, Seq: 1<<40 + 1, N: []int64{1, 1}}, "", api.ErrValue},
 		{0, api.Out{Kind: 0, Code: 1, N: []int64{1}}, "", api.ErrMatch}, {0, api.Out{Kind: 0, Code: 1, N: []int64{1, 256}}, "", api.ErrRange}, {0, api.Out{Kind: 2, Code: 12, N: []int64{5}, L: []int64{1}}, "", api.ErrMatch},
 	} {
-		s, e := Put(x.order, x.o)
+		s, e := tell.Put(x.order, x.o)
 		want(t, "Put", s, x.s)
 		want(t, "Put", e, x.e)
 		if x.order < 2 {
-			want(t, "Check", Check(x.o), x.e)
+			want(t, "Check", tell.Check(x.o), x.e)
 		}
 	}
-	want(t, "Check", Check(api.Out{Kind: 0, Code: 255, Seq: 1 << 40, N: []int64{1, 1}}), api.OK)
+	want(t, "Check", tell.Check(api.Out{Kind: 0, Code: 255, Seq: 1 << 40, N: []int64{1, 1}}), api.OK)
 	for _, o := range []api.Out{{Kind: 1, Code: 8, Seq: 65537, N: []int64{-2, 7}}, {Code: 9, Seq: 65537, N: []int64{-2, 7}}, {Code: 8, Seq: 1, N: []int64{-2, 7}}, {Code: 8, Seq: 65537, N: []int64{-2}}, {Code: 8, Seq: 65537, N: []int64{-2, 7}, B: "a"}, {Code: 8, Seq: 65537, N: []int64{-2, 7}, L: []int64{1}}} {
-		want(t, "Same", Same(fault, o), false)
+		want(t, "Same", tell.Same(fault, o), false)
 	}
-	want(t, "Same", Same(fault, api.Out{Code: 8, Seq: 65537, N: []int64{-2, 7}, L: []int64{}}), true)
+	want(t, "Same", tell.Same(fault, api.Out{Code: 8, Seq: 65537, N: []int64{-2, 7}, L: []int64{}}), true)
 }
 
 // P5.2
@@ -60,13 +61,13 @@ func TestLengthAndGet(t *testing.T) {
 		{0, "\x00\x01\x00\x00\x02\x40\x00\x00", 65544, api.OK, api.ErrShort}, {0, "\x00\x01\x00\x00\x02\x00\x00\x00", 8, api.OK, api.ErrShort},
 		{1, "\x00\x01\x00\x00\x00\x00\x00\x04\x00\x00\x00\x00\x00\x00\x01\x00", 16, api.OK, api.ErrForm}, {1, "\x00\x01\x00\x00\x00\x00\x00\x04\x00\x00\x00\x00\x00\x00\x00\x00more", 16, api.OK, api.OK},
 	} {
-		n, e := Length(x.order, x.s)
+		n, e := tell.Length(x.order, x.s)
 		want(t, "Length", n, x.n)
 		want(t, "Length", e, x.e)
-		o, n, e := Get(x.order, x.s)
+		o, n, e := tell.Get(x.order, x.s)
 		want(t, "Get", e, x.get)
 		want(t, "Get", n, map[bool]int{true: x.n}[e == api.OK])
-		want(t, "Get", e == api.OK || Same(o, api.Out{}), true)
+		want(t, "Get", e == api.OK || tell.Same(o, api.Out{}), true)
 	}
 }
 
@@ -80,18 +81,18 @@ func TestThereAndBack(t *testing.T) {
 		{Kind: 2, Code: 6, Seq: 65535, N: []int64{1, 2, -3, 4, -32768, 32767, 7, 8}},
 	}
 	for _, m := range l {
-		s, e := Put(1, m)
+		s, e := tell.Put(1, m)
 		want(t, "Put", e, api.OK)
 		all += s
 	}
 	for _, m := range l {
-		g, n, e := Get(1, all)
-		again, _ := Put(1, g)
+		g, n, e := tell.Get(1, all)
+		again, _ := tell.Put(1, g)
 		want(t, "again", again, all[:n])
 		all = all[n:]
 		m.Seq %= 65536
 		want(t, "Get", e, api.OK)
-		want(t, "Get", Same(g, m), true)
+		want(t, "Get", tell.Same(g, m), true)
 	}
 	want(t, "rest", all, "")
 }

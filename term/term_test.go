@@ -1,4 +1,4 @@
-package term
+package term_test
 
 import (
 	"math/rand"
@@ -12,6 +12,7 @@ import (
 	"glazier/pack"
 	"glazier/paint"
 	"glazier/pen"
+	"glazier/term"
 	"glazier/text"
 )
 
@@ -24,9 +25,9 @@ func want[T comparable](t *testing.T, what string, got, wanted T) {
 
 const window = int64(2<<20 + 1)
 
-func of(t *testing.T, columns, rows int) Term {
+func of(t *testing.T, columns, rows int) term.Term {
 	t.Helper()
-	x, l, e := New(2, columns, rows)
+	x, l, e := term.New(2, columns, rows)
 	want(t, "New", e == api.OK && len(l) == 6, true)
 	for _, r := range l {
 		want(t, "right", pack.Check(r), api.OK)
@@ -64,11 +65,11 @@ func TestNew(t *testing.T) {
 		client, columns, rows int
 		e                     api.Errno
 	}{{0, 0, 0, api.ErrRange}, {9, 1, 1, api.ErrRange}, {1, 0, 1, api.ErrSize}, {1, 33, 1, api.ErrSize}, {1, 1, 0, api.ErrSize}, {1, 1, 22, api.ErrSize}, {8, 32, 21, api.OK}} {
-		y, l, e := New(x.client, x.columns, x.rows)
+		y, l, e := term.New(x.client, x.columns, x.rows)
 		w, _ := y.Cells().Size()
 		want(t, "New", e == x.e && (len(l) == 6) == (e == api.OK) && (w == x.columns) == (e == api.OK || x.columns == 0), true)
 	}
-	_, l, _ := New(2, 3, 2)
+	_, l, _ := term.New(2, 3, 2)
 	for i, n := range [][]int64{{window + 2}, {window + 1}, {window + 1, 28, 0, 0, 1, 0, window + 2}, {window, 1, 0, 0, 12, 12, 0, 0, 0}, {window, 32, 0, 0, 0, 0, 0, 257}, {window}} {
 		r := api.Request{Code: []int{23, 19, 20, 1, 7, 3}[i], N: n}
 		if i == 0 {
@@ -76,7 +77,7 @@ func TestNew(t *testing.T) {
 		}
 		want(t, "request", pack.Same(l[i], r), true)
 	}
-	z := Term{}
+	z := term.Term{}
 	u, l := z.Write("abc")
 	v, m := z.Step(event(api.EvKeyPress, 0, 0, 65, 0, 0, 0, 0, 0, 0))
 	_, s := v.Typed()

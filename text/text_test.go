@@ -1,4 +1,4 @@
-package text
+package text_test
 
 import (
 	"math"
@@ -12,6 +12,7 @@ import (
 	"glazier/pen"
 	"glazier/region"
 	"glazier/rop"
+	"glazier/text"
 )
 
 func rc(x, y, w, h int) api.Rect { return api.Rect{X: x, Y: y, W: w, H: h} }
@@ -32,16 +33,16 @@ func tiny() font.Font {
 
 // P27.1
 func TestRegionAndBox(t *testing.T) {
-	r := Region(tiny(), 0, 5, "A")
+	r := text.Region(tiny(), 0, 5, "A")
 	want(t, "A", band.Same(r, band.Of(rc(0, 0, 2, 1), rc(0, 1, 1, 1), rc(2, 1, 1, 1), rc(0, 2, 3, 1), rc(0, 3, 1, 1), rc(0, 4, 2, 1))), true)
-	want(t, "Box", Box(tiny(), 0, 5, "A"), rc(0, 0, 4, 6))
+	want(t, "Box", text.Box(tiny(), 0, 5, "A"), rc(0, 0, 4, 6))
 	for _, n := range []int{m + 1, -m - 1, math.MaxInt, math.MinInt} {
-		want(t, "wrong", Region(tiny(), n, 0, "A").Empty() && Region(tiny(), 0, n, "A").Empty() && Box(tiny(), n, 0, "A") == api.Rect{} && Box(tiny(), 0, n, "A") == api.Rect{}, true)
+		want(t, "wrong", text.Region(tiny(), n, 0, "A").Empty() && text.Region(tiny(), 0, n, "A").Empty() && text.Box(tiny(), n, 0, "A") == api.Rect{} && text.Box(tiny(), 0, n, "A") == api.Rect{}, true)
 	}
-	want(t, "Box", Box(tiny(), m-3, 5, "A") == api.Rect{} && Box(tiny(), m-4, 5, "A") == rc(m-4, 0, 4, 6) && Box(tiny(), 0, 5, "") == api.Rect{} && Box(font.Font{}, 0, 5, "A") == api.Rect{} && Box(tiny(), 0, -m, "A") == api.Rect{}, true)
-	want(t, "at the edge", Region(tiny(), m-1, 5, "A").Box(), rc(m-1, 0, 1, 5))
+	want(t, "Box", text.Box(tiny(), m-3, 5, "A") == api.Rect{} && text.Box(tiny(), m-4, 5, "A") == rc(m-4, 0, 4, 6) && text.Box(tiny(), 0, 5, "") == api.Rect{} && text.Box(font.Font{}, 0, 5, "A") == api.Rect{} && text.Box(tiny(), 0, -m, "A") == api.Rect{}, true)
+	want(t, "at the edge", text.Region(tiny(), m-1, 5, "A").Box(), rc(m-1, 0, 1, 5))
 	long := strings.Repeat("A", 5000)
-	want(t, "long", Box(tiny(), 0, 5, long).W == 4*4096 && Region(tiny(), 0, 5, long).Area() == 4096*10 && At(tiny(), long, 1<<40) == 4096 && Fit(tiny(), long, 1<<40) == 4096, true)
+	want(t, "long", text.Box(tiny(), 0, 5, long).W == 4*4096 && text.Region(tiny(), 0, 5, long).Area() == 4096*10 && text.At(tiny(), long, 1<<40) == 4096 && text.Fit(tiny(), long, 1<<40) == 4096, true)
 }
 
 // P27.2
@@ -50,8 +51,8 @@ func TestDraw(t *testing.T) {
 	p := pen.Pen{Func: rop.Xor, Planes: 7, Fore: 1, Back: 2, Clipped: true}
 	clip := band.Of(rc(0, 0, 6, 9))
 	for _, opaque := range []bool{false, true} {
-		h := Draw(g, clip, tiny(), 1, 6, "AB", opaque, p)
-		ink, box := Region(tiny(), 1, 6, "AB"), band.Of(Box(tiny(), 1, 6, "AB"))
+		h := text.Draw(g, clip, tiny(), 1, 6, "AB", opaque, p)
+		ink, box := text.Region(tiny(), 1, 6, "AB"), band.Of(text.Box(tiny(), 1, 6, "AB"))
 		for x := range 9 {
 			for y := range 7 {
 				v := api.Pixel(4)
@@ -66,18 +67,18 @@ func TestDraw(t *testing.T) {
 			}
 		}
 	}
-	want(t, "wrong", grid.Same(Draw(g, clip, tiny(), m+1, 0, "A", true, p), g) && grid.Same(Draw(g, clip, font.Font{}, 1, 1, "A", true, p), g), true)
+	want(t, "wrong", grid.Same(text.Draw(g, clip, tiny(), m+1, 0, "A", true, p), g) && grid.Same(text.Draw(g, clip, font.Font{}, 1, 1, "A", true, p), g), true)
 }
 
 // P27.3
 func TestAtAndFit(t *testing.T) {
 	f, _ := font.Builtin("wide") // A is 6, B 7, C 8 wide
 	for _, x := range [][3]int{{-1, 0, 0}, {0, 0, 0}, {5, 0, 0}, {6, 1, 1}, {12, 1, 1}, {13, 2, 2}, {20, 2, 2}, {21, 3, 3}, {math.MaxInt, 3, 3}, {math.MinInt, 0, 0}} {
-		want(t, "At", At(f, "ABC", x[0]), x[1])
-		want(t, "Fit", Fit(f, "ABC", x[0]), x[2])
+		want(t, "At", text.At(f, "ABC", x[0]), x[1])
+		want(t, "Fit", text.Fit(f, "ABC", x[0]), x[2])
 	}
-	want(t, "examples", At(tiny(), "AB", 5)*10+Fit(tiny(), "AB", 7), 11)
-	want(t, "none", At(f, "", 5)+Fit(f, "", 5)+Fit(f, "A", 5), 0)
+	want(t, "examples", text.At(tiny(), "AB", 5)*10+text.Fit(tiny(), "AB", 7), 11)
+	want(t, "none", text.At(f, "", 5)+text.Fit(f, "", 5)+text.Fit(f, "A", 5), 0)
 }
 
 // P27.4
@@ -85,9 +86,9 @@ func TestFollows(t *testing.T) {
 	for i := range 9 {
 		s := "Glazier!\x00"
 		a, b := s[:i], s[i:]
-		whole := Region(tiny(), 3, 4, s)
-		want(t, "parts", band.Same(whole, region.Union(Region(tiny(), 3, 4, a), Region(tiny(), 3+tiny().Width(a), 4, b))), true)
-		want(t, "in the box", region.Inside(whole, band.Of(Box(tiny(), 3, 4, s))), true)
-		want(t, "moved", band.Same(Region(tiny(), 3+i, 4-i, s), region.Shift(whole, i, -i)), true)
+		whole := text.Region(tiny(), 3, 4, s)
+		want(t, "parts", band.Same(whole, region.Union(text.Region(tiny(), 3, 4, a), text.Region(tiny(), 3+tiny().Width(a), 4, b))), true)
+		want(t, "in the box", region.Inside(whole, band.Of(text.Box(tiny(), 3, 4, s))), true)
+		want(t, "moved", band.Same(text.Region(tiny(), 3+i, 4-i, s), region.Shift(whole, i, -i)), true)
 	}
 }

@@ -1,4 +1,4 @@
-package tree
+package tree_test
 
 import (
 	"math/rand"
@@ -7,6 +7,7 @@ import (
 
 	"glazier/api"
 	"glazier/ident"
+	"glazier/tree"
 )
 
 func want[T comparable](t *testing.T, what string, got, wanted T) {
@@ -25,9 +26,9 @@ func list(t *testing.T, what string, got []api.ID, wanted ...api.ID) {
 
 const a, b, c, d = api.ID(1<<20 + 1), api.ID(1<<20 + 2), api.ID(1<<20 + 3), api.ID(1<<20 + 4)
 
-func example(t *testing.T) Tree {
+func example(t *testing.T) tree.Tree {
 	t.Helper()
-	u := New()
+	u := tree.New()
 	for _, x := range [][2]api.ID{{a, 1}, {b, 1}, {c, 1}, {d, b}} {
 		var e api.Errno
 		if u, e = u.Add(x[0], x[1]); e != api.OK {
@@ -90,7 +91,7 @@ func TestChanges(t *testing.T) {
 
 // P28.1: how many there may be.
 func TestMany(t *testing.T) {
-	u := New()
+	u := tree.New()
 	for i := api.ID(1); i < 64; i++ {
 		var e api.Errno
 		parent := 3<<20 + i - 1
@@ -120,14 +121,14 @@ func TestLooks(t *testing.T) {
 		p, ok = u.Parent(id)
 		want(t, "Parent", p == 0 && !ok, true)
 	}
-	want(t, "Has", u.Has(1) && u.Has(d) && !u.Has(0) && !u.Has(99) && Tree{}.Has(ident.Root), true)
+	want(t, "Has", u.Has(1) && u.Has(d) && !u.Has(0) && !u.Has(99) && tree.Tree{}.Has(ident.Root), true)
 	for _, x := range [][3]api.ID{{d, c, 1}, {d, b, b}, {b, d, b}, {d, d, d}, {1, d, 1}, {99, 1, 0}, {1, 99, 0}, {0, 0, 0}} {
 		m, ok := u.Meet(x[0], x[1])
 		want(t, "Meet", m == x[2] && ok == (x[2] != 0), true)
 	}
 	u.Kids(1)[0] = 99
 	list(t, "new memory", u.Kids(1), a, b, c)
-	list(t, "zero", Tree{}.Below(1), 1)
+	list(t, "zero", tree.Tree{}.Below(1), 1)
 }
 
 // P28.3

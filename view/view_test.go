@@ -1,4 +1,4 @@
-package view
+package view_test
 
 import (
 	"math/rand"
@@ -10,6 +10,7 @@ import (
 	"glazier/place"
 	"glazier/region"
 	"glazier/tree"
+	"glazier/view"
 )
 
 func rc(x, y, w, h int) api.Rect { return api.Rect{X: x, Y: y, W: w, H: h} }
@@ -39,7 +40,7 @@ func example() (tree.Tree, place.Place) {
 // P31.1, P31.2
 func TestExample(t *testing.T) {
 	u, p := example()
-	v := Of(u, p)
+	v := view.Of(u, p)
 	for id, n := range map[api.ID]int{1: 28, a: 6, b: 12, c: 2, 99: 0} {
 		want(t, "Visible", v.Visible(id).Area(), n)
 		want(t, "Clip", v.Clip(id).Area(), n)
@@ -58,13 +59,13 @@ func TestExample(t *testing.T) {
 	x, _ := p.Box(a)
 	x.Mapped = false
 	p, _ = p.Set(a, x)
-	w := Of(u, p)
+	w := view.Of(u, p)
 	o, ok = w.Origin(c)
 	want(t, "unmapped", !w.Viewable(a) && !w.Viewable(c) && w.Viewable(b) && !ok && o == api.Point{} && w.Visible(c).Empty() && w.Clip(a).Empty(), true)
-	want(t, "no box", Of(u, p.Drop(b)).Viewable(b), false)
-	z := View{}
+	want(t, "no box", view.Of(u, p.Drop(b)).Viewable(b), false)
+	z := view.View{}
 	_, ok = z.At(0, 0)
-	want(t, "zero", ok || z.Viewable(1) || len(z.Windows()) > 0 || Of(u, place.Place{}).Viewable(1), false)
+	want(t, "zero", ok || z.Viewable(1) || len(z.Windows()) > 0 || view.Of(u, place.Place{}).Viewable(1), false)
 }
 
 // by looks up the window at a place of the root by the words.
@@ -105,7 +106,7 @@ func TestPlaces(t *testing.T) {
 			}
 			p, _ = p.Set(1<<20+i, x)
 		}
-		v := Of(u, p)
+		v := view.Of(u, p)
 		for x := -1; x < 13; x++ {
 			for y := -1; y < 11; y++ {
 				id, _ := v.At(x, y)
@@ -123,7 +124,7 @@ func TestPlaces(t *testing.T) {
 		raised := 1<<20 + 1 + api.ID(rnd.Intn(8))
 		parent, _ := u.Parent(raised)
 		r, _ := u.Move(raised, parent)
-		after := Of(r, p)
+		after := view.Of(r, p)
 		for _, w := range u.Below(1) {
 			if slices.Contains(u.Below(raised), w) {
 				want(t, "no less", region.Inside(v.Clip(w), after.Clip(w)), true)

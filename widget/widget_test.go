@@ -1,4 +1,4 @@
-package widget
+package widget_test
 
 import (
 	"math/rand"
@@ -8,6 +8,7 @@ import (
 	"glazier/api"
 	"glazier/font"
 	"glazier/pack"
+	"glazier/widget"
 )
 
 func rc(x, y, w, h int) api.Rect { return api.Rect{X: x, Y: y, W: w, H: h} }
@@ -25,11 +26,11 @@ func tiny() font.Font {
 }
 
 var wrong = []struct {
-	w Widget
+	w widget.Widget
 	e api.Errno
 }{
-	{Widget{Kind: 4, Text: strings.Repeat("\x00", 256)}, api.ErrKind}, {Widget{Kind: -1}, api.ErrKind}, {Widget{Text: strings.Repeat("\x00", 256)}, api.ErrLong}, {Widget{Text: "a\x7f", On: true}, api.ErrForm}, {Widget{Kind: Bar, Text: "a", On: true}, api.ErrForm},
-	{Widget{On: true, Value: 5}, api.ErrState}, {Widget{Kind: Bar, On: true, Value: 101}, api.ErrState}, {Widget{Value: 1, Cursor: 1}, api.ErrRange}, {Widget{Kind: Bar, Value: 101}, api.ErrRange}, {Widget{Kind: Bar, Value: -1}, api.ErrRange}, {Widget{Kind: Button, Cursor: 1, Text: "ab"}, api.ErrRange}, {Widget{Kind: Field, Cursor: 3, Text: "ab"}, api.ErrRange}, {Widget{Kind: Field, Cursor: -1}, api.ErrRange},
+	{widget.Widget{Kind: 4, Text: strings.Repeat("\x00", 256)}, api.ErrKind}, {widget.Widget{Kind: -1}, api.ErrKind}, {widget.Widget{Text: strings.Repeat("\x00", 256)}, api.ErrLong}, {widget.Widget{Text: "a\x7f", On: true}, api.ErrForm}, {widget.Widget{Kind: widget.Bar, Text: "a", On: true}, api.ErrForm},
+	{widget.Widget{On: true, Value: 5}, api.ErrState}, {widget.Widget{Kind: widget.Bar, On: true, Value: 101}, api.ErrState}, {widget.Widget{Value: 1, Cursor: 1}, api.ErrRange}, {widget.Widget{Kind: widget.Bar, Value: 101}, api.ErrRange}, {widget.Widget{Kind: widget.Bar, Value: -1}, api.ErrRange}, {widget.Widget{Kind: widget.Button, Cursor: 1, Text: "ab"}, api.ErrRange}, {widget.Widget{Kind: widget.Field, Cursor: 3, Text: "ab"}, api.ErrRange}, {widget.Widget{Kind: widget.Field, Cursor: -1}, api.ErrRange},
 }
 
 // P53.1
@@ -42,11 +43,11 @@ func TestCheckAndLeast(t *testing.T) {
 		want(t, "not right", w != 0 || h != 0 || took || clicked || len(x.w.Draw(5, 6, tiny(), rc(0, 0, 9, 9))) > 0, false)
 	}
 	for _, x := range []struct {
-		w    Widget
+		w    widget.Widget
 		f    font.Font
 		a, b int
 	}{
-		{Widget{Kind: Button, Text: "A"}, tiny(), 10, 10}, {Widget{Kind: Label, Text: "AB"}, tiny(), 8, 6}, {Widget{Kind: Field, Text: strings.Repeat("~", 255), Cursor: 255}, tiny(), 1025, 10}, {Widget{Kind: Bar, Value: 100}, tiny(), 24, 6}, {Widget{}, tiny(), 1, 6}, {Widget{}, font.Font{}, 1, 1}, {Widget{Kind: Button, On: true}, font.Font{}, 6, 4},
+		{widget.Widget{Kind: widget.Button, Text: "A"}, tiny(), 10, 10}, {widget.Widget{Kind: widget.Label, Text: "AB"}, tiny(), 8, 6}, {widget.Widget{Kind: widget.Field, Text: strings.Repeat("~", 255), Cursor: 255}, tiny(), 1025, 10}, {widget.Widget{Kind: widget.Bar, Value: 100}, tiny(), 24, 6}, {widget.Widget{}, tiny(), 1, 6}, {widget.Widget{}, font.Font{}, 1, 1}, {widget.Widget{Kind: widget.Button, On: true}, font.Font{}, 6, 4},
 	} {
 		want(t, "Check", x.w.Check(), api.OK)
 		w, h := x.w.Least(x.f)
@@ -93,11 +94,11 @@ func TestDraw(t *testing.T) {
 	frame := "29 5 6 : 3 4 14 4 14 13 3 13 3 4\n"
 	end := "21 6 0 0 0"
 	for _, x := range []struct {
-		w Widget
+		w widget.Widget
 		s string
 	}{
-		{Widget{Text: "Ab"}, begin + "36 5 6 3 9 0 Ab\n" + end}, {Widget{}, begin + end}, {Widget{Kind: Button, Text: "A"}, begin + frame + "36 5 6 6 11 0 A\n" + end}, {Widget{Kind: Button, On: true}, begin + frame + "20 6 5 6 0 255 0 0\n30 5 6 : 3 4 12 10\n" + end},
-		{Widget{Kind: Field, Text: "ab", Cursor: 1}, begin + frame + "36 5 6 5 11 0 ab\n30 5 6 : 9 6 1 6\n" + end}, {Widget{Kind: Bar, Value: 55}, begin + frame + "30 5 6 : 4 5 5 8\n" + end}, {Widget{Kind: Bar, Value: 9}, begin + frame + end},
+		{widget.Widget{Text: "Ab"}, begin + "36 5 6 3 9 0 Ab\n" + end}, {widget.Widget{}, begin + end}, {widget.Widget{Kind: widget.Button, Text: "A"}, begin + frame + "36 5 6 6 11 0 A\n" + end}, {widget.Widget{Kind: widget.Button, On: true}, begin + frame + "20 6 5 6 0 255 0 0\n30 5 6 : 3 4 12 10\n" + end},
+		{widget.Widget{Kind: widget.Field, Text: "ab", Cursor: 1}, begin + frame + "36 5 6 5 11 0 ab\n30 5 6 : 9 6 1 6\n" + end}, {widget.Widget{Kind: widget.Bar, Value: 55}, begin + frame + "30 5 6 : 4 5 5 8\n" + end}, {widget.Widget{Kind: widget.Bar, Value: 9}, begin + frame + end},
 	} {
 		l := x.w.Draw(5, 6, tiny(), rc(3, 4, 12, 10))
 		want(t, "Draw", texts(l), x.s)
@@ -106,9 +107,9 @@ func TestDraw(t *testing.T) {
 		}
 	}
 	for _, r := range []api.Rect{rc(0, 0, 0, 5), rc(0, 0, 5, 0), rc(0, 0, 129, 5), rc(0, 0, 5, 129), rc(4097, 0, 5, 5), rc(0, -4097, 5, 5)} {
-		want(t, "none", len(Widget{}.Draw(5, 6, tiny(), r)), 0)
+		want(t, "none", len(widget.Widget{}.Draw(5, 6, tiny(), r)), 0)
 	}
-	for _, w := range []Widget{{Kind: Field, Text: strings.Repeat("a", 255), Cursor: 255}, {Kind: Bar, Value: 100}} {
+	for _, w := range []widget.Widget{{Kind: widget.Field, Text: strings.Repeat("a", 255), Cursor: 255}, {Kind: widget.Bar, Value: 100}} {
 		for _, r := range w.Draw(1<<32-1, 1<<32-1, tiny(), rc(4096, -4096, 1, 1)) {
 			want(t, "right", pack.Check(r), api.OK)
 		}
@@ -118,23 +119,23 @@ func TestDraw(t *testing.T) {
 // P53.2
 func TestClick(t *testing.T) {
 	r := rc(10, 10, 21, 5)
-	b, ok := Widget{Kind: Button}.Click(r, 10, 10)
+	b, ok := widget.Widget{Kind: widget.Button}.Click(r, 10, 10)
 	want(t, "on", b.On && ok, true)
 	b, _ = b.Click(r, 30, 14)
 	want(t, "off", b.On, false)
-	f, ok := Widget{Kind: Field, Text: "abc"}.Click(r, 12, 12)
+	f, ok := widget.Widget{Kind: widget.Field, Text: "abc"}.Click(r, 12, 12)
 	want(t, "Field", f.Cursor == 3 && ok, true)
 	for x, v := range map[int]int{10: 0, 30: 100, 20: 50, 11: 5} {
-		w, ok := Widget{Kind: Bar, Value: 77}.Click(r, x, 12)
+		w, ok := widget.Widget{Kind: widget.Bar, Value: 77}.Click(r, x, 12)
 		want(t, "Bar", w.Value == v && ok, true)
 	}
-	w, _ := Widget{Kind: Bar, Value: 7}.Click(rc(5, 5, 1, 1), 5, 5)
+	w, _ := widget.Widget{Kind: widget.Bar, Value: 7}.Click(rc(5, 5, 1, 1), 5, 5)
 	want(t, "narrow", w.Value, 0)
 	for _, x := range [][2]int{{9, 10}, {31, 10}, {10, 9}, {10, 15}} {
-		w, ok := Widget{Kind: Button}.Click(r, x[0], x[1])
+		w, ok := widget.Widget{Kind: widget.Button}.Click(r, x[0], x[1])
 		want(t, "outside", ok || w.On, false)
 	}
-	_, ok = Widget{Text: "a"}.Click(r, 10, 10)
+	_, ok = widget.Widget{Text: "a"}.Click(r, 10, 10)
 	want(t, "Label", ok, false)
 }
 
@@ -144,14 +145,14 @@ func TestLetter(t *testing.T) {
 		code, mods int
 		b          byte
 	}{{65, 0, 'A'}, {97, 0, 'a'}, {97, 1, 'A'}, {122, 1, 'Z'}, {65, 1, 'A'}, {49, 1, '1'}, {32, 0, ' '}, {126, 1, '~'}, {31, 0, 0}, {127, 0, 0}, {97, 2, 0}, {97, -1, 0}, {97, 4, 0}} {
-		b, ok := Letter(x.code, x.mods)
+		b, ok := widget.Letter(x.code, x.mods)
 		want(t, "Letter", b == x.b && ok == (x.b != 0), true)
 	}
 }
 
 // P53.3
 func TestKey(t *testing.T) {
-	w := Widget{Kind: Field, Text: "ab", Cursor: 1}
+	w := widget.Widget{Kind: widget.Field, Text: "ab", Cursor: 1}
 	for _, x := range []struct {
 		code, mods int
 		text       string
@@ -164,23 +165,23 @@ func TestKey(t *testing.T) {
 		want(t, "Field", u.Text == x.text && u.Cursor == x.cursor && ok == x.took, true)
 	}
 	for _, code := range []int{8, 127, 130, 131} {
-		u, ok := Widget{Kind: Field}.Key(code, 0)
-		want(t, "nothing to be done", ok && u == Widget{Kind: Field}, true)
+		u, ok := widget.Widget{Kind: widget.Field}.Key(code, 0)
+		want(t, "nothing to be done", ok && u == widget.Widget{Kind: widget.Field}, true)
 	}
-	full := Widget{Kind: Field, Text: strings.Repeat("a", 255), Cursor: 4}
+	full := widget.Widget{Kind: widget.Field, Text: strings.Repeat("a", 255), Cursor: 4}
 	u, ok := full.Key(97, 0)
 	want(t, "full", ok || u != full, false)
 	for _, code := range []int{13, 32} {
-		u, ok := Widget{Kind: Button}.Key(code, 0)
-		_, mods := Widget{Kind: Button}.Key(code, 1)
+		u, ok := widget.Widget{Kind: widget.Button}.Key(code, 0)
+		_, mods := widget.Widget{Kind: widget.Button}.Key(code, 1)
 		want(t, "Button", u.On && ok && !mods, true)
 	}
 	for v, x := range map[int][2]int{0: {0, 10}, 5: {0, 15}, 95: {85, 100}, 100: {90, 100}} {
-		l, ok := Widget{Kind: Bar, Value: v}.Key(130, 0)
-		r, ok2 := Widget{Kind: Bar, Value: v}.Key(131, 0)
+		l, ok := widget.Widget{Kind: widget.Bar, Value: v}.Key(130, 0)
+		r, ok2 := widget.Widget{Kind: widget.Bar, Value: v}.Key(131, 0)
 		want(t, "Bar", ok && ok2 && l.Value == x[0] && r.Value == x[1], true)
 	}
-	_, ok = Widget{}.Key(97, 0)
+	_, ok = widget.Widget{}.Key(97, 0)
 	want(t, "Label", ok, false)
 }
 
@@ -188,14 +189,14 @@ func TestKey(t *testing.T) {
 func TestFollows(t *testing.T) {
 	rnd := rand.New(rand.NewSource(1))
 	for kind := range 4 {
-		w := Widget{Kind: kind}
+		w := widget.Widget{Kind: kind}
 		for range 500 {
 			w, _ = w.Key([]int{8, 13, 32, 97, 127, 130, 131, 132, 133}[rnd.Intn(9)], rnd.Intn(2))
 			w, _ = w.Click(rc(0, 0, 9, 9), rnd.Intn(9), rnd.Intn(900))
 			want(t, "right", w.Check(), api.OK)
 		}
 	}
-	w := Widget{Kind: Field, Text: "ab", Cursor: 2}
+	w := widget.Widget{Kind: widget.Field, Text: "ab", Cursor: 2}
 	for _, c := range "Hello there" {
 		w, _ = w.Key(int(c), 0)
 	}
@@ -203,5 +204,5 @@ func TestFollows(t *testing.T) {
 	for range "Hello there" {
 		w, _ = w.Key(8, 0)
 	}
-	want(t, "erased", w, Widget{Kind: Field, Text: "ab", Cursor: 2})
+	want(t, "erased", w, widget.Widget{Kind: widget.Field, Text: "ab", Cursor: 2})
 }

@@ -1,7 +1,8 @@
-package world
+package world_test
 
 import (
 	"slices"
+	"strconv"
 	"strings"
 	"testing"
 
@@ -18,6 +19,7 @@ import (
 	"glazier/place"
 	"glazier/prop"
 	"glazier/screen"
+	"glazier/world"
 )
 
 func want[T comparable](t *testing.T, what string, got, wanted T) {
@@ -29,15 +31,15 @@ func want[T comparable](t *testing.T, what string, got, wanted T) {
 
 const a, p, q, f = api.ID(1<<20 + 1), api.ID(1<<20 + 2), api.ID(1<<20 + 3), api.ID(1<<20 + 4)
 
-func fresh(t *testing.T) World {
+func fresh(t *testing.T) world.World {
 	t.Helper()
-	w, e := New(4, 3, 7)
+	w, e := world.New(4, 3, 7)
 	want(t, "New", e, api.OK)
 	return w
 }
 
 // full is a world with a window, a pixmap, a pen and a font of the client 1.
-func full(t *testing.T) World {
+func full(t *testing.T) world.World {
 	t.Helper()
 	w := fresh(t)
 	was := w.In.View
@@ -59,7 +61,7 @@ func full(t *testing.T) World {
 // P45.1, P45.6
 func TestNew(t *testing.T) {
 	for _, s := range [][2]int{{0, 1}, {1, 0}, {129, 1}, {1, 129}} {
-		w, e := New(s[0], s[1], 5)
+		w, e := world.New(s[0], s[1], 5)
 		want(t, "New", e == api.ErrSize && w.W == 0 && w.Props == nil && grid.Same(w.Show(), grid.Grid{}), true)
 	}
 	w := fresh(t)
@@ -99,7 +101,7 @@ func TestSettle(t *testing.T) {
 	}
 	v.Clients[7] = true
 	want(t, "maps of its own", u.Clients[7], false)
-	z, _ := World{}.Settle(was, nil)
+	z, _ := world.World{}.Settle(was, nil)
 	want(t, "zero", z.Props != nil, true)
 }
 
@@ -116,10 +118,10 @@ func TestMessages(t *testing.T) {
 	want(t, "Tell", l[1].Out.N[0], 5)
 	want(t, "May", w.May(1, api.ReqDestroyWindow, a) && !w.May(2, api.ReqDestroyWindow, a) && !w.May(1, 99, a) && w.May(2, api.ReqCreateWindow, 1), true)
 	for v, told := range map[int64]int64{5: 5, -5: -5, 1<<31 - 1: 1<<31 - 1, 1 << 31: -1 << 31, 1<<32 - 1: -1} {
-		s := Fault(3, 8, 7, v)
+		s := world.Fault(3, 8, 7, v)
 		want(t, "Fault", s.Client == 3 && s.Out.Kind == api.Fault && s.Out.Code == 8 && s.Out.Seq == 0 && slices.Equal(s.Out.N, []int64{told, 7}), true)
 	}
-	s := Reply(3, 12, format.Fields{N: n, B: "b", L: []int64{4}})
+	s := world.Reply(3, 12, format.Fields{N: n, B: "b", L: []int64{4}})
 	n[0] = 9
 	want(t, "Reply", s.Client == 3 && s.Out.Kind == api.Answer && s.Out.Code == 12 && s.Out.N[0] == 6 && s.Out.B == "b" && s.Out.L[0] == 4, true)
 }
@@ -128,40 +130,40 @@ func TestMessages(t *testing.T) {
 func TestCheck(t *testing.T) {
 	none := []int(nil)
 	for i, x := range []struct {
-		spoil  func(w *World)
+		spoil  func(w *world.World)
 		broken []int
 	}{
-		{func(w *World) {}, none},
-		{func(w *World) { w.Held, _ = w.Held.Add(1, a+9, held.Window) }, []int{1}},
-		{func(w *World) { w.Held = w.Held.Drop(a) }, []int{1}},
-		{func(w *World) { w.Canvas = w.Canvas.Drop(a) }, []int{2}},
-		{func(w *World) { w.Canvas = w.Canvas.Drop(p) }, []int{2}},
-		{func(w *World) { w.Canvas, _ = w.Canvas.Drop(a).Open(a, 2, 1, 9, true) }, []int{2}},
-		{func(w *World) {
+		{func(w *world.World) {}, none},
+		{func(w *world.World) { w.Held, _ = w.Held.Add(1, a+9, held.Window) }, []int{1}},
+		{func(w *world.World) { w.Held = w.Held.Drop(a) }, []int{1}},
+		{func(w *world.World) { w.Canvas = w.Canvas.Drop(a) }, []int{2}},
+		{func(w *world.World) { w.Canvas = w.Canvas.Drop(p) }, []int{2}},
+		{func(w *world.World) { w.Canvas, _ = w.Canvas.Drop(a).Open(a, 2, 1, 9, true) }, []int{2}},
+		{func(w *world.World) {
 			w.Place, _ = w.Place.Set(a, place.Box{X: 1, Y: 1, W: 2, H: 2})
 			*w, _ = w.Settle(w.In.View, nil)
 			g, _ := grid.New(2, 2, 8)
 			w.Canvas, _ = w.Canvas.Lay(a, g)
 		}, []int{3}},
-		{func(w *World) { w.Place, _ = w.Place.Set(a, place.Box{X: 2, Y: 1, W: 2, H: 2, Mapped: true}) }, []int{4}},
-		{func(w *World) { w.Props[a+9] = prop.List{} }, []int{5}},
-		{func(w *World) { w.Over[a+9] = true }, []int{5}},
-		{func(w *World) { delete(w.Pens, q) }, []int{5}},
-		{func(w *World) { w.Pens[a+9] = pen.New() }, []int{5}},
-		{func(w *World) { delete(w.Fonts, f) }, []int{5}},
-		{func(w *World) { w.Fonts[q] = "tiny" }, []int{5}},
-		{func(w *World) { w.Over[a], w.Props[1] = true, prop.List{} }, none},
-		{func(w *World) { delete(w.Clients, 1) }, []int{6}},
-		{func(w *World) { w.In.Choice, _ = w.In.Choice.Set(2, a, 1) }, []int{6}},
-		{func(w *World) { w.In.Choice, _ = w.In.Choice.Set(2, 99, 1) }, none},
-		{func(w *World) { w.In.Passive, _ = w.In.Passive.Add(passive.Grab{Client: 2, Window: a}) }, []int{6}},
-		{func(w *World) { w.In.Keyboard = w.In.Keyboard.Begin(freeze.Active{Client: 2, Window: a}, false) }, []int{6}},
-		{func(w *World) { w.Claims, _, _ = w.Claims.Set(1024, claim.Claim{Client: 2, Window: a}, 5) }, []int{6}},
-		{func(w *World) { w.Closed = 2 }, []int{6}},
-		{func(w *World) { w.In.X = 4 }, []int{7}},
-		{func(w *World) { w.In.Under = 1 }, []int{7}},
-		{func(w *World) { w.In.Focus.Window = 99 }, []int{8}},
-		{func(w *World) { w.In.Focus.Window, w.In.Under, w.Closed = 99, 0, 5 }, []int{6, 7, 8}},
+		{func(w *world.World) { w.Place, _ = w.Place.Set(a, place.Box{X: 2, Y: 1, W: 2, H: 2, Mapped: true}) }, []int{4}},
+		{func(w *world.World) { w.Props[a+9] = prop.List{} }, []int{5}},
+		{func(w *world.World) { w.Over[a+9] = true }, []int{5}},
+		{func(w *world.World) { delete(w.Pens, q) }, []int{5}},
+		{func(w *world.World) { w.Pens[a+9] = pen.New() }, []int{5}},
+		{func(w *world.World) { delete(w.Fonts, f) }, []int{5}},
+		{func(w *world.World) { w.Fonts[q] = "tiny" }, []int{5}},
+		{func(w *world.World) { w.Over[a], w.Props[1] = true, prop.List{} }, none},
+		{func(w *world.World) { delete(w.Clients, 1) }, []int{6}},
+		{func(w *world.World) { w.In.Choice, _ = w.In.Choice.Set(2, a, 1) }, []int{6}},
+		{func(w *world.World) { w.In.Choice, _ = w.In.Choice.Set(2, 99, 1) }, none},
+		{func(w *world.World) { w.In.Passive, _ = w.In.Passive.Add(passive.Grab{Client: 2, Window: a}) }, []int{6}},
+		{func(w *world.World) { w.In.Keyboard = w.In.Keyboard.Begin(freeze.Active{Client: 2, Window: a}, false) }, []int{6}},
+		{func(w *world.World) { w.Claims, _, _ = w.Claims.Set(1024, claim.Claim{Client: 2, Window: a}, 5) }, []int{6}},
+		{func(w *world.World) { w.Closed = 2 }, []int{6}},
+		{func(w *world.World) { w.In.X = 4 }, []int{7}},
+		{func(w *world.World) { w.In.Under = 1 }, []int{7}},
+		{func(w *world.World) { w.In.Focus.Window = 99 }, []int{8}},
+		{func(w *world.World) { w.In.Focus.Window, w.In.Under, w.Closed = 99, 0, 5 }, []int{6, 7, 8}},
 	} {
 		w := full(t)
 		x.spoil(&w)
@@ -244,11 +246,11 @@ device 1 0 1
 	for range 12 {
 		mark = (mark*31 + 7) % 1000003
 	}
-	wanted = strings.Replace(wanted, "812665", word(mark), 1)
-	wanted = strings.Replace(wanted, "277056", word(((9*31+9)*31+9)*31+9), 1)
+	wanted = strings.Replace(wanted, "812665", strconv.Itoa(mark), 1)
+	wanted = strings.Replace(wanted, "277056", strconv.Itoa(((9*31+9)*31+9)*31+9), 1)
 	if got := w.Text(); got != id(wanted) {
 		t.Errorf("Text:\n%s\nwanted\n%s", got, id(wanted))
 	}
-	small, _ := New(4, 2, 7)
+	small, _ := world.New(4, 2, 7)
 	want(t, "example", strings.HasPrefix(small.Text(), "size 4 2 0\natom 1 primary\n"), true)
 }
