@@ -43,6 +43,8 @@ func TestIntern(t *testing.T) {
 		_, _, e = u.Intern(name, true)
 		want(t, "no name", e, api.ErrName)
 	}
+	_, a, e = u.Intern(" ", false)
+	want(t, "a blank", a == 12 && e == api.OK, true)
 	_, a, e = u.Intern(strings.Repeat("~", 255), false)
 	want(t, "longest", a == 12 && e == api.OK, true)
 }

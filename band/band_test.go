@@ -75,6 +75,12 @@ func TestPlaces(t *testing.T) {
 			}
 		}
 		want(t, "Area", a.Area(), area)
+		box := a.Box()
+		least := rc(99, 99, -99, -99)
+		for _, q := range a.Rects() {
+			least = rc(min(least.X, q.X), min(least.Y, q.Y), max(least.W, q.X+q.W), max(least.H, q.Y+q.H))
+		}
+		want(t, "Box", a.Empty() && box == r{} || box == rc(least.X, least.Y, least.W-least.X, least.H-least.Y), true)
 		want(t, "Canon", band.Canon(a.Rects()...), true)
 		turned := slices.Clone(l)
 		slices.Reverse(turned)

@@ -77,6 +77,11 @@ func TestChanges(t *testing.T) {
 	g, _ := grid.New(3, 1, 8)
 	d, e = c.Lay(x, g)
 	want(t, "Lay", e == api.OK && rows(d, x) == "\x08\x08\x08/" && rows(c, x) == "\x04\x04\x04/", true)
+	for _, size := range [][2]int{{3, 2}, {2, 1}} {
+		other, _ := grid.New(size[0], size[1], 8)
+		_, e = c.Lay(x, other)
+		want(t, "Lay", e, api.ErrSize)
+	}
 	_, e = c.Lay(a, g)
 	want(t, "Lay", e, api.ErrSize)
 	_, e = c.Lay(b, g)
@@ -123,6 +128,9 @@ func TestExample(t *testing.T) {
 		c, _ = c.Lay(a, five)
 		d, l := c.Change(free, hidden, p, nil)
 		want(t, "nothing new", len(l), 0)
+		_, gone := c.Change(free, hidden, p.Drop(a), nil)
+		still, _ := c.Change(free, hidden, p.Drop(a), map[api.ID]expose.Shift{a: {Forget: true}})
+		want(t, "no box", len(gone) == 0 && rows(still, a) == rows(c, a), true)
 		e, l := d.Change(hidden, free, p, nil)
 		if backing {
 			want(t, "with", rows(d, a)+rows(e, a), "\x05\x05/\x05\x05/\x05\x05/\x05\x05/")

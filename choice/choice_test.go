@@ -50,6 +50,8 @@ func TestSet(t *testing.T) {
 	r = set(t, r, 2, a, 3)
 	want(t, "Who", slices.Equal(r.Who(a, 1), []int{1, 2}) && slices.Equal(r.Who(a, 4), []int{1}) && len(r.Who(a, 8)) == 0 && slices.Equal(r.Who(a, 8192+2), []int{2}) && slices.Equal(r.Who(a, -1), []int{1, 2}), true)
 	want(t, "Mask", c.Mask(1, a) == 5 && c.Mask(2, a) == 0 && c.Mask(-1, a) == 0 && c.Mask(1, 99) == 0, true)
+	eight := set(t, r, 8, a, 64)
+	want(t, "Who", slices.Equal(eight.Who(a, 64), []int{8}), true)
 	r = r.Drop(1, b)
 	want(t, "Drop", r.Mask(1, a) == 0 && r.Mask(2, a) == 3 && r.Mask(2, b) == 0, true)
 }

@@ -71,7 +71,7 @@ func TestParse(t *testing.T) {
 		n int
 		e api.Errno
 	}{
-		{"", 0, api.ErrEmpty}, {strings.Repeat("\n", 65537), 0, api.ErrLong}, {"font 2 0", 1, api.ErrShort}, {"\n", 1, api.ErrForm}, {"fonts 2 0\n", 1, api.ErrForm}, {"font 2\n", 1, api.ErrForm}, {"font 2 0 0\n", 1, api.ErrForm},
+		{"", 0, api.ErrEmpty}, {strings.Repeat("\n", 65537), 0, api.ErrLong}, {strings.Repeat("\n", 65536), 1, api.ErrForm}, {"font 16 0\n", 2, api.ErrShort}, {"font 0 16\n", 2, api.ErrShort}, {"font 1 0\n", 2, api.ErrShort}, {"font 0 17\n", 1, api.ErrRange}, {"font 2 0", 1, api.ErrShort}, {"\n", 1, api.ErrForm}, {"fonts 2 0\n", 1, api.ErrForm}, {"font 2\n", 1, api.ErrForm}, {"font 2 0 0\n", 1, api.ErrForm},
 		{"font  2 0\n", 1, api.ErrForm}, {"font 2 0 \n", 1, api.ErrForm}, {"font 02 0\n", 1, api.ErrForm}, {"font +2 0\n", 1, api.ErrForm}, {"font 100000 0\n", 1, api.ErrForm}, {"font 99999 0\n", 1, api.ErrRange}, {"font 0 0\n", 1, api.ErrRange}, {"font 9 8\n", 1, api.ErrRange}, {"font 17 0\n", 1, api.ErrRange},
 		{"font 2 0\n", 2, api.ErrShort}, {good[:len(good)-1], 96, api.ErrShort}, {good + "x", 97, api.ErrLong}, {good + "\n", 97, api.ErrLong},
 		{text("font 2 0", map[int]string{3: "33 2"}), 3, api.ErrForm}, {text("font 2 0", map[int]string{3: "33 2 3 x"}), 3, api.ErrForm}, {text("font 2 0", map[int]string{3: "34 17 3"}), 3, api.ErrOrder}, {text("font 2 0", map[int]string{3: "33 17 3"}), 3, api.ErrRange},

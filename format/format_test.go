@@ -58,6 +58,8 @@ func TestRefused(t *testing.T) {
 		{0, format.Form{Fixed: make([]int, 17)}, format.Fields{}, api.ErrMany},
 		{0, format.Form{Fixed: []int{5}}, format.Fields{}, api.ErrKind},
 		{0, format.Form{Fixed: []int{1}}, format.Fields{B: "x"}, api.ErrMatch},
+		{0, format.Form{Fixed: []int{1, 1}}, format.Fields{N: []int64{1}}, api.ErrMatch},
+		{0, format.Form{Fixed: []int{1}}, format.Fields{N: []int64{1, 999}}, api.ErrMatch},
 		{0, format.Form{Fixed: []int{1}}, format.Fields{N: []int64{256}, B: "x"}, api.ErrRange},
 		{0, format.Form{}, format.Fields{B: "x"}, api.ErrMatch},
 		{0, format.Form{Bytes: true}, format.Fields{B: strings.Repeat("a", 65537), L: []int64{1}}, api.ErrLong},

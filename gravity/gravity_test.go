@@ -28,7 +28,7 @@ func TestShift(t *testing.T) {
 	}{
 		{gravity.NorthWest, rc(8, 10, 7, 4), 0, 0, rc(0, 0, 4, 4)}, {gravity.North, rc(8, 10, 7, 4), 1, 0, rc(1, 0, 4, 4)}, {gravity.East, rc(8, 10, 7, 4), 3, 0, rc(3, 0, 4, 4)}, {gravity.Static, rc(8, 10, 7, 4), 2, 0, rc(2, 0, 4, 4)},
 		{gravity.North, rc(10, 10, 1, 4), -2, 0, rc(0, 0, 1, 4)}, {gravity.Center, rc(0, 0, 9, 1), 2, -2, rc(2, 0, 4, 1)}, {gravity.SouthEast, rc(0, 0, 9, 1), 5, -3, rc(5, 0, 4, 1)}, {gravity.SouthWest, rc(0, 0, 9, 9), 0, 5, rc(0, 5, 4, 4)},
-		{gravity.South, rc(0, 0, 7, 9), 1, 5, rc(1, 5, 4, 4)}, {gravity.West, rc(0, 0, 7, 9), 0, 2, rc(0, 2, 4, 4)}, {gravity.NorthEast, rc(0, 0, 7, 9), 3, 0, rc(3, 0, 4, 4)}, {gravity.Static, rc(20, 10, 4, 4), -10, 0, rc(0, 0, 0, 0)},
+		{gravity.South, rc(0, 0, 7, 9), 1, 5, rc(1, 5, 4, 4)}, {gravity.West, rc(0, 0, 7, 9), 0, 2, rc(0, 2, 4, 4)}, {gravity.NorthEast, rc(0, 0, 7, 9), 3, 0, rc(3, 0, 4, 4)}, {gravity.Static, rc(20, 10, 4, 4), -10, 0, rc(0, 0, 0, 0)}, {gravity.Static, rc(14, 10, 4, 4), -4, 0, rc(0, 0, 0, 0)}, {gravity.Static, rc(11, 6, 4, 4), -1, 4, rc(0, 0, 0, 0)}, {gravity.Static, rc(11, 13, 4, 4), -1, -3, rc(0, 0, 3, 1)},
 	} {
 		d, ok := gravity.Shift(x.g, was, x.now)
 		want(t, gravity.Name(x.g), d, api.Point{X: x.dx, Y: x.dy})

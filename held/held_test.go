@@ -20,6 +20,7 @@ func id(client, n int) api.ID { return api.ID(client<<20 + n) }
 
 // P11.1
 func TestAddAndDrop(t *testing.T) {
+	want(t, "kinds", held.Window*1000+held.Pixmap*100+held.Pen*10+held.Font, 1234)
 	var z held.Table
 	u, e := z.Add(1, id(1, 5), held.Pen)
 	want(t, "Add", e, api.OK)

@@ -42,7 +42,7 @@ func TestPack(t *testing.T) {
 		w, h int
 		b    string
 		e    api.Errno
-	}{{0, 1, "", api.ErrSize}, {1, 129, "", api.ErrSize}, {2, 2, "abc", api.ErrShort}, {2, 2, "abcde", api.ErrLong}} {
+	}{{0, 1, "", api.ErrSize}, {1, 129, "", api.ErrSize}, {2, 2, "abc", api.ErrShort}, {3, 2, "abcde", api.ErrShort}, {2, 2, "abcde", api.ErrLong}} {
 		u, e := image.Unpack(x.w, x.h, x.b)
 		want(t, "Unpack", e == x.e && grid.Same(u, grid.Grid{}), true)
 	}
@@ -67,7 +67,7 @@ func TestShort(t *testing.T) {
 		s string
 		e api.Errno
 	}{
-		{strings.Repeat("\x80", 131073), api.ErrLong}, {"\x80", api.ErrShort}, {"\x01a", api.ErrShort}, {"\x00a\x05", api.ErrShort}, {whole, api.OK}, {whole + "\x00a", api.ErrLong}, {whole + "\x05a", api.ErrShort}, {"\x00a\x00a\x00a", api.OK},
+		{strings.Repeat("\x80", 131073), api.ErrLong}, {strings.Repeat("\x00a", 65536) + "\x00", api.ErrLong}, {strings.Repeat("\x00a", 65536), api.OK}, {strings.Repeat("\x00a", 65537), api.ErrLong}, {"\x80", api.ErrShort}, {"\x01a", api.ErrShort}, {"\x00a\x05", api.ErrShort}, {whole, api.OK}, {whole + "\x00a", api.ErrLong}, {whole + "\x05a", api.ErrShort}, {"\x00a\x00a\x00a", api.OK},
 	} {
 		l, e := image.Long(x.s)
 		want(t, "Long", e, x.e)

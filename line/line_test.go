@@ -103,7 +103,9 @@ func TestClip(t *testing.T) {
 		l, e := line.Clip(pt(0, 0), pt(1, 1), r)
 		want(t, "Clip", e == api.OK && len(l) == 0, true)
 	}
-	l, e := line.Clip(pt(-m, 5), pt(m, 5), rc(7, 0, 3, 9))
+	l, e := line.Clip(pt(0, 0), pt(1, 1), rc(0, 0, 65536, 65536))
+	want(t, "as great as may be", e == api.OK && len(l) == 2, true)
+	l, e = line.Clip(pt(-m, 5), pt(m, 5), rc(7, 0, 3, 9))
 	want(t, "Clip", e == api.OK && slices.Equal(l, []api.Point{pt(7, 5), pt(8, 5), pt(9, 5)}), true)
 }
 

@@ -55,6 +55,10 @@ func TestExamples(t *testing.T) {
 	want(t, "Tile", g.Row(0)+g.Row(1), "\x02\x01\x02\x02\x01\x02")
 	g = paint.Points(blank(3, 2), band.Of(rc(0, 0, 2, 2)), p, pt(0, 0), pt(1, 1), pt(0, 0), pt(2, 0), pt(1, 1), pt(1, 1), pt(-1, 0), pt(math.MaxInt, 0))
 	want(t, "Points", g.Row(0)+g.Row(1), "\x00\x00\x00\x00\x05\x00")
+	g = paint.Points(blank(3, 2), band.Of(all), p, pt(1, 0))
+	want(t, "one point", g.Row(0)+g.Row(1), "\x00\x05\x00\x00\x00\x00")
+	g = paint.Tile(blank(3, 2), band.Of(all), band.Of(all), blank(1, 1).Set(0, 0, 7), -1<<20, 1<<20)
+	want(t, "far tile", g.Row(0), "\x07\x07\x07")
 	g = paint.Rects(blank(3, 2), band.Of(all), p, rc(0, 0, 0, 2), rc(-1<<20-1, 0, 1<<21, 9), api.Rect{}, rc(2, 1, 100, 100))
 	want(t, "Rects", g.Row(0)+g.Row(1), "\x00\x00\x00\x00\x00\x05")
 }
@@ -63,9 +67,9 @@ func TestExamples(t *testing.T) {
 func TestPlaces(t *testing.T) {
 	rnd := rand.New(rand.NewSource(9))
 	for op := range 16 {
-		g, tile, clip, what, other := random(rnd, 6, 5), random(rnd, 2, 3), some(rnd), some(rnd), some(rnd)
+		g, tile, clip, what, other := random(rnd, 6, 5), random(rnd, 3, 4), some(rnd), some(rnd), some(rnd)
 		p := pen.Pen{Func: op, Planes: api.Pixel(rnd.Intn(256)), Fore: api.Pixel(rnd.Intn(256)), Back: api.Pixel(rnd.Intn(256))}
-		fore, back, tiled := paint.Region(g, clip, what, p), paint.Back(g, clip, what, p), paint.Tile(g, clip, what, tile, -7, 4)
+		fore, back, tiled := paint.Region(g, clip, what, p), paint.Back(g, clip, what, p), paint.Tile(g, clip, what, tile, -7, 6)
 		l := []api.Rect{rc(0, 0, 3, 3), rc(1, 1, 4, 2), rc(1, 2, 1, 1), rc(1, 2, 1, 1)}
 		rects := paint.Rects(g, clip, p, l...)
 		one := g
@@ -77,7 +81,7 @@ func TestPlaces(t *testing.T) {
 			for y := range 5 {
 				a, b, c := g.At(x, y), g.At(x, y), g.At(x, y)
 				if clip.Has(x, y) && what.Has(x, y) {
-					a, b, c = rop.Mix(op, p.Fore, a, p.Planes), rop.Mix(op, p.Back, a, p.Planes), tile.At((x+7)%2, (y+2)%3)
+					a, b, c = rop.Mix(op, p.Fore, a, p.Planes), rop.Mix(op, p.Back, a, p.Planes), tile.At((x+7)%3, (y+2)%4)
 				}
 				want(t, "Region", fore.At(x, y), a)
 				want(t, "Back", back.At(x, y), b)
@@ -87,7 +91,7 @@ func TestPlaces(t *testing.T) {
 		}
 		two := paint.Region(paint.Region(g, clip, region.Minus(what, other), p), clip, region.Meet(what, other), p)
 		want(t, "parts", grid.Same(two, fore), true)
-		want(t, "tile again", grid.Same(paint.Tile(tiled, clip, what, tile, -7, 4), tiled), true)
+		want(t, "tile again", grid.Same(paint.Tile(tiled, clip, what, tile, -7, 6), tiled), true)
 	}
 }
 

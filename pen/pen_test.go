@@ -29,7 +29,7 @@ func TestCheck(t *testing.T) {
 	}{
 		{pen.Pen{Func: 16, X: 99999}, api.ErrKind}, {pen.Pen{Func: -1}, api.ErrKind}, {pen.Pen{X: 32768, Clip: []api.Rect{{}}}, api.ErrRange}, {pen.Pen{Y: -32769}, api.ErrRange}, {pen.Pen{Clip: make([]api.Rect, 300)}, api.ErrState},
 		{pen.Pen{Clipped: true, Clip: append(make([]api.Rect, 256), rc(0, 0, -1, 0))}, api.ErrMany}, {pen.Pen{Clipped: true, Clip: []api.Rect{rc(0, 0, 65536, 0)}}, api.ErrRange}, {pen.Pen{Clipped: true, Clip: []api.Rect{rc(-32769, 0, 0, 0)}}, api.ErrRange},
-		{pen.Pen{Clipped: true, Clip: []api.Rect{rc(0, 32768, 0, 0)}}, api.ErrRange}, {pen.Pen{Clipped: true, Clip: []api.Rect{rc(0, 0, 0, -1)}}, api.ErrRange}, {pen.Pen{X: -32768, Y: 32767, Clipped: true, Clip: []api.Rect{rc(32767, -32768, 65535, 0)}}, api.OK},
+		{pen.Pen{Clipped: true, Clip: []api.Rect{rc(0, 32768, 0, 0)}}, api.ErrRange}, {pen.Pen{Clipped: true, Clip: []api.Rect{rc(0, 0, 0, -1)}}, api.ErrRange}, {pen.Pen{Clip: []api.Rect{{}}}, api.ErrState}, {pen.Pen{Clipped: true, Clip: []api.Rect{rc(0, 0, 65535, 65535)}}, api.OK}, {pen.Pen{Clipped: true, Clip: []api.Rect{rc(0, 0, 0, 65536)}}, api.ErrRange}, {pen.Pen{X: -32768, Y: 32767, Clipped: true, Clip: []api.Rect{rc(32767, -32768, 65535, 0)}}, api.OK},
 	} {
 		want(t, "Check", x.p.Check(), x.e)
 		if x.e != api.OK {

@@ -98,7 +98,7 @@ func TestRight(t *testing.T) {
 		row []int64
 	}{
 		{pieces.Piece{Last: true}, []int64{0, 0}}, {pieces.Piece{Total: 16382, Data: numbers(16382), Last: true}, append([]int64{0, 16382}, numbers(16382)...)}, {pieces.Piece{Total: 16383, Data: numbers(16383), Last: true}, nil}, {pieces.Piece{Total: 1, Last: true}, nil}, {pieces.Piece{Total: 1, Data: []int64{-1}, Last: true}, nil},
-		{pieces.Piece{Incr: true, Total: 65536}, []int64{1, 65536}}, {pieces.Piece{Incr: true, Total: 65537}, nil}, {pieces.Piece{Incr: true, Total: 1, Data: []int64{1}}, nil}, {pieces.Piece{Incr: true}, nil}, {pieces.Piece{Incr: true, Total: -1}, nil},
+		{pieces.Piece{Incr: true, Total: 65536}, []int64{1, 65536}}, {pieces.Piece{Incr: true, Total: 1}, []int64{1, 1}}, {pieces.Piece{Incr: true, Total: 65537}, nil}, {pieces.Piece{Incr: true, Total: 1, Data: []int64{1}}, nil}, {pieces.Piece{Incr: true}, nil}, {pieces.Piece{Incr: true, Total: -1}, nil},
 		{pieces.Piece{Incr: true, Data: numbers(16382)}, append([]int64{2, 0}, numbers(16382)...)}, {pieces.Piece{Incr: true, Data: numbers(16383)}, nil}, {pieces.Piece{Incr: true, Data: []int64{1 << 32}}, nil}, {pieces.Piece{Incr: true, Last: true}, []int64{3, 0}}, {pieces.Piece{Incr: true, Last: true, Total: 1}, nil}, {pieces.Piece{Incr: true, Last: true, Data: []int64{1}}, nil}, {pieces.Piece{}, nil},
 	} {
 		want(t, "Code", slices.Equal(pieces.Code(x.p), x.row), true)

@@ -93,6 +93,8 @@ func TestWrong(t *testing.T) {
 	want(t, "example", band.Same(r, band.Of(rc(0, 0, 3, 1), rc(0, 1, 2, 1), rc(0, 2, 1, 1))) && poly.Twice(l...) == 16, true)
 	want(t, "rule", poly.Inside(2, 0, 0, l...) || poly.Inside(-1, 0, 0, l...), false)
 	want(t, "places", poly.Inside(0, m+1, 0, l...) || poly.Inside(0, -m-1, 0, l...) || poly.Turns(m+1, 0, l...) != 0, false)
+	most := append(make([]api.Point, 253), l...)
+	want(t, "256 corners", poly.Twice(most...) == 16 && poly.Inside(0, 0, 0, most...) && poly.Turns(0, 0, most...) != 0, true)
 	for _, bad := range [][]api.Point{nil, l[:2], append(slices.Clone(l), pt(m+1, 0)), append(slices.Clone(l), pt(0, -m-1)), make([]api.Point, 257)} {
 		want(t, "corners", poly.Inside(0, 0, 0, bad...) || poly.Turns(0, 0, bad...) != 0 || poly.Twice(bad...) != 0, false)
 	}

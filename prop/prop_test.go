@@ -46,7 +46,7 @@ func TestChange(t *testing.T) {
 		p    prop.Prop
 		e    api.Errno
 	}{
-		{3, prop.Prop{}, api.ErrKind}, {-1, prop.Prop{}, api.ErrKind}, {0, prop.Prop{0, 0, 9, big}, api.ErrName}, {0, prop.Prop{5, 0, 9, big}, api.ErrValue}, {0, prop.Prop{5, 4, 9, big}, api.ErrSize}, {0, prop.Prop{5, 4, 8, append(big, 256)}, api.ErrLong},
+		{3, prop.Prop{}, api.ErrKind}, {-1, prop.Prop{}, api.ErrKind}, {0, prop.Prop{0, 0, 9, big}, api.ErrName}, {0, prop.Prop{5, 0, 9, big}, api.ErrValue}, {0, prop.Prop{5, 4, 9, big}, api.ErrSize}, {0, prop.Prop{5, 4, 8, append(big[1:], 256)}, api.ErrLong}, {0, prop.Prop{5, 4, 8, big}, api.ErrLong},
 		{0, prop.Prop{5, 4, 8, []int64{256}}, api.ErrRange}, {0, prop.Prop{5, 4, 16, []int64{65536}}, api.ErrRange}, {0, prop.Prop{5, 4, 32, []int64{-1}}, api.ErrRange}, {0, prop.Prop{5, 4, 32, []int64{1 << 32}}, api.ErrRange},
 		{1, prop.Prop{5, 4, 16, nil}, api.ErrMatch}, {2, prop.Prop{5, 7, 8, big[:16384]}, api.ErrMatch}, {2, prop.Prop{5, 7, 16, big[:16384]}, api.ErrLong}, {2, prop.Prop{5, 7, 16, big[:16383]}, api.OK},
 	} {

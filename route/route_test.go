@@ -265,6 +265,27 @@ func TestStep(t *testing.T) {
 	want(t, "frozen by the release", s.Pointer.Frozen(), true)
 }
 
+// P40.1: which device is next, fields that are bounded, and the last codes.
+func TestEdges(t *testing.T) {
+	s := sel(sel(start(3, 3), 2, 1, api.MaskKeyPress|api.MaskMotion), 2, a, 0)
+	s.Pointer, s.Keyboard = s.Pointer.Begin(freeze.Active{Client: 1, Window: a}, true), s.Keyboard.Freeze()
+	s, _ = does(t, s, key(65, 5), motion(0, 0, 6), key(66, 7), motion(1, 0, 8))
+	_, l := route.Ungrab(s, true, 1, 0)
+	said(t, l, []int64{2, 1, 1, int64(a), 65}, []int64{2, 5, 1, 0, 0, 0, 0, 0}, []int64{2, 1, 1, 0, 66}, []int64{2, 5, 1, 0, 0, 0, 1, 0})
+	s, l = does(t, sel(start(3, 3), 2, 1, api.MaskButtonPress), key(255, 1), press(5, 2), key(248, 3))
+	said(t, l, []int64{2, 3, 1, int64(a), 5, 128})
+	want(t, "bits", s.Mods == 129 && s.Buttons == 16, true)
+	u, p := tree.New(), place.Place{}
+	p, _ = place.New(8, 8)
+	for i, w := range []api.ID{a, b} {
+		u, _ = u.Add(w, map[int]api.ID{0: 1, 1: a}[i])
+		p, _ = p.Set(w, place.Box{X: 32767, Y: -32768, W: 1, H: 1, Mapped: true})
+	}
+	far := route.State{Tree: u, View: view.Of(u, p), Focus: focus.Focus{Window: b}, X: 3, Y: 4, Under: 1}
+	_, l = does(t, sel(far, 2, b, api.MaskKeyPress), key(65, 1))
+	said(t, l, []int64{2, 1, int64(b), 0, 65, 0, -32768, 32767, 3, 4, 1})
+}
+
 // P40.2
 func TestMoved(t *testing.T) {
 	s := sel(sel(sel(start(3, 3), 1, a, api.MaskFocus|api.MaskLeave), 2, 1, api.MaskFocus|api.MaskEnter), 3, b, api.MaskFocus|api.MaskLeave|api.MaskMotion)

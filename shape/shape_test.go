@@ -102,7 +102,9 @@ func TestFlip(t *testing.T) {
 	r := band.Of(rc(-2, 0, 4, 1), rc(3, 1, 5, 2))
 	want(t, "across", band.Same(shape.Flip(r, 5, 2, true), band.Of(rc(3, 0, 2, 1), rc(0, 1, 2, 1))), true)
 	want(t, "down", band.Same(shape.Flip(r, 5, 2, false), band.Of(rc(0, 1, 2, 1), rc(3, 0, 2, 1))), true)
+	one := band.Of(rc(0, 0, 1, 1))
 	for _, a := range []bool{false, true} {
+		want(t, "one place", band.Same(shape.Flip(r, 1, 1, a), one) && shape.Flip(one, 1, 2, a).Area() == 1 && shape.Flip(one, 2, 1, a).Area() == 1, true)
 		want(t, "none", shape.Flip(r, 0, 2, a).Empty() && shape.Flip(r, 2, 0, a).Empty() && shape.Flip(r, m+1, 2, a).Empty() && shape.Flip(r, 2, m+1, a).Empty(), true)
 		want(t, "twice", band.Same(shape.Flip(shape.Flip(r, m, 3, a), m, 3, a), region.Within(r, rc(0, 0, m, 3))), true)
 	}

@@ -77,6 +77,9 @@ func TestCirculateAndOrder(t *testing.T) {
 	want(t, "up", id == a && ok && slices.Equal(v.Kids(1), []api.ID{b, c, a}), true)
 	v, id, ok = stack.Circulate(u, 1, false, at)
 	want(t, "down", id == c && ok && slices.Equal(v.Kids(1), []api.ID{c, a, b}), true)
+	apart, _ := u.Place(b, 2)
+	v, id, ok = stack.Circulate(apart, 1, false, at)
+	want(t, "the highest that hides", id == c && ok && slices.Equal(v.Kids(1), []api.ID{c, a, b}), true)
 	for _, parent := range []api.ID{b, d, 99} {
 		v, id, ok = stack.Circulate(u, parent, true, at)
 		want(t, "none", id == 0 && !ok && slices.Equal(v.Below(1), u.Below(1)), true)

@@ -97,6 +97,8 @@ func TestFeed(t *testing.T) {
 	want(t, "Feed", len(l) == 3 && l[2].Seq == 3, true)
 	waits(t, u)
 	waits(t, s, 1, 3)
+	_, _, e = s.Feed(put(t, api.Out{Kind: 0, Code: 3, Seq: 1, N: []int64{5, 9}}))
+	want(t, "a fault of the first one", e, api.OK)
 	_, _, e = u.Feed(put(t, reply(3)))
 	want(t, "not awaited", e, api.ErrState)
 	_, _, e = u.Feed("\x00\x00\x00\x00\x02\x00\x00\x00")

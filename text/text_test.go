@@ -2,6 +2,7 @@ package text_test
 
 import (
 	"math"
+	"strconv"
 	"strings"
 	"testing"
 
@@ -40,6 +41,7 @@ func TestRegionAndBox(t *testing.T) {
 		want(t, "wrong", text.Region(tiny(), n, 0, "A").Empty() && text.Region(tiny(), 0, n, "A").Empty() && text.Box(tiny(), n, 0, "A") == api.Rect{} && text.Box(tiny(), 0, n, "A") == api.Rect{}, true)
 	}
 	want(t, "Box", text.Box(tiny(), m-3, 5, "A") == api.Rect{} && text.Box(tiny(), m-4, 5, "A") == rc(m-4, 0, 4, 6) && text.Box(tiny(), 0, 5, "") == api.Rect{} && text.Box(font.Font{}, 0, 5, "A") == api.Rect{} && text.Box(tiny(), 0, -m, "A") == api.Rect{}, true)
+	want(t, "at the other edge", !text.Region(tiny(), -m, m, "A").Empty() && text.Box(tiny(), -m, 0, "A").W == 4, true)
 	want(t, "at the edge", text.Region(tiny(), m-1, 5, "A").Box(), rc(m-1, 0, 1, 5))
 	long := strings.Repeat("A", 5000)
 	want(t, "long", text.Box(tiny(), 0, 5, long).W == 4*4096 && text.Region(tiny(), 0, 5, long).Area() == 4096*10 && text.At(tiny(), long, 1<<40) == 4096 && text.Fit(tiny(), long, 1<<40) == 4096, true)
@@ -78,6 +80,12 @@ func TestAtAndFit(t *testing.T) {
 		want(t, "Fit", text.Fit(f, "ABC", x[0]), x[2])
 	}
 	want(t, "examples", text.At(tiny(), "AB", 5)*10+text.Fit(tiny(), "AB", 7), 11)
+	narrow := "font 1 0\n"
+	for c := 32; c <= 126; c++ {
+		narrow += strconv.Itoa(c) + " " + strconv.Itoa(c%2) + " 0\n"
+	}
+	n, _, e := font.Parse(narrow) // every second letter has no column
+	want(t, "no columns", e == api.OK && text.At(n, "BBABB", 0) == 2 && text.Fit(n, "BBABB", 0) == 2 && text.At(n, "BBABB", 1) == 5 && text.Fit(n, "BBABB", 1) == 5 && text.At(n, "BB", -1) == 0 && text.Fit(n, "BB", -1) == 0, true)
 	want(t, "none", text.At(f, "", 5)+text.Fit(f, "", 5)+text.Fit(f, "A", 5), 0)
 }
 

@@ -50,6 +50,8 @@ func TestChanges(t *testing.T) {
 	want(t, "Remove", e, api.OK)
 	list(t, "gone", gone, d, b)
 	list(t, "Remove", r.Below(1), 1, a, c)
+	anew, _ := r.Add(b, 1)
+	list(t, "anew", anew.Kids(b))
 	m, e := u.Move(a, b)
 	want(t, "Move", e, api.OK)
 	list(t, "Move", m.Below(1), 1, b, d, a, c)
