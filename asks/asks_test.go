@@ -28,6 +28,19 @@ func TestLooks(t *testing.T) {
 	if a.ID(1) != 7 || a.Atom(1) != 7 || a.N(3) != 200 || !a.Is(0) || a.Is(1) || !a.Has(1, 4) || a.Has(1, 8) {
 		t.Error("numbers")
 	}
+	b := asks.Ask{World: w, Client: 1, Request: api.Request{Code: 3, N: []int64{1, 2, 128, 129}}}
+	if _, bad := b.First(b.YesNo(0), b.Side(0), b.Side(2)); bad {
+		t.Error("edges")
+	}
+	if _, bad := b.First(b.YesNo(1)); !bad {
+		t.Error("YesNo")
+	}
+	if _, bad := b.First(b.Side(3)); !bad {
+		t.Error("Side")
+	}
+	if len(asks.Rects(make([]int64, 8))) != 2 || len(asks.Rects(make([]int64, 3))) != 0 {
+		t.Error("Rects")
+	}
 	if l := asks.Rects([]int64{1, 2, 3, 4, 5, 6, 7}); len(l) != 1 || l[0] != (api.Rect{X: 1, Y: 2, W: 3, H: 4}) {
 		t.Error("Rects", l)
 	}

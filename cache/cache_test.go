@@ -56,6 +56,11 @@ func TestAlmost(t *testing.T) {
 	long := strings.Repeat("x", 65535)
 	_, s, _ = of(t, 2, long+"a").Put(long + "b")
 	want(t, "far", s, "\x02\x00\xff\xffb")
+	_, back, e := of(t, 2, long+"a").Get(s)
+	want(t, "far and back", back == long+"b" && e == api.OK, true)
+	want(t, "twice the same", of(t, 3, "a", "a", "b", "b").Len(), 2)
+	twice, _, _ := of(t, 3, "a", "b").Put("b")
+	want(t, "the first one again", twice.Mark() == of(t, 3, "a", "b").Mark(), true)
 }
 
 // P59.1: what is refused, in order.

@@ -52,6 +52,7 @@ func TestWrite(t *testing.T) {
 	c = of(t, 2, 1, 2, "a\nb\nc\nd")
 	want(t, "the newest ones", c.Kept() == 2 && c.Back(1) == "c " && c.Back(2) == "b ", true)
 	want(t, "none", of(t, 2, 1, 0, "a\nb\nc").Kept(), 0)
+	want(t, "tabs", state(of(t, 20, 1, 0, "123456789\tx~\t\ty")), "123456789       x~ y\n@D0")
 	w, h := of(t, 128, 64, 1000, "").Size()
 	want(t, "Size", w*100+h, 12864)
 }

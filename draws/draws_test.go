@@ -93,7 +93,7 @@ func TestLooks(t *testing.T) {
 	}{
 		{1, 17, "", []int64{b + 1, 0, 0, 0}, "1 fault 14 2097154 17"}, {1, 17, "", []int64{p, 0, 0, 0}, "1 fault 14 p 17"}, {1, 17, "", []int64{x, 0, 129, 0}, "1 fault 2 0 17"}, {1, 17, "", []int64{x, 128, 129, 0}, "1 fault 2 129 17"}, {1, 17, "", nil, "1 fault 16 0 17"},
 		{2, 18, "", []int64{p}, "2 fault 4 p 18"}, {1, 18, "", []int64{q}, "1 fault 4 q 18"}, {1, 19, "", []int64{q}, "1 fault 14 q 19"}, {1, 19, "", []int64{b + 5}, "1 fault 14 2097158 19"},
-		{1, 20, "", []int64{p, 99, 99, 0, 0, 0, 99}, "1 fault 13 p 20"}, {2, 20, "", []int64{q, 99, 99, 0, 0, 0, 99}, "2 fault 13 q 20"}, {1, 20, "", []int64{q, 32, 99, 0, 0, 0, 99}, "1 fault 2 32 20"}, {1, 20, "", []int64{q, 17, 16, 0, 0, 0, 99}, "1 fault 2 16 20"}, {1, 20, "", []int64{q, 16, 16, 0, 0, 0, 99}, "1 fault 7 99 20"}, {1, 20, "", []int64{q, 15, 15, 0, 0, 0, 99}, ""}, {1, 20, "", []int64{q, 16, 16, 0, 0, 0, 0}, ""},
+		{1, 20, "", []int64{p, 99, 99, 0, 0, 0, 99}, "1 fault 13 p 20"}, {2, 20, "", []int64{q, 99, 99, 0, 0, 0, 99}, "2 fault 13 q 20"}, {1, 20, "", []int64{q, 32, 99, 0, 0, 0, 99}, "1 fault 2 32 20"}, {1, 20, "", []int64{q, 17, 16, 0, 0, 0, 99}, "1 fault 2 16 20"}, {1, 20, "", []int64{q, 16, 16, 0, 0, 0, 99}, "1 fault 7 99 20"}, {1, 20, "", []int64{q, 15, 15, 0, 0, 0, 99}, ""}, {1, 20, "", []int64{q, 16, 0, 0, 0, 0, 99}, "1 fault 7 99 20"}, {1, 20, "", []int64{q, 14, 16, 0, 0, 0, 99}, ""}, {1, 20, "", []int64{q, 16, 16, 0, 0, 0, 0}, ""},
 		{1, 21, "", []int64{f, 0, 0, 9, 1}, "1 fault 13 f 21"}, {1, 21, "", []int64{q, 0, 0, 9, 1}, "1 fault 2 9 21"}, {1, 21, "", []int64{q, 0, 0, 1, 1}, "1 fault 8 q 21"}, {1, 21, "", []int64{q, 0, 0, 0, 0, 0, -1, 1}, "1 fault 8 q 21"}, {1, 21, "", append([]int64{q, 0, 0, 1}, slices.Repeat([]int64{-1}, 257*4)...), "1 fault 2 1028 21"}, {1, 21, "", []int64{q, 0, 0, 1, 0, 0, 1, -2, 0, 0, -1, 0}, "1 fault 2 -2 21"},
 		{2, 22, "", []int64{q}, "2 fault 13 q 22"}, {1, 23, "none", []int64{f}, "1 fault 14 f 23"}, {1, 23, "none", []int64{x}, "1 fault 15 1048586 23"}, {1, 24, "", []int64{q}, "1 fault 7 q 24"}, {2, 24, "", []int64{f}, "2 fault 7 f 24"}, {1, 25, "", []int64{p}, "1 fault 7 p 25"},
 		{1, 26, "", []int64{p, 0, 0, 0, 0, 9}, "1 fault 3 p 26"}, {2, 26, "", []int64{a, 0, 0, 0, 0, 9}, "2 fault 10 a 26"}, {1, 26, "", []int64{a, 0, 0, 0, 0, 9}, "1 fault 2 9 26"},
@@ -130,6 +130,8 @@ func TestMade(t *testing.T) {
 		u, said := do(t, w, 1, int(x[0]), map[int64]string{23: "wide"}[x[0]], x[2:]...)
 		want(t, "made", said == "" && u.Text() != was, true)
 		u, _ = do(t, u, 1, int(x[1]), "", a+9)
+		_, has := u.Canvas.Grid(api.ID(a + 9))
+		want(t, "no grid", has, false)
 		want(t, "freed", u.Text(), was)
 	}
 	w, _ = do(t, w, 1, 21, "", q, 2, -1, 1, 0, 0, 3, 2)
@@ -198,7 +200,11 @@ func TestWindows(t *testing.T) {
 		want(t, "ground", shows(v, a), []string{"05050909/05090909/05090909/", "05050505/05090909/05090909/"}[backing])
 		v, said = do(t, u, 1, 26, "", a, 0, 2, 1, 9, 0)
 		want(t, "told nobody", said+shows(v, a)[18:], "09"+rows[20:])
+		v, _ = do(t, u, 1, 26, "", a, -1, -1, 0, 0, 0)
+		want(t, "all of it", shows(v, a), "09090909/09090909/09090909/")
 		v, places := draws.Clear(u, api.ID(a), api.Rect{X: -1, Y: -1, W: 2, H: 2})
+		v.Clients[7] = true
+		want(t, "maps of its own", u.Clients[7], false)
 		want(t, "Clear", band.Same(places, band.Of(api.Rect{W: 1, H: 1})) && shows(v, a)[:2] == "09", true)
 		for _, id := range []int64{p, 99} {
 			v, places = draws.Clear(u, api.ID(id), api.Rect{W: 9, H: 9})
@@ -217,6 +223,10 @@ func TestCopies(t *testing.T) {
 	want(t, "onto itself", said+shows(u, a), "1 event 12 a09050909/09090909/09090909/"[:12]+"05050909/09090909/09090909/")
 	u, said = do(t, w, 1, 27, "", a, p, q, 0, 0, 0, 0, 4, 3, 1)
 	want(t, "to a pixmap", said+" "+shows(u, p), "1 event 11 p 2 0 1 2 0 050907/090507/")
+	u, _ = do(t, w, 1, 27, "", a, p, q, 1, 0, 0, 0, 2, 2, 0)
+	want(t, "from 1, 0", shows(u, p), "090707/050707/")
+	u, _ = do(t, w, 1, 27, "", a, p, q, 0, 1, 0, 0, 2, 1, 0)
+	want(t, "from 0, 1", shows(u, p), "090507/070707/")
 	_, said = do(t, w, 1, 27, "", a, p, q, 0, 0, 0, 0, 4, 3, 0)
 	want(t, "told nobody", said, "")
 	u, said = do(t, w, 1, 27, "", p, a, q, 0, 0, -1, 1, 3, 2, 1)

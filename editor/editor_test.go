@@ -141,6 +141,10 @@ func TestEvents(t *testing.T) {
 	want(t, "drawn", l, "36 w p 0 5 1 'abc'; 36 w p 0 11 1 'def'; 30 w p row 8 11 4 1")
 	e, l = steps(t, e, click(api.EvMotion, 0, 0, 0))
 	want(t, "no button", l+strconv.Itoa(e.Cursor()), "6")
+	e, l = steps(t, e, click(api.EvMotion, 255, -5, -5))
+	want(t, "no button", l+strconv.Itoa(e.Cursor()), "6")
+	v, _ := steps(t, e, click(api.EvMotion, 256, 4, 13))
+	want(t, "by the state", v.Cursor(), 11)
 	e, l = steps(t, e, click(api.EvMotion, 256, -5, -5))
 	low, high = e.Marked()
 	want(t, "marked", e.Cursor() == 0 && low == 0 && high == 6, true)
@@ -174,6 +178,8 @@ func TestKeys(t *testing.T) {
 			t.Errorf("%s: %q %d %d %d", x.description, e.Text(), e.Cursor(), low, high)
 		}
 	}
+	up, _ := steps(t, base, key(135, 0), key(134, 0))
+	want(t, "one line up", up.Cursor(), 4)
 	full := of(t, 40, 30, strings.Repeat("a", 4096))
 	full, _ = steps(t, full, key(120, 0))
 	want(t, "full", full.Text(), strings.Repeat("a", 4096))
@@ -247,6 +253,29 @@ func (c *canvas) draw(l []api.Request) {
 		case api.ReqFillRects:
 			c.g = paint.Rects(c.g, all, c.p, api.Rect{X: int(r.L[0]), Y: int(r.L[1]), W: int(r.L[2]), H: int(r.L[3])})
 		}
+	}
+}
+
+// P55.4: letters by opaque text, what is marked by Xor, the cursor by Copy.
+func TestPixels(t *testing.T) {
+	e := of(t, 9, 7, "A")
+	for _, x := range []struct {
+		o    api.Out
+		rows string
+	}{
+		{event(api.EvExpose, window, 0, 0, 1, 1, 0), "110000000/101000000/111000000/100000000/110000000/111100000/000000000/"},
+		{key(133, 1), "001100000/010100000/000100000/011100000/001100000/111111110/000000000/"},
+		{key(133, 0), "110000000/101000000/111000000/100000000/110000000/000011110/000000000/"},
+	} {
+		e, _ = steps(t, e, x.o)
+		rows := ""
+		for y := range 7 {
+			for _, p := range []byte(e.Picture().Row(y)) {
+				rows += string(rune('0' + p))
+			}
+			rows += "/"
+		}
+		want(t, "pixels", rows, x.rows)
 	}
 }
 

@@ -108,6 +108,13 @@ func TestGrabs(t *testing.T) {
 	// What is said by a grab stands behind its reply.
 	_, said = do(t, u, 1, 43, a, 0, 0, 0, 0)
 	want(t, "behind the reply", said, "1 answer 43 0; 1 event 1 a 0 65 0 -2 4 0 5 51")
+	v, _ = do(t, w, 1, 43, a, 0, 0, 1, 0)
+	want(t, "modes", v.In.Keyboard.Frozen() && !v.In.Pointer.Frozen(), true)
+	v, _ = do(t, w, 1, 43, a, 0, 1, 0, 0)
+	want(t, "modes", !v.In.Keyboard.Frozen() && v.In.Pointer.Frozen(), true)
+	v, _ = do(t, w, 1, 39, a, 1, 0, 1, 0, 0)
+	g, _ = v.In.Pointer.Active()
+	want(t, "owner", g.Owner && v.In.Pointer.Frozen() && !v.In.Keyboard.Frozen(), true)
 	w, _ = do(t, w, 1, 43, a, 1, 0, 0, 0)
 	g, _ = w.In.Keyboard.Active()
 	want(t, "keyboard", g.Owner && g.Mask == 3, true)
@@ -122,6 +129,8 @@ func TestPassive(t *testing.T) {
 	w, _ = do(t, w, 1, 41, a, 1, 4, 1, 12, 1, 0)
 	w, _ = do(t, w, 1, 45, a, 65, 32768, 0, 0, 1)
 	want(t, "grabs", slices.Equal(w.In.Passive.All(), []passive.Grab{{Client: 1, Window: api.ID(a), Button: true, Code: 1, Mods: 4, Owner: true, Mask: 12, Pointer: 1}, {Client: 1, Window: api.ID(a), Code: 65, Mods: 32768, Mask: 3, Keyboard: 1}}), true)
+	owner, _ := do(t, w, 1, 45, a, 66, 5, 1, 0, 1)
+	want(t, "owner", owner.In.Passive.All()[2], passive.Grab{Client: 1, Window: api.ID(a), Code: 66, Mods: 5, Owner: true, Mask: 3, Keyboard: 1})
 	w.In.Choice, _ = w.In.Choice.Set(3, 1, api.MaskRedirect)
 	_, said := do(t, w, 3, 41, a, 0, 32768, 0, 0, 0, 0)
 	want(t, "crosses", said, "3 fault 10 a 41")
@@ -154,6 +163,14 @@ func TestFocusAndPointer(t *testing.T) {
 	want(t, "warp-pointer", said, "1 event 6 a 0 1 1 3 2 0 50")
 	_, said = do(t, u, 2, 48, 1)
 	want(t, "query-pointer", said, "2 answer 48 a 3 2 3 2 0")
+	_, said = do(t, u, 2, 48, a)
+	want(t, "over it", said, "2 answer 48 0 3 2 1 1 0")
+	far := u
+	for i := int64(0); i < 2; i++ {
+		far, _ = do(t, far, 1, 1, 1<<20+50+i, []int64{1, 1<<20 + 50}[i], 32767, -32768, 1, 1, 0, 0, 0)
+	}
+	_, said = do(t, far, 2, 48, 1<<20+51)
+	want(t, "far", said, "2 answer 48 0 3 2 -32768 32767 0")
 	u.In, _, _ = route.Step(u.In, api.Input{Kind: api.EvButtonPress, Code: 2, Time: 50})
 	u.In, _, _ = route.Step(u.In, api.Input{Kind: api.EvKeyPress, Code: 248, Time: 50})
 	_, said = do(t, u, 2, 48, c)

@@ -46,7 +46,7 @@ func TestSplit(t *testing.T) {
 		e           api.Errno
 	}{
 		{10, []int{1, 1}, []int{1, 2}, []int{3, 7}, api.OK}, {10, []int{1, 1}, []int{0, 0}, []int{1, 9}, api.OK}, {10, []int{1, 1, 1}, []int{1, 1, 1}, []int{3, 3, 4}, api.OK}, {5, nil, nil, nil, api.OK}, {10, []int{4, 2, 1}, []int{5, 0, 0}, []int{7, 2, 1}, api.OK},
-		{-1, []int{1}, nil, nil, api.ErrMatch}, {-1, make([]int, 65), make([]int, 65), nil, api.ErrMany}, {-1, []int{0}, []int{0}, nil, api.ErrRange}, {1000001, []int{0}, []int{0}, nil, api.ErrRange}, {5, []int{-1}, []int{0}, nil, api.ErrRange}, {5, []int{0}, []int{1000001}, nil, api.ErrRange}, {5, []int{3, 3}, []int{0, 0}, nil, api.ErrSize}, {1000000, []int{1000000}, []int{1000000}, []int{1000000}, api.OK},
+		{-1, []int{1}, nil, nil, api.ErrMatch}, {-1, make([]int, 65), make([]int, 65), nil, api.ErrMany}, {-1, []int{0}, []int{0}, nil, api.ErrRange}, {1000001, []int{0}, []int{0}, nil, api.ErrRange}, {5, []int{-1}, []int{0}, nil, api.ErrRange}, {5, []int{0}, []int{1000001}, nil, api.ErrRange}, {5, []int{3, 3}, []int{0, 0}, nil, api.ErrSize}, {0, make([]int, 64), make([]int, 64), make([]int, 64), api.OK}, {1000000, []int{1000000}, []int{1000000}, []int{1000000}, api.OK},
 	} {
 		p, e := layout.Split(x.total, x.least, x.grow)
 		want(t, "Split", e == x.e && slices.Equal(p, x.parts), true)
@@ -80,6 +80,10 @@ func TestPlace(t *testing.T) {
 		want(t, "Place", e, x.e)
 		want(t, "Place", len(p) > 0, e == api.OK)
 	}
+	p, e = layout.Place(rc(0, 0, 9, 8), own...)
+	want(t, "just as great", e == api.OK && slices.Equal(p, []api.Rect{rc(0, 0, 9, 8), rc(0, 0, 9, 8)}), true)
+	p, _ = layout.Place(rc(0, 0, 4, 4), layout.Node{Down: true, Kids: []int{1, 2}}, layout.Node{}, layout.Node{})
+	want(t, "not high", slices.Equal(p, []api.Rect{rc(0, 0, 4, 4), {}, rc(0, 0, 4, 4)}), true)
 	p, _ = layout.Place(rc(0, 0, 4, 4), layout.Node{Kids: []int{1, 2}}, layout.Node{Kids: []int{3}}, layout.Node{W: 4}, layout.Node{})
 	want(t, "no place", slices.Equal(p, []api.Rect{rc(0, 0, 4, 4), {}, rc(0, 0, 4, 4), {}}), true)
 }

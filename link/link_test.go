@@ -63,6 +63,10 @@ func TestExample(t *testing.T) {
 	want(t, "Quiet", u.Quiet(), true)
 	_, l = u.Due()
 	want(t, "none", len(l), 0)
+	sent, _ := e.Due()
+	sent.Tick()
+	_, l = sent.Due()
+	want(t, "values", len(l), 0)
 	u, l = e.Tick().Due()
 	want(t, "Tick", len(l), 2)
 	_, l = u.Tick().Due()
@@ -116,7 +120,7 @@ func TestGot(t *testing.T) {
 		err api.Errno
 	}{
 		{"\x02123456789", api.ErrShort}, {"\x02\x00\x00\x00\x00\x00\x00\x00\x00\x00\x05", api.ErrKind}, {"\x00\x00\x00\x00\x00\x00\x00\x00\x09\x00\x02a", api.ErrForm}, {"\x00\x00\x00\x00\x00\x00\x00\x00\x09\x00\x00", api.ErrForm}, {"\x00\x00\x00\x00\x00\x00\x00\x00\x09\x04\x01" + strings.Repeat("a", 1025), api.ErrForm},
-		{"\x01\x00\x00\x00\x00\x00\x00\x00\x09\x00\x01a", api.ErrForm}, {"\x01\x00\x00\x00\x01\x00\x00\x00\x09\x00\x00", api.ErrForm}, {link.Packet(1, 0, 3, ""), api.ErrRange}, {link.Packet(0, 1, 3, "a"), api.ErrRange}, {link.Packet(0, 17, 0, "a"), api.ErrRange}, {link.Packet(0, 16, 0, "a"), api.OK}, {link.Packet(1, 0, 2, ""), api.OK}, {link.Packet(0, 0, 0, "x"), api.OK}, {link.Packet(0, 1, 2, strings.Repeat("a", 1024)), api.OK},
+		{"\x01\x00\x00\x00\x00\x00\x00\x00\x09\x00\x01a", api.ErrForm}, {"\x01\x00\x00\x00\x01\x00\x00\x00\x09\x00\x00", api.ErrForm}, {link.Packet(1, 0, 3, ""), api.ErrRange}, {link.Packet(1, 0, 1<<24, ""), api.ErrRange}, {link.Packet(0, 1<<24, 0, "a"), api.ErrRange}, {link.Packet(0, 1, 3, "a"), api.ErrRange}, {link.Packet(0, 17, 0, "a"), api.ErrRange}, {link.Packet(0, 16, 0, "a"), api.OK}, {link.Packet(1, 0, 2, ""), api.OK}, {link.Packet(0, 0, 0, "x"), api.OK}, {link.Packet(0, 1, 2, strings.Repeat("a", 1024)), api.OK},
 	} {
 		u, err := e.Got(x.p)
 		if err != x.err {

@@ -133,6 +133,12 @@ func TestFraming(t *testing.T) {
 		_, ok := v.Frame(b)
 		want(t, "too great", l == "3 b" && !ok, true)
 	}
+	odd := api.Out{Kind: api.Answer, Code: api.ReqGetProperty, Seq: 14, N: []int64{0, 0, 0, 5, 5, 0, 0}}
+	few := api.Out{Kind: api.Answer, Code: api.ReqGetGeometry, Seq: 14, N: []int64{1, 2, 3}}
+	_, l = steps(t, m, mapRequest(b), few, odd, title(15, "t"))
+	want(t, "not a geometry", l, "")
+	_, l = steps(t, m, mapRequest(b), size(14, 5, 5), title(15, " ~"))
+	want(t, "all letters", strings.HasSuffix(l, "1 7 1 ' ~'"), true)
 	_, l = steps(t, m, mapRequest(b), title(15, "t"))
 	want(t, "no size", l, "")
 	_, l = steps(t, m, mapRequest(b), size(14, 0, 5), title(15, "t"))

@@ -99,7 +99,7 @@ func TestRequests(t *testing.T) {
 		{1, 11, nil, "title", nil, "1 fault 16 0 11"}, {1, 12, ids(8), "", nil, "1 answer 12 title"}, {1, 12, ids(11), "", nil, "1 fault 5 11 12"}, {1, 12, ids(0), "", nil, "1 fault 5 0 12"}, {1, 12, ids(1<<32 - 1), "", nil, "1 fault 5 -1 12"},
 		{1, 13, ids(a, 9, 4, 8, 0), "", []int64{255}, "3 event 21 A 9 0 50"}, {1, 13, ids(99, 99, 99, 9, 9), "", nil, "1 fault 3 99 13"}, {2, 13, ids(a, 99, 99, 9, 9), "", nil, "2 fault 10 A 13"}, {1, 13, ids(a, 99, 98, 9, 9), "", nil, "1 fault 5 99 13"}, {1, 13, ids(a, 8, 98, 9, 9), "", nil, "1 fault 5 98 13"}, {1, 13, ids(a, 8, 0, 9, 9), "", nil, "1 fault 5 0 13"},
 		{1, 13, ids(a, 8, 4, 9, 9), "", nil, "1 fault 2 9 13"}, {1, 13, ids(a, 8, 4, 8, 3), "", nil, "1 fault 2 3 13"}, {1, 13, ids(a, 8, 4, 8, 0), "", []int64{256}, "1 fault 2 0 13"}, {1, 13, ids(a, 8, 5, 8, 1), "", nil, "1 fault 8 A 13"}, {1, 13, ids(a, 8, 4, 8, 0), "", big[:16384], "1 fault 16 0 13"}, {1, 13, ids(a, 8, 4, 8, 1), "", big[:16370], "3 event 21 A 8 0 50"},
-		{1, 14, ids(a, 8), "", nil, "3 event 21 A 8 1 50"}, {1, 14, ids(a, 9), "", nil, ""}, {1, 14, ids(99, 0), "", nil, "1 fault 3 99 14"}, {2, 14, ids(a, 0), "", nil, "2 fault 10 A 14"}, {1, 14, ids(a, 0), "", nil, "1 fault 5 0 14"},
+		{1, 13, ids(a, 9, 4, 16, 0), "", []int64{65535}, "3 event 21 A 9 0 50"}, {1, 13, ids(a, 9, 4, 32, 0), "", []int64{1<<32 - 1}, "3 event 21 A 9 0 50"}, {1, 13, ids(a, 9, 4, 0, 0), "", nil, "1 fault 2 0 13"}, {1, 13, ids(a, 9, 4, 24, 0), "", nil, "1 fault 2 24 13"}, {1, 14, ids(a, 8), "", nil, "3 event 21 A 8 1 50"}, {1, 14, ids(a, 9), "", nil, ""}, {1, 14, ids(99, 0), "", nil, "1 fault 3 99 14"}, {2, 14, ids(a, 0), "", nil, "2 fault 10 A 14"}, {1, 14, ids(a, 0), "", nil, "1 fault 5 0 14"},
 		{1, 15, ids(a, 8, 0, 0, 9, 0), "", nil, "1 answer 15 4 8 0 row 1 2 3"}, {1, 15, ids(a, 8, 4, 1, 1, 1), "", nil, "1 answer 15 4 8 1 row 2"}, {1, 15, ids(a, 8, 4, 1, 2, 1), "", nil, "1 answer 15 4 8 0 row 2 3; 3 event 21 A 8 1 50"}, {1, 15, ids(a, 8, 5, 9, 2, 1), "", nil, "1 answer 15 4 8 3"}, {1, 15, ids(a, 9, 0, 0, 9, 1), "", nil, "1 answer 15 0 0 0"},
 		{2, 15, ids(a, 0, 0, 0, 0, 9), "", nil, "2 fault 10 A 15"}, {1, 15, ids(7, 0, 0, 0, 0, 9), "", nil, "1 fault 3 7 15"}, {1, 15, ids(a, 0, 99, 0, 0, 9), "", nil, "1 fault 5 0 15"}, {1, 15, ids(a, 8, 99, 0, 0, 9), "", nil, "1 fault 5 99 15"}, {1, 15, ids(a, 8, 0, 4, 0, 9), "", nil, "1 fault 2 9 15"}, {1, 15, ids(a, 8, 0, 4, 0, 0), "", nil, "1 fault 2 4 15"},
 		{1, 16, ids(a), "", nil, "1 answer 16 row 8"}, {1, 16, ids(1), "", nil, "1 answer 16"}, {1, 16, ids(99), "", nil, "1 fault 3 99 16"}, {2, 16, ids(a), "", nil, "2 fault 10 A 16"},
@@ -168,6 +168,10 @@ func TestChanges(t *testing.T) {
 	want(t, "written", said, "")
 	_, said = do(t, u, 3, 53, ids(b, 0, 0, 24), "", int64(b), 1, 4, 9, 50)
 	want(t, "another one", said, "3 fault 10 B 53")
+	other, _ := do(t, u, 1, 53, ids(b, 0, 0, 25), "", int64(b), 1, 4, 9, 50)
+	want(t, "another event", len(other.Claims.All()), 1)
+	other, _ = do(t, u, 1, 53, ids(b, 0, 0, 24), "", int64(a), 1, 4, 9, 50)
+	want(t, "another requestor", len(other.Claims.All()), 1)
 	u, said = do(t, u, 1, 53, ids(b, 0, 0, 24), "", int64(b), 1, 4, 9, 50)
 	want(t, "answered", said, "2 event 24 B 1 4 9 50")
 	want(t, "pending", len(u.Claims.All()), 0)

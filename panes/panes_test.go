@@ -205,6 +205,11 @@ func TestReparent(t *testing.T) {
 	want(t, "on top", slices.Equal(u.In.Tree.Kids(1), []api.ID{c, m, a}), true)
 	u, said = do(t, w, 1, 6, int64(b), 1, -5, 6)
 	want(t, "not mapped", said, "1 event 20 b b 1 -5 6 0; 1 event 20 a b 1 -5 6 0; 2 event 20 1 b 1 -5 6 0")
+	v, _, e := panes.Reparent(w, b, 1, 32767, -32768)
+	y, _ := v.Place.Box(b)
+	want(t, "far", e == api.OK && y.X == 32767 && y.Y == -32768, true)
+	v.Clients[7] = true
+	want(t, "maps of its own", w.Clients[7], false)
 	x, _ := u.Place.Box(b)
 	want(t, "there", x.X == -5 && x.Y == 6 && !x.Mapped, true)
 	for _, y := range []struct {

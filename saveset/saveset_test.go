@@ -38,6 +38,8 @@ func TestChange(t *testing.T) {
 			want(t, "Change", e == x.e && len(u.Of(1)) == 2, true)
 		}
 	}
+	last, e := s.Change(8, id(2, 5), true)
+	want(t, "client 8", e == api.OK && len(last.Of(8)) == 1, true)
 	u, e := s.Change(1, id(2, 5), false)
 	want(t, "without", e == api.OK && len(u.Of(1)) == 1 && len(s.Of(1)) == 2, true)
 	_, e = u.Change(1, id(2, 5), false)

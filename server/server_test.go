@@ -146,6 +146,16 @@ func TestWaits(t *testing.T) {
 	u, e = s.Hang(2)
 	want(t, "done behind a death", e == api.OK && strings.Join(u.World().Atoms.All()[10:], " ") == "one three", true)
 	u, e = s.Hang(1)
+	w8 := connected(t, 8)
+	w8 = feed(t, feed(t, w8, 1, stream.Begin(0)), 8, stream.Begin(0)+request(7, "", 1, 32, 0, 0, 0, 0, 0, 2048))
+	w8 = feed(t, w8, 8, request(56, ""))
+	w8 = feed(t, w8, 1, request(11, "one", 0))
+	w8 = feed(t, w8, 8, request(57, ""))
+	want(t, "client 8", w8.World().Atoms.Len(), 11)
+	w8 = feed(t, w8, 1, request(58, ""))
+	w8 = feed(t, w8, 8, request(11, "eight", 0))
+	one, b := w8.Take(1, 1)
+	want(t, "one byte", len(b) == 1 && one.Queued(1) == w8.Queued(1)-1 && w8.World().Atoms.Len() == 12, true)
 	want(t, "gone with all that waits", e == api.OK && u.World().Atoms.Len() == 10, true)
 }
 

@@ -281,6 +281,29 @@ func asks(rnd *rand.Rand, client int) string {
 	return fmt.Sprintf("ask %d 6 %d %d %d %d", client, id(), []int{1, id()}[n(2)], n(9), n(9))
 }
 
+// P64.2: the ways of a pass, and that nothing comes to who is far but by one.
+func TestPasses(t *testing.T) {
+	answers(t, `screen 4 4
+		join plain 0 1 -> joined 1
+		ask 1 51 1 -> ok
+		turn 1 99 -> ok
+		lose 1 1 -> ok
+		lose 1 0 -> ok
+		turn 1 99 -> ok
+		lose 1 0 -> ok
+		read 1
+		lose 1 4 -> ok
+		lose 1 3 -> ok
+		turn 1 99 -> ok
+		read 1
+		lose 1 4 -> ok
+		turn 1 99 -> ok
+		read 1
+		lose 1 2 -> ok
+		read 1 -> answer 51 1 0
+		calm -> calm 1`)
+}
+
 // P64.4: behind any script the audit finds nothing, and its lines are the same again.
 func TestAnyScript(t *testing.T) {
 	for seed := range int64(12) {

@@ -113,7 +113,18 @@ func TestStep(t *testing.T) {
 // P57.3: the chapter's example, and which rows are drawn.
 func TestWrite(t *testing.T) {
 	x := of(t, 2, 1)
-	_, l := x.Write("A")
+	y1, l := x.Write("A")
+	rows := ""
+	for y := range 6 {
+		for _, p := range []byte(y1.Picture().Row(y)) {
+			rows += string(rune('0' + p))
+		}
+		rows += "/"
+	}
+	want(t, "pixels", rows, "11000000/10100000/11100000/10000000/11000000/00001111/")
+	small, _, e := term.New(1, 1, 1)
+	small, _ = small.Write(strings.Repeat("a\n", 200))
+	want(t, "kept lines", e == api.OK && small.Cells().Kept() == 100, true)
 	want(t, "example", drawn(t, l), "0'A ' @10")
 	y := of(t, 3, 3)
 	for _, z := range [][2]string{{"ab", "0'ab ' @20"}, {"", ""}, {"c", "0'abc'"}, {"\n", "0'abc' 1'   ' @01"}, {"\x1b[9B", "1'   ' 2'   ' @02"}, {"x\n", "0'   ' 1'x  '"}, {"\x00", ""}} {

@@ -106,6 +106,7 @@ func TestDraw(t *testing.T) {
 			want(t, "right", pack.Check(r), api.OK)
 		}
 	}
+	want(t, "a low bar", len((widget.Widget{Kind: widget.Bar, Value: 50}).Draw(5, 6, tiny(), rc(0, 0, 9, 3)))-len((widget.Widget{Kind: widget.Bar, Value: 50}).Draw(5, 6, tiny(), rc(0, 0, 9, 2))), 1)
 	for _, r := range []api.Rect{rc(0, 0, 0, 5), rc(0, 0, 5, 0), rc(0, 0, 129, 5), rc(0, 0, 5, 129), rc(4097, 0, 5, 5), rc(0, -4097, 5, 5)} {
 		want(t, "none", len(widget.Widget{}.Draw(5, 6, tiny(), r)), 0)
 	}

@@ -160,6 +160,9 @@ func TestCheck(t *testing.T) {
 		{func(w *world.World) { w.In.Keyboard = w.In.Keyboard.Begin(freeze.Active{Client: 2, Window: a}, false) }, []int{6}},
 		{func(w *world.World) { w.Claims, _, _ = w.Claims.Set(1024, claim.Claim{Client: 2, Window: a}, 5) }, []int{6}},
 		{func(w *world.World) { w.Closed = 2 }, []int{6}},
+		{func(w *world.World) { w.Claims, _, _ = w.Claims.Set(1, claim.Claim{Client: 2, Window: a}, 5) }, []int{6}},
+		{func(w *world.World) { w.In.Focus.Window = 0 }, none},
+		{func(w *world.World) { w.Canvas, _ = w.Canvas.Drop(a).Open(a, 1, 2, 9, true) }, []int{2}},
 		{func(w *world.World) { w.In.X = 4 }, []int{7}},
 		{func(w *world.World) { w.In.Under = 1 }, []int{7}},
 		{func(w *world.World) { w.In.Focus.Window = 99 }, []int{8}},
@@ -191,6 +194,8 @@ func TestText(t *testing.T) {
 	x.Clipped, x.Clip, x.X = true, []api.Rect{{X: -1, Y: 2, W: 3, H: 4}}, 5
 	w.Pens[q] = x
 	w.Claims, _, _ = w.Claims.Set(2, claim.Claim{Client: 1, Window: a, Time: 0}, 5)
+	w.Claims, _, _ = w.Claims.Set(1024, claim.Claim{Client: 1, Window: a, Time: 3}, 5)
+	w.Saves, _ = w.Saves.Change(8, a, true)
 	w.Claims, _ = w.Claims.Convert(claim.Asked{Asker: 3, Requestor: a, Selection: 2, Target: 4, Property: 9, Time: 6})
 	w.Saves, _ = w.Saves.Change(3, a, true)
 	w.In.Passive, _ = w.In.Passive.Add(passive.Grab{Client: 1, Window: a, Button: true, Code: 2, Mods: 32768, Owner: true, Mask: 12, Pointer: 1})
@@ -232,8 +237,10 @@ pen Q 3 255 0 1 0 5 0 1 -1 2 3 4
 held F 4
 font F tiny
 claim 2 1 A 5
+claim 1024 1 A 3
 asked 3 A 2 4 9 6
 save 3 A
+save 8 A
 grab 1 A 1 2 32768 1 12 1 0
 focus 1 1 0
 pointer 2 1 0 0 A 0
