@@ -92,7 +92,7 @@ func TestLooks(t *testing.T) {
 		said         string
 	}{
 		{1, 1, []int64{C + 5, 99, 0, 0, 0, 0, 0, 9, 9}, "1 fault 14 2097158 1"}, {1, 1, []int64{A, 99, 0, 0, 0, 0, 0, 9, 9}, "1 fault 14 a 1"}, {1, 1, []int64{1, 99, 0, 0, 0, 0, 0, 9, 9}, "1 fault 14 1 1"}, {1, 1, []int64{A + 5, 99, 0, 0, 0, 0, 0, 9, 9}, "1 fault 3 99 1"}, {1, 1, []int64{A + 5, C, 0, 0, 0, 0, 0, 9, 9}, "1 fault 10 c 1"},
-		{1, 1, []int64{A + 5, A, 0, 0, 0, 0, 0, 9, 9}, "1 fault 2 0 1"}, {1, 1, []int64{A + 5, A, 0, 0, 128, 129, 0, 9, 9}, "1 fault 2 129 1"}, {1, 1, []int64{A + 5, A, 0, 0, 1, 1, 0, 9, 8}, "1 fault 2 9 1"}, {1, 1, []int64{A + 5, A, 0, 0, 1, 1, 0, 1, 8}, "1 fault 2 8 1"}, {1, 1, nil, "1 fault 16 0 1"},
+		{1, 1, []int64{A + 5, A, 0, 0, 0, 0, 0, 9, 9}, "1 fault 2 0 1"}, {1, 1, []int64{A + 5, A, 0, 0, 128, 129, 0, 9, 9}, "1 fault 2 129 1"}, {1, 1, []int64{A + 5, A, 0, 0, 0, 5, 0, 0, 0}, "1 fault 2 0 1"}, {1, 1, []int64{A + 5, A, 0, 0, 129, 5, 0, 0, 0}, "1 fault 2 129 1"}, {1, 1, []int64{A + 5, A, 0, 0, 128, 1, 0, 2, 0}, "1 fault 2 2 1"}, {1, 1, []int64{A + 5, A, 0, 0, 1, 128, 0, 0, 2}, "1 fault 2 2 1"}, {1, 7, []int64{A, 8, 0, 0, 0, 2, 0, 0}, "1 fault 2 2 7"}, {1, 7, []int64{A, 16, 0, 0, 0, 0, 8191, 0}, ""}, {1, 7, []int64{A, 32, 0, 0, 0, 0, 0, 8191}, ""}, {1, 7, []int64{A, 6, 0, 10, 10, 0, 0, 0}, ""}, {1, 1, []int64{A + 5, A, 0, 0, 1, 1, 0, 9, 8}, "1 fault 2 9 1"}, {1, 1, []int64{A + 5, A, 0, 0, 1, 1, 0, 1, 8}, "1 fault 2 8 1"}, {1, 1, nil, "1 fault 16 0 1"},
 		{1, 2, []int64{99}, "1 fault 3 99 2"}, {2, 2, []int64{A}, "2 fault 10 a 2"}, {1, 2, []int64{1}, "1 fault 10 1 2"}, {3, 2, []int64{A}, "3 fault 10 a 2"},
 		{1, 3, []int64{99}, "1 fault 3 99 3"}, {2, 3, []int64{A}, "2 fault 10 a 3"}, {3, 3, []int64{1}, "3 fault 8 1 3"}, {1, 3, []int64{A}, ""}, {1, 4, []int64{99}, "1 fault 3 99 4"}, {2, 4, []int64{A}, "2 fault 10 a 4"}, {3, 4, []int64{1}, "3 fault 8 1 4"}, {1, 4, []int64{B}, ""},
 		{1, 5, []int64{99, 32, 0, 0, 0, 0, 5, 9}, "1 fault 3 99 5"}, {2, 5, []int64{A, 32, 0, 0, 0, 0, 5, 9}, "2 fault 10 a 5"}, {3, 5, []int64{1, 32, 0, 0, 0, 0, 5, 9}, "3 fault 8 1 5"}, {1, 5, []int64{A, 32, 0, 0, 0, 0, 5, 9}, "1 fault 2 32 5"}, {1, 5, []int64{A, 31, 0, 0, 0, 0, 5, 9}, "1 fault 2 0 5"}, {1, 5, []int64{A, 24, 0, 0, 0, 129, 5, 9}, "1 fault 2 129 5"}, {1, 5, []int64{A, 16, 0, 0, 0, 0, 5, 5}, "1 fault 2 5 5"},
@@ -163,6 +163,11 @@ func TestConfigure(t *testing.T) {
 	u, said := do(t, w, 1, 5, int64(a), 31, 3, 0, 4, 3, int64(c), 0)
 	want(t, "configure", said, "1 event 18 a a c 3 0 4 3 0; 2 event 18 1 a c 3 0 4 3 0; 1 event 10 a 0 0 4 3 0")
 	want(t, "Show", screen.Text(u.Show()), "0707070b0b0b0b07\n0707070b0b0b0b07\n0707070b0b0b0b07\n070707070d0d0d07\n070707070d0d0d07\n0707070707070707\n")
+	for mask, r := range map[int64]api.Rect{1: {X: 4, Y: 1, W: 3, H: 2}, 2: {X: 2, Y: 5, W: 3, H: 2}, 4: {X: 2, Y: 1, W: 6, H: 2}, 8: {X: 2, Y: 1, W: 3, H: 7}} {
+		u, _ := do(t, w, 1, 5, int64(a), mask, 4, 5, 6, 7, 0, 9)
+		b, _ := u.Place.Box(a)
+		want(t, "as the mask has it", b.X == r.X && b.Y == r.Y && b.W == r.W && b.H == r.H, true)
+	}
 	_, said = do(t, w, 1, 5, int64(a), 3, 2, 1, 9, 9, 0, 9)
 	want(t, "nothing", said, "")
 	_, said = do(t, w, 1, 5, int64(a), 16, 0, 0, 0, 0, 0, 0)
@@ -233,11 +238,15 @@ func TestDestroy(t *testing.T) {
 	w.Saves, _ = w.Saves.Change(3, b, true)
 	w.Claims, _, _ = w.Claims.Set(1, claim.Claim{Client: 1, Window: b}, 0)
 	w.Claims, _ = w.Claims.Convert(claim.Asked{Asker: 2, Requestor: c, Selection: 1, Target: 4, Property: 9, Time: 3})
+	w.Claims, _, _ = w.Claims.Set(2, claim.Claim{Client: 1, Window: m}, 0)
+	w = choice{1, 1, api.MaskMotion}.on(t, w)
 	w.In.Passive, _ = w.In.Passive.Add(passive.Grab{Client: 3, Window: b, Code: 1})
 	w.In, _, _ = route.Grab(w.In, false, freeze.Active{Client: 3, Window: 1}, 0, freeze.Sync)
 	w.In.Pointer = w.In.Pointer.Begin(freeze.Active{Client: 3, Window: a}, false)
 	u, said := do(t, w, 1, 2, int64(a))
 	want(t, "destroy", said, "1 event 16 a a; 2 event 16 1 a; 1 event 14 b b; 1 event 14 a b; 1 event 14 a a; 2 event 14 1 a; 2 event 24 c 1 4 0 3")
+	_, others := u.Claims.Owner(2)
+	want(t, "others", others && u.In.Choice.Mask(1, 1) == api.MaskMotion, true)
 	_, grabbed := u.In.Pointer.Active()
 	_, keys := u.In.Keyboard.Active()
 	want(t, "gone", grabbed || !keys || len(u.Saves.Of(3)) > 0 || len(u.In.Passive.All()) > 0 || u.In.Choice.Mask(1, a) > 0 || len(u.Props) > 0 || u.Over[b] || u.Held.Kind(b) != 0, false)

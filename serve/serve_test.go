@@ -145,6 +145,10 @@ func TestLeave(t *testing.T) {
 	want(t, "nothing is left", strings.Contains(gone, "10485") || strings.Contains(gone, "client 1\n") || strings.Contains(gone, " 1 2048"), false)
 	x, _ := u.Place.Box(api.ID(b))
 	want(t, "saved", x.X == 4 && x.Y == 3 && x.Mapped && !u.Clients[1] && u.Clients[2] && u.Closed == 0, true)
+	_, has := u.Canvas.Grid(api.ID(p))
+	want(t, "no grid", has, false)
+	u.Clients[7] = true
+	want(t, "maps of its own", w.Clients[7], false)
 	want(t, "no save set", len(u.Saves.Of(1)), 0)
 	u2, _ := serve.Join(u, 8)
 	want(t, "client 8", u2.Clients[8] && !u.Clients[8], true)

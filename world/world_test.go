@@ -64,6 +64,8 @@ func TestNew(t *testing.T) {
 		w, e := world.New(s[0], s[1], 5)
 		want(t, "New", e == api.ErrSize && w.W == 0 && w.Props == nil && grid.Same(w.Show(), grid.Grid{}), true)
 	}
+	odd, _ := world.New(7, 9, 1)
+	want(t, "the middle", odd.In.X == 3 && odd.In.Y == 4 && odd.W == 7 && odd.H == 9, true)
 	w := fresh(t)
 	want(t, "Show", screen.Text(w.Show()), "07070707\n07070707\n07070707\n")
 	want(t, "pointer", w.In.X == 2 && w.In.Y == 1 && w.In.Under == 1 && w.In.Focus.Window == 1 && w.In.Focus.Revert == 1 && w.In.Focus.Time == 0, true)
@@ -149,6 +151,25 @@ func TestCheck(t *testing.T) {
 		{func(w *world.World) { w.Props[a+9] = prop.List{} }, []int{5}},
 		{func(w *world.World) { w.Over[a+9] = true }, []int{5}},
 		{func(w *world.World) { delete(w.Pens, q) }, []int{5}},
+		{func(w *world.World) {
+			delete(w.Pens, q)
+			w.Pens[f] = pen.New()
+		}, []int{5}},
+		{func(w *world.World) {
+			// Another window, of a lesser id, that isn't mapped: with a backing it may have any pixels.
+			for _, backing := range []bool{false, true} {
+				id := api.ID(1<<20 + 20)
+				if backing {
+					id = 1<<20 + 10
+				}
+				w.In.Tree, _ = w.In.Tree.Add(id, 1)
+				w.Held, _ = w.Held.Add(1, id, held.Window)
+				w.Place, _ = w.Place.Set(id, place.Box{W: 1, H: 1})
+				w.Canvas, _ = w.Canvas.Open(id, 1, 1, 5, backing)
+			}
+			g, _ := grid.New(1, 1, 8)
+			w.Canvas, _ = w.Canvas.Lay(1<<20+10, g)
+		}, none},
 		{func(w *world.World) { w.Pens[a+9] = pen.New() }, []int{5}},
 		{func(w *world.World) { delete(w.Fonts, f) }, []int{5}},
 		{func(w *world.World) { w.Fonts[q] = "tiny" }, []int{5}},
@@ -181,7 +202,7 @@ func TestText(t *testing.T) {
 	w := full(t)
 	w.Clients[3] = true
 	w.Atoms, _, _ = w.Atoms.Intern("more", false)
-	l, _ := w.Props[a].Change(0, prop.Prop{Name: 9, Type: 4, Format: 8, Data: []int64{1, 2}})
+	l, _ := w.Props[a].Change(0, prop.Prop{Name: 9, Type: 4, Format: 8, Data: []int64{1, 12}})
 	w.Props[a], _ = l.Change(0, prop.Prop{Name: 8, Type: 5, Format: 32})
 	w.In.Choice, _ = w.In.Choice.Set(3, a, 3)
 	w.In.Choice, _ = w.In.Choice.Set(1, a, 5)
@@ -194,6 +215,7 @@ func TestText(t *testing.T) {
 	x.Clipped, x.Clip, x.X = true, []api.Rect{{X: -1, Y: 2, W: 3, H: 4}}, 5
 	w.Pens[q] = x
 	w.Claims, _, _ = w.Claims.Set(2, claim.Claim{Client: 1, Window: a, Time: 0}, 5)
+	w.Claims, _, _ = w.Claims.Set(1, claim.Claim{Client: 3, Window: a, Time: 4}, 5)
 	w.Claims, _, _ = w.Claims.Set(1024, claim.Claim{Client: 1, Window: a, Time: 3}, 5)
 	w.Saves, _ = w.Saves.Change(8, a, true)
 	w.Claims, _ = w.Claims.Convert(claim.Asked{Asker: 3, Requestor: a, Selection: 2, Target: 4, Property: 9, Time: 6})
@@ -226,7 +248,7 @@ window A 1 -1 1 2 2 1 1 1 0 6 9 0
 shape A 0 -1 2 3
 mark A 277056
 prop A 8 5 32
-prop A 9 4 8 1 2
+prop A 9 4 8 1 12
 select A 1 5
 select A 3 3
 held A 1
@@ -236,6 +258,7 @@ held Q 3
 pen Q 3 255 0 1 0 5 0 1 -1 2 3 4
 held F 4
 font F tiny
+claim 1 3 A 4
 claim 2 1 A 5
 claim 1024 1 A 3
 asked 3 A 2 4 9 6
