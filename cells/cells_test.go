@@ -36,7 +36,7 @@ func TestWrite(t *testing.T) {
 	c = c.Write("\x1b[H\x1b[2J")
 	want(t, "example", state(c), "\n\n@00")
 	for _, x := range [][2]string{
-		{"abcd", "abcd\n\n\n@40"}, {"abcde", "abcd\ne\n\n@11"}, {"abcd\n", "abcd\n\n\n@01"}, {"ab\rc", "cb\n\n\n@10"}, {"ab\bc", "ac\n\n\n@20"}, {"\b\ba", "a\n\n\n@10"}, {"abcd\bx", "abcx\n\n\n@40"}, {"a\tb", "a  b\n\n\n@40"}, {"abcd\t", "abcd\n\n\n@40"}, {"ab\x0cc", "c\n\n\n@10"},
+		{"abcd", "abcd\n\n\n@40"}, {"abcde", "abcd\ne\n\n@11"}, {"abcd\n", "abcd\n\n\n@01"}, {"ab\rc", "cb\n\n\n@10"}, {"ab\bc", "ac\n\n\n@20"}, {"\b\ba", "a\n\n\n@10"}, {"abcd\bx", "abcx\n\n\n@40"}, {"a\tb", "a  b\n\n\n@40"}, {"abcd\t", "abcd\n\n\n@40"}, {"ab\x0cc", "c\n\n\n@10"}, {"abcdefghijkl\x0c", "\n\n\n@00"}, {"a b", "a b\n\n\n@30"}, {"abcdef\x1b[H x", " xcd\nef\n\n@20"},
 		{"\x00\x7f\x80\xffa", "a\n\n\n@10"}, {"1\n2\n3\n4", "2\n3\n4\n@12"}, {"\x1b[2;3Hx", "\n  x\n\n@31"}, {"\x1b[9;9Hx", "\n\n   x\n@42"}, {"\x1b[;2Hx", " x\n\n\n@20"}, {"\x1b[0;0Hx", "x\n\n\n@10"}, {"\x1b[Bx", "\nx\n\n@11"}, {"\x1b[9Bx", "\n\nx\n@12"}, {"\x1b[2Bx\x1b[Ay", "\n y\nx\n@21"}, {"\x1b[9Ax", "x\n\n\n@10"},
 		{"\x1b[Cx", " x\n\n\n@20"}, {"\x1b[9Cx", "   x\n\n\n@40"}, {"abcd\x1b[Cx", "abcx\n\n\n@40"}, {"abc\x1b[2Dx", "axc\n\n\n@20"}, {"a\x1b[9Dx", "x\n\n\n@10"}, {"abcd\x1b[Dx", "abcx\n\n\n@40"}, {"abcd\x1b[Bx", "abcd\n\nx\n@12"},
 		{"abcdefg\x1b[1;2H\x1b[J", "a\n\n\n@10"}, {"abcdefgh\x1b[2;2H\x1b[1J", "\n  gh\n\n@11"}, {"abcdefgh\x1b[1;2H\x1b[2J", "\n\n\n@10"}, {"abcdefgh\x1b[2;2H\x1b[K", "abcd\ne\n\n@11"}, {"abcdefgh\x1b[2;2H\x1b[1K", "abcd\n  gh\n\n@11"}, {"abcdefgh\x1b[2;2H\x1b[2K", "abcd\n\n\n@11"}, {"abcd\x1b[K", "abc\n\n\n@40"}, {"abcd\x1b[1K", "\n\n\n@40"}, {"abcd\x1b[3K\x1b[3J", "abcd\n\n\n@40"},
@@ -53,6 +53,7 @@ func TestWrite(t *testing.T) {
 	want(t, "the newest ones", c.Kept() == 2 && c.Back(1) == "c " && c.Back(2) == "b ", true)
 	want(t, "none", of(t, 2, 1, 0, "a\nb\nc").Kept(), 0)
 	want(t, "tabs", state(of(t, 20, 1, 0, "123456789\tx~\t\ty")), "123456789       x~ y\n@D0")
+	want(t, "many digits", state(of(t, 20, 12, 0, "\x1b[11;12Hx")), "\n\n\n\n\n\n\n\n\n\n           x\n\n@<:")
 	w, h := of(t, 128, 64, 1000, "").Size()
 	want(t, "Size", w*100+h, 12864)
 }

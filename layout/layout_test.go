@@ -21,6 +21,11 @@ func want[T comparable](t *testing.T, what string, got, wanted T) {
 
 // P52.1
 func TestCheck(t *testing.T) {
+	chain := make([]layout.Node, 64)
+	for i := range 63 {
+		chain[i].Kids = []int{i + 1}
+	}
+	want(t, "64 nodes", layout.Check(chain...), api.OK)
 	for i, x := range []struct {
 		l []layout.Node
 		e api.Errno
@@ -45,7 +50,7 @@ func TestSplit(t *testing.T) {
 		parts       []int
 		e           api.Errno
 	}{
-		{10, []int{1, 1}, []int{1, 2}, []int{3, 7}, api.OK}, {10, []int{1, 1}, []int{0, 0}, []int{1, 9}, api.OK}, {10, []int{1, 1, 1}, []int{1, 1, 1}, []int{3, 3, 4}, api.OK}, {5, nil, nil, nil, api.OK}, {10, []int{4, 2, 1}, []int{5, 0, 0}, []int{7, 2, 1}, api.OK},
+		{10, []int{1, 1}, []int{1, 2}, []int{3, 7}, api.OK}, {10, []int{1, 1}, []int{0, 0}, []int{1, 9}, api.OK}, {10, []int{1, 1}, []int{1, 0}, []int{9, 1}, api.OK}, {10, []int{1, 1, 1}, []int{1, 1, 1}, []int{3, 3, 4}, api.OK}, {5, nil, nil, nil, api.OK}, {10, []int{4, 2, 1}, []int{5, 0, 0}, []int{7, 2, 1}, api.OK},
 		{-1, []int{1}, nil, nil, api.ErrMatch}, {-1, make([]int, 65), make([]int, 65), nil, api.ErrMany}, {-1, []int{0}, []int{0}, nil, api.ErrRange}, {1000001, []int{0}, []int{0}, nil, api.ErrRange}, {5, []int{-1}, []int{0}, nil, api.ErrRange}, {5, []int{0}, []int{1000001}, nil, api.ErrRange}, {5, []int{3, 3}, []int{0, 0}, nil, api.ErrSize}, {0, make([]int, 64), make([]int, 64), make([]int, 64), api.OK}, {1000000, []int{1000000}, []int{1000000}, []int{1000000}, api.OK},
 	} {
 		p, e := layout.Split(x.total, x.least, x.grow)
@@ -75,7 +80,7 @@ func TestPlace(t *testing.T) {
 	for _, x := range []struct {
 		r api.Rect
 		e api.Errno
-	}{{rc(0, 0, 0, 0), api.ErrRange}, {rc(1<<20, 0, 9, 9), api.ErrRange}, {rc(-1<<20, 0, 1000001, 9), api.ErrRange}, {rc(0, 0, 8, 99), api.ErrSize}, {rc(0, 0, 99, 7), api.ErrSize}, {rc(-1<<20, 0, 1000000, 9), api.OK}} {
+	}{{rc(0, 0, 0, 0), api.ErrRange}, {rc(1<<20, 0, 9, 9), api.ErrRange}, {rc(-1<<20, 0, 1000001, 9), api.ErrRange}, {rc(0, 0, 8, 99), api.ErrSize}, {rc(0, 0, 99, 7), api.ErrSize}, {rc(-1<<20, 0, 1000000, 9), api.OK}, {rc(0, -1<<20, 9, 1000000), api.OK}, {rc(0, -1<<20, 9, 1000001), api.ErrRange}} {
 		p, e := layout.Place(x.r, own...)
 		want(t, "Place", e, x.e)
 		want(t, "Place", len(p) > 0, e == api.OK)

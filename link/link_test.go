@@ -75,6 +75,8 @@ func TestExample(t *testing.T) {
 	want(t, "Cut", len(l) == 1 && l[0] == link.Packet(1, 0, 2, "") && !o.Cut().Quiet(), true)
 	_, l = u.Cut().Due()
 	want(t, "Cut", len(l), 2)
+	_, l = of(t, 1).Cut().Due()
+	want(t, "Cut", len(l), 1)
 }
 
 // P60.1: how much may be sent, and how much is under way.

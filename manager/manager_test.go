@@ -91,7 +91,7 @@ func TestNewAndSpot(t *testing.T) {
 	for _, x := range []struct {
 		client, w, h int
 		e            api.Errno
-	}{{0, 0, 0, api.ErrRange}, {9, 5, 5, api.ErrRange}, {1, 0, 5, api.ErrSize}, {1, 5, 129, api.ErrSize}, {8, 128, 128, api.OK}} {
+	}{{0, 0, 0, api.ErrRange}, {9, 5, 5, api.ErrRange}, {1, 0, 5, api.ErrSize}, {1, 5, 129, api.ErrSize}, {8, 128, 128, api.OK}, {1, 1, 1, api.OK}, {1, 5, 0, api.ErrSize}, {1, 129, 5, api.ErrSize}, {1, 5, 129, api.ErrSize}} {
 		m, l, e := manager.New(x.client, x.w, x.h)
 		want(t, "New", e == x.e && (len(l) == 4) == (e == api.OK) && len(m.Frames()) == 0, true)
 	}
@@ -128,6 +128,8 @@ func TestFraming(t *testing.T) {
 	want(t, "Frames", slices.Equal(u.Frames(), []api.ID{a, b}), true)
 	_, l = steps(t, m, mapRequest(b), size(14, 4, 4), title(15, ""))
 	want(t, "its spot", strings.HasPrefix(l, "1 g 1 12 10 6 14 200 1 1;"), true)
+	_, l = steps(t, m, mapRequest(b), size(14, 47, 29), title(15, ""))
+	want(t, "hardly room", strings.HasPrefix(l, "1 g 1 0 0 49 39 200 1 1;"), true)
 	for _, x := range [][2]int64{{127, 5}, {5, 119}} {
 		v, l := steps(t, m, mapRequest(b), size(14, x[0], x[1]), title(15, "t"))
 		_, ok := v.Frame(b)
@@ -183,7 +185,7 @@ func TestConfigure(t *testing.T) {
 		o api.Out
 		l string
 	}{
-		{ask(b, 31, -5, 6, 7, 8, int64(a), 2), "5 b 31 -5 6 7 8 a 2"}, {ask(a, 4, 9, 9, 30, 99, 0, 3), "5 a 12 0 0 30 10 0 0; 5 f 12 0 0 32 20 0 0"}, {ask(a, 8, 9, 9, 30, 118, 0, 3), "5 a 12 0 0 20 118 0 0; 5 f 12 0 0 22 128 0 0"}, {ask(a, 8, 0, 0, 0, 119, 0, 0), ""}, {ask(a, 4, 0, 0, 127, 5, 0, 0), ""}, {ask(a, 12, 0, 0, 0, 5, 0, 0), ""},
+		{ask(b, 31, -5, 6, 7, 8, int64(a), 2), "5 b 31 -5 6 7 8 a 2"}, {ask(a, 4, 9, 9, 30, 99, 0, 3), "5 a 12 0 0 30 10 0 0; 5 f 12 0 0 32 20 0 0"}, {ask(a, 8, 9, 9, 30, 118, 0, 3), "5 a 12 0 0 20 118 0 0; 5 f 12 0 0 22 128 0 0"}, {ask(a, 8, 0, 0, 0, 119, 0, 0), ""}, {ask(a, 4, 0, 0, 127, 5, 0, 0), ""}, {ask(a, 12, 0, 0, 0, 5, 0, 0), ""}, {ask(a, 12, 0, 0, 1, 1, 0, 0), "5 a 12 0 0 1 1 0 0; 5 f 12 0 0 3 11 0 0"}, {ask(a, 8, 0, 0, 0, 0, 0, 0), ""},
 		{ask(a, 1, 7, 8, 9, 9, 0, 3), "5 f 1 7 8 0 0 0 0"}, {ask(a, 2, 7, -8, 9, 9, 0, 3), "5 f 2 7 -8 0 0 0 0"}, {ask(a, 16, 7, 8, 9, 9, int64(b), 3), "5 f 16 0 0 0 0 0 3"}, {ask(a, 0, 7, 8, 9, 9, 0, 3), ""}, {ask(a, 31, 7, 8, 9, 9, 0, 1), "5 a 12 0 0 9 9 0 0; 5 f 12 0 0 11 19 0 0; 5 f 3 7 8 0 0 0 0; 5 f 16 0 0 0 0 0 1"},
 	} {
 		_, l := steps(t, m, x.o)

@@ -92,7 +92,7 @@ func TestRead(t *testing.T) {
 		n   int
 		err api.Errno
 	}{
-		{strings.Repeat("0\n", 1<<23) + "x", 0, api.ErrLong}, {"0", 1, api.ErrForm}, {"0\n\n", 2, api.ErrForm}, {"5\n", 1, api.ErrForm}, {"0\n1 1\n", 2, api.ErrForm}, {"1 1 6C\n", 1, api.ErrForm}, {"1 1 6\n", 1, api.ErrForm}, {"1 1 \n", 1, api.ErrForm}, {"1 9 -\n", 1, api.ErrForm}, {"1 0 -\n", 1, api.ErrForm}, {"01 1 -\n", 1, api.ErrForm}, {"1  1 -\n", 1, api.ErrForm}, {"1 1 - \n", 1, api.ErrForm}, {"1 1 " + strings.Repeat("61", 65537) + "\n", 1, api.ErrForm},
+		{strings.Repeat("0\n", 1<<23) + "x", 0, api.ErrLong}, {strings.Repeat("0\n", 1<<23), 8193, api.ErrFull}, {"0", 1, api.ErrForm}, {"0\n\n", 2, api.ErrForm}, {"5\n", 1, api.ErrForm}, {"0\n1 1\n", 2, api.ErrForm}, {"1 1 6C\n", 1, api.ErrForm}, {"1 1 6\n", 1, api.ErrForm}, {"1 1 \n", 1, api.ErrForm}, {"1 9 -\n", 1, api.ErrForm}, {"1 0 -\n", 1, api.ErrForm}, {"01 1 -\n", 1, api.ErrForm}, {"1  1 -\n", 1, api.ErrForm}, {"1 1 - \n", 1, api.ErrForm}, {"1 1 " + strings.Repeat("61", 65537) + "\n", 1, api.ErrForm},
 		{"2 5 0 2 -1 07\n", 1, api.ErrForm}, {"2 5 0 2 -0 7\n", 1, api.ErrForm}, {"2 5 0 2 +1 7\n", 1, api.ErrForm}, {"2 5 0 2 1 7 0\n", 1, api.ErrForm}, {"2 5 0 2 1\n", 1, api.ErrForm}, {"2 6 0 2 1 7\n", 1, api.ErrForm}, {"2 5 0 2 1 2147483648\n", 1, api.ErrForm}, {"2 5 0 2 1 4294967303\n", 1, api.ErrForm}, {"2 5 0 2 1 -1\n", 1, api.ErrForm}, {"3 1 2\n", 1, api.ErrForm}, {"0 1\n", 1, api.ErrForm}, {"-1\n", 1, api.ErrForm}, {"0\r\n", 1, api.ErrForm},
 		{strings.Repeat("0\n", 8193), 8193, api.ErrFull}, {strings.Repeat("0\n", 8192) + "x\n", 8193, api.ErrForm}, {strings.Repeat("0\n", 8192), 0, api.OK},
 	} {

@@ -91,7 +91,7 @@ func TestStep(t *testing.T) {
 	for _, y := range []struct {
 		y, h int64
 		rows string
-	}{{0, 6, "0'a  '"}, {5, 2, "0'a  ' 1'b  ' @11"}, {12, 99, "2'   ' 3'   '"}, {24, 5, ""}, {3, 0, ""}} {
+	}{{0, 6, "0'a  '"}, {6, 1, "1'b  ' @11"}, {5, 2, "0'a  ' 1'b  ' @11"}, {12, 99, "2'   ' 3'   '"}, {24, 5, ""}, {3, 0, ""}} {
 		_, l := x.Step(event(api.EvExpose, window, 0, y.y, 1, y.h, 0))
 		want(t, "expose", drawn(t, l), y.rows)
 	}

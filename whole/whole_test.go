@@ -155,6 +155,21 @@ read 2
 audit`, "event 23 2 1048577 2097153 1 4 9 0\nevent 24 2 2097153 1 4 0 0")
 }
 
+func TestClients(t *testing.T) {
+	plays(t, "the sizes of applications, and where the pointer is", `screen 70 40
+join editor 0 0
+join term 1 1
+join plain 0 0
+calm
+input 5 0 2 1 5
+ask 3 9 1048577
+ask 3 9 2097153
+ask 3 48 1
+calm
+read 3
+audit`, "answer 9 1 1 0 0 60 36 1 1\nanswer 9 2 1 0 0 48 30 1 1\nanswer 48 3 2097153 2 1 2 1 0")
+}
+
 func TestLength(t *testing.T) {
 	// draw-points of one point has five words; told as four, its last word is a no-op's head. Behind it stands get-focus.
 	plays(t, "9: read as it stands", `screen 4 4

@@ -98,7 +98,7 @@ func TestDraw(t *testing.T) {
 		s string
 	}{
 		{widget.Widget{Text: "Ab"}, begin + "36 5 6 3 9 0 Ab\n" + end}, {widget.Widget{}, begin + end}, {widget.Widget{Kind: widget.Button, Text: "A"}, begin + frame + "36 5 6 6 11 0 A\n" + end}, {widget.Widget{Kind: widget.Button, On: true}, begin + frame + "20 6 5 6 0 255 0 0\n30 5 6 : 3 4 12 10\n" + end},
-		{widget.Widget{Kind: widget.Field, Text: "ab", Cursor: 1}, begin + frame + "36 5 6 5 11 0 ab\n30 5 6 : 9 6 1 6\n" + end}, {widget.Widget{Kind: widget.Bar, Value: 55}, begin + frame + "30 5 6 : 4 5 5 8\n" + end}, {widget.Widget{Kind: widget.Bar, Value: 9}, begin + frame + end},
+		{widget.Widget{Kind: widget.Field, Text: "ab", Cursor: 1}, begin + frame + "36 5 6 5 11 0 ab\n30 5 6 : 9 6 1 6\n" + end}, {widget.Widget{Kind: widget.Bar, Value: 55}, begin + frame + "30 5 6 : 4 5 5 8\n" + end}, {widget.Widget{Kind: widget.Bar, Value: 9}, begin + frame + end}, {widget.Widget{Kind: widget.Bar, Value: 10}, begin + frame + "30 5 6 : 4 5 1 8\n" + end},
 	} {
 		l := x.w.Draw(5, 6, tiny(), rc(3, 4, 12, 10))
 		want(t, "Draw", texts(l), x.s)
@@ -110,6 +110,7 @@ func TestDraw(t *testing.T) {
 	for _, r := range []api.Rect{rc(0, 0, 0, 5), rc(0, 0, 5, 0), rc(0, 0, 129, 5), rc(0, 0, 5, 129), rc(4097, 0, 5, 5), rc(0, -4097, 5, 5)} {
 		want(t, "none", len(widget.Widget{}.Draw(5, 6, tiny(), r)), 0)
 	}
+	want(t, "the least rectangle", len(widget.Widget{}.Draw(5, 6, tiny(), rc(0, 0, 1, 1))) > 0 && len(widget.Widget{}.Draw(5, 6, tiny(), rc(-4096, 4096, 128, 128))) > 0, true)
 	for _, w := range []widget.Widget{{Kind: widget.Field, Text: strings.Repeat("a", 255), Cursor: 255}, {Kind: widget.Bar, Value: 100}} {
 		for _, r := range w.Draw(1<<32-1, 1<<32-1, tiny(), rc(4096, -4096, 1, 1)) {
 			want(t, "right", pack.Check(r), api.OK)
@@ -130,6 +131,8 @@ func TestClick(t *testing.T) {
 		w, ok := widget.Widget{Kind: widget.Bar, Value: 77}.Click(r, x, 12)
 		want(t, "Bar", w.Value == v && ok, true)
 	}
+	two, _ := widget.Widget{Kind: widget.Bar}.Click(rc(5, 5, 2, 1), 6, 5)
+	want(t, "two wide", two.Value, 100)
 	w, _ := widget.Widget{Kind: widget.Bar, Value: 7}.Click(rc(5, 5, 1, 1), 5, 5)
 	want(t, "narrow", w.Value, 0)
 	for _, x := range [][2]int{{9, 10}, {31, 10}, {10, 9}, {10, 15}} {
