@@ -60,6 +60,10 @@ func TestShort(t *testing.T) {
 		want(t, "Long", l == x[0] && e == api.OK, true)
 	}
 	want(t, "Short", image.Short(a(65537)), "")
+	back, _ := image.Long(image.Short(a(65536)))
+	want(t, "as long as may be", back, a(65536))
+	small, e := image.Unpack(1, 1, "x")
+	want(t, "one pixel", e == api.OK && small.At(0, 0) == 'x', true)
 	l, e := image.Long("\x00\x09\x80\x05")
 	want(t, "Long", l == "\x09\x05\x05\x05" && e == api.OK, true)
 	whole := strings.Repeat("\xffa", 504) + "\x8da" // 504 times 130, and 16: 65536

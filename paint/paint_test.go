@@ -69,7 +69,7 @@ func TestPlaces(t *testing.T) {
 	for op := range 16 {
 		g, tile, clip, what, other := random(rnd, 6, 5), random(rnd, 3, 4), some(rnd), some(rnd), some(rnd)
 		p := pen.Pen{Func: op, Planes: api.Pixel(rnd.Intn(256)), Fore: api.Pixel(rnd.Intn(256)), Back: api.Pixel(rnd.Intn(256))}
-		fore, back, tiled := paint.Region(g, clip, what, p), paint.Back(g, clip, what, p), paint.Tile(g, clip, what, tile, -7, 6)
+		fore, back, tiled := paint.Region(g, clip, what, p), paint.Back(g, clip, what, p), paint.Tile(g, clip, what, tile, -7, 5)
 		l := []api.Rect{rc(0, 0, 3, 3), rc(1, 1, 4, 2), rc(1, 2, 1, 1), rc(1, 2, 1, 1)}
 		rects := paint.Rects(g, clip, p, l...)
 		one := g
@@ -81,7 +81,7 @@ func TestPlaces(t *testing.T) {
 			for y := range 5 {
 				a, b, c := g.At(x, y), g.At(x, y), g.At(x, y)
 				if clip.Has(x, y) && what.Has(x, y) {
-					a, b, c = rop.Mix(op, p.Fore, a, p.Planes), rop.Mix(op, p.Back, a, p.Planes), tile.At((x+7)%3, (y+2)%4)
+					a, b, c = rop.Mix(op, p.Fore, a, p.Planes), rop.Mix(op, p.Back, a, p.Planes), tile.At((x+7)%3, (y+3)%4)
 				}
 				want(t, "Region", fore.At(x, y), a)
 				want(t, "Back", back.At(x, y), b)
@@ -91,7 +91,7 @@ func TestPlaces(t *testing.T) {
 		}
 		two := paint.Region(paint.Region(g, clip, region.Minus(what, other), p), clip, region.Meet(what, other), p)
 		want(t, "parts", grid.Same(two, fore), true)
-		want(t, "tile again", grid.Same(paint.Tile(tiled, clip, what, tile, -7, 6), tiled), true)
+		want(t, "tile again", grid.Same(paint.Tile(tiled, clip, what, tile, -7, 5), tiled), true)
 	}
 }
 

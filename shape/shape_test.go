@@ -102,6 +102,9 @@ func TestFlip(t *testing.T) {
 	r := band.Of(rc(-2, 0, 4, 1), rc(3, 1, 5, 2))
 	want(t, "across", band.Same(shape.Flip(r, 5, 2, true), band.Of(rc(3, 0, 2, 1), rc(0, 1, 2, 1))), true)
 	want(t, "down", band.Same(shape.Flip(r, 5, 2, false), band.Of(rc(0, 1, 2, 1), rc(3, 0, 2, 1))), true)
+	corner := band.Of(rc(0, 0, 2, 1))
+	want(t, "across", band.Same(shape.Flip(corner, 5, 3, true), band.Of(rc(3, 0, 2, 1))), true)
+	want(t, "down", band.Same(shape.Flip(corner, 5, 3, false), band.Of(rc(0, 2, 2, 1))), true)
 	one := band.Of(rc(0, 0, 1, 1))
 	for _, a := range []bool{false, true} {
 		want(t, "one place", band.Same(shape.Flip(r, 1, 1, a), one) && shape.Flip(one, 1, 2, a).Area() == 1 && shape.Flip(one, 2, 1, a).Area() == 1, true)
