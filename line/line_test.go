@@ -80,6 +80,7 @@ func TestNearest(t *testing.T) {
 				want(t, "nearest", -dx <= d && d < dx, true)
 			}
 			want(t, "On", line.On(a, b, p.X, p.Y) && !line.On(a, b, p.X, p.Y+1) == (i == len(l)-1 || l[i+1] != pt(p.X, p.Y+1)) || i > 0 && l[i-1] == pt(p.X, p.Y+1), true)
+			want(t, "On", line.On(a, b, p.X, p.Y) && !line.On(a, b, p.X+30, p.Y) && !line.On(a, b, p.X, p.Y-30), true)
 			if band.Of(r).Has(p.X, p.Y) {
 				cut = append(cut, p)
 			}
@@ -120,6 +121,8 @@ func TestPath(t *testing.T) {
 	want(t, "none", e == api.OK && len(l) == 0, true)
 	_, e = line.Path(rc(0, 0, 70000, 1), append(make([]api.Point, 4096), wrong[0])...)
 	want(t, "Path", e, api.ErrMany)
+	l, e = line.Path(rc(0, 0, 1, 1), make([]api.Point, 4096)...)
+	want(t, "4096 points", e == api.OK && len(l) == 1 && line.Region(make([]api.Point, 4096)...).Area() == 1, true)
 	_, e = line.Path(rc(0, 0, 70000, 1), wrong[0])
 	want(t, "Path", e, api.ErrRange)
 	_, e = line.Path(rc(0, 0, 70000, 1), pt(-m, 0), pt(m, 0))

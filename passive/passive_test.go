@@ -28,6 +28,7 @@ func button(client int, w api.ID, code, mods int) passive.Grab {
 
 // P38.1
 func TestAdd(t *testing.T) {
+	want(t, "constants", passive.AnyCode == 0 && passive.AnyMods == 32768, true)
 	u := add(t, passive.Table{}, button(1, 7, 1, 4))
 	for _, x := range []struct {
 		g passive.Grab

@@ -48,6 +48,8 @@ func TestChange(t *testing.T) {
 	want(t, "Change", e == api.OK && pen.Same(q, pen.Pen{Func: 6, Planes: 255, Fore: 9, Back: 1}), true)
 	q, e = pen.New().Change(31, 15, 255, 254, 253, 1<<32-1)
 	want(t, "Change", e == api.OK && pen.Same(q, pen.Pen{Func: 15, Planes: 255, Fore: 254, Back: 253, Font: 1<<32 - 1}), true)
+	q, e = pen.New().Change(31, 0, 0, 0, 0, 0)
+	want(t, "zeros", e == api.OK && pen.Same(q, pen.Pen{}), true)
 	for _, x := range []struct {
 		mask int
 		n    []int64

@@ -95,6 +95,10 @@ func TestWrong(t *testing.T) {
 	want(t, "places", poly.Inside(0, m+1, 0, l...) || poly.Inside(0, -m-1, 0, l...) || poly.Turns(m+1, 0, l...) != 0, false)
 	most := append(make([]api.Point, 253), l...)
 	want(t, "256 corners", poly.Twice(most...) == 16 && poly.Inside(0, 0, 0, most...) && poly.Turns(0, 0, most...) != 0, true)
+	many, e := poly.Region(0, most...)
+	want(t, "256 corners", e == api.OK && many.Area() == 6, true)
+	over := append(most, api.Point{})
+	want(t, "257 corners", poly.Twice(over...) == 0 && !poly.Inside(0, 0, 0, over...) && poly.Turns(0, 0, over...) == 0, true)
 	for _, bad := range [][]api.Point{nil, l[:2], append(slices.Clone(l), pt(m+1, 0)), append(slices.Clone(l), pt(0, -m-1)), make([]api.Point, 257)} {
 		want(t, "corners", poly.Inside(0, 0, 0, bad...) || poly.Turns(0, 0, bad...) != 0 || poly.Twice(bad...) != 0, false)
 	}
